@@ -1,0 +1,155 @@
+package zint_test
+
+import (
+	"cmp"
+	"fmt"
+	"math"
+	"math/bits"
+	"testing"
+
+	"tessel/api"
+	"tessel/nat"
+	"tessel/zint"
+)
+
+func TestFrom(t *testing.T) { // P2.1
+	for _, c := range []struct {
+		n    int64
+		want api.Z
+	}{
+		{0, api.Z{}}, {1, api.Z{Mag: []uint32{1}}}, {-1, api.Z{Neg: true, Mag: []uint32{1}}},
+		{1<<32 - 1, api.Z{Mag: []uint32{1<<32 - 1}}}, {1 << 32, api.Z{Mag: []uint32{0, 1}}}, {-1 << 32, api.Z{Neg: true, Mag: []uint32{0, 1}}},
+		{math.MaxInt64, api.Z{Mag: []uint32{1<<32 - 1, 1<<31 - 1}}}, {-math.MaxInt64, api.Z{Neg: true, Mag: []uint32{1<<32 - 1, 1<<31 - 1}}},
+		{math.MinInt64, api.Z{Neg: true, Mag: []uint32{0, 1 << 31}}},
+	} {
+		is(t, fmt.Sprint("From ", c.n), zint.From(c.n), c.want)
+	}
+}
+
+func TestInt(t *testing.T) { // P2.1
+	for _, n := range append(smalls(), math.MaxInt64, math.MaxInt64-1, math.MinInt64, math.MinInt64+1) {
+		for _, a := range []api.Z{z(n), longer(z(n)), zint.From(n)} {
+			if got, ok := zint.Int(a); got != n || !ok {
+				t.Errorf("Int(%v): %d, %v, want %d", a, got, ok, n)
+			}
+		}
+	}
+	for _, a := range []api.Z{
+		power2(63), more1(power2(63)), minus(more1(power2(63))), less1(power2(64)), minus(less1(power2(64))), power2(64), minus(power2(64)), number(true, 0, 1<<31, 1), number(false, 5, 0, 0, 1),
+	} {
+		for _, b := range []api.Z{a, longer(a)} {
+			if got, ok := zint.Int(b); got != 0 || ok {
+				t.Errorf("Int(%v): %d, %v, want 0, false", b, got, ok)
+			}
+		}
+	}
+	for _, a := range noughts() {
+		if got, ok := zint.Int(a); got != 0 || !ok {
+			t.Errorf("Int(%v): %d, %v, want 0, true", a, got, ok)
+		}
+	}
+}
+
+func TestOrder(t *testing.T) { // P2.1
+	rising := []api.Z{
+		minus(power2(96)), minus(power2(65)), minus(more1(power2(64))), minus(power2(64)), z(-1 << 63), z(-1 << 32), z(-3), z(-2), z(-1),
+		z(0), z(1), z(2), z(1<<32 - 1), z(1 << 32), z(1<<32 + 1), power2(63), power2(65),
+	}
+	const zero = 9
+	for i, a := range rising {
+		for j, b := range rising {
+			want := cmp.Compare(i, j)
+			for _, got := range []int{zint.Cmp(a, b), zint.Cmp(longer(a), b), zint.Cmp(a, longer(b)), zint.Cmp(longer(a), longer(b))} {
+				if got != want {
+					t.Errorf("Cmp(%v, %v), with noughts or without: %d, want %d", a, b, got, want)
+				}
+			}
+		}
+		want := cmp.Compare(i, zero)
+		if zint.Sign(a) != want || zint.Sign(longer(a)) != want {
+			t.Errorf("Sign(%v): %d, with noughts %d, want %d", a, zint.Sign(a), zint.Sign(longer(a)), want)
+		}
+	}
+	for _, a := range noughts() {
+		for _, b := range noughts() {
+			if zint.Sign(a) != 0 || zint.Cmp(a, b) != 0 {
+				t.Errorf("0 is not 0: Sign(%v), Cmp with %v", a, b)
+			}
+		}
+		if zint.Cmp(a, z(-1)) != 1 || zint.Cmp(z(-1), a) != -1 || zint.Cmp(a, z(1)) != -1 || zint.Cmp(z(1), a) != 1 {
+			t.Errorf("%v is not between -1 and 1", a)
+		}
+	}
+}
+
+func TestAgainstMachine(t *testing.T) { // P2.1
+	for _, n := range smalls() {
+		a := z(n)
+		for _, a := range []api.Z{a, longer(a)} {
+			is(t, fmt.Sprint("Neg ", n), zint.Neg(a), z(-n))
+			is(t, fmt.Sprint("Abs ", n), zint.Abs(a), z(max(n, -n)))
+			if got := zint.Bits(a); got != bits.Len64(uint64(max(n, -n))) {
+				t.Errorf("Bits(%d): %d", n, got)
+			}
+		}
+		for _, m := range smalls() {
+			for _, b := range []api.Z{z(m), longer(z(m))} {
+				is(t, fmt.Sprint(n, " + ", m), zint.Add(a, b), z(n+m))
+				is(t, fmt.Sprint(n, " - ", m), zint.Sub(a, b), z(n-m))
+				is(t, fmt.Sprint(m, " - ", n), zint.Sub(b, a), z(m-n))
+				is(t, fmt.Sprint(n, " * ", m), zint.Mul(a, b), product(n, m))
+				if zint.Cmp(a, b) != cmp.Compare(n, m) {
+					t.Errorf("Cmp(%d, %d): %d", n, m, zint.Cmp(a, b))
+				}
+			}
+		}
+	}
+}
+
+// product tells n m, whose amount may be greater than an int64's.
+func product(n, m int64) api.Z {
+	high, low := bits.Mul64(uint64(max(n, -n)), uint64(max(m, -m)))
+	return number((n < 0) != (m < 0), uint32(low), uint32(low>>32), uint32(high), uint32(high>>32))
+}
+
+func TestSumsAgainstNat(t *testing.T) { // P2.1, on long numbers: amounts by nat, signs by cases
+	d := dice(2)
+	for range 2000 {
+		a, b := d.number(8), d.number(8)
+		amount := func(a, b api.Z) []uint32 { c, _ := nat.Sub(a.Mag, b.Mag); return c }
+		sum := number(a.Neg, nat.Add(a.Mag, b.Mag)...)
+		if a.Neg != b.Neg && nat.Cmp(a.Mag, b.Mag) >= 0 {
+			sum = number(a.Neg, amount(a, b)...)
+		} else if a.Neg != b.Neg {
+			sum = number(b.Neg, amount(b, a)...)
+		}
+		is(t, fmt.Sprint(a, " + ", b), zint.Add(a, b), sum)
+		is(t, fmt.Sprint(a, " - -", b), zint.Sub(a, minus(b)), sum)
+		is(t, fmt.Sprint(a, " * ", b), zint.Mul(a, b), number(a.Neg != b.Neg, nat.Mul(a.Mag, b.Mag)...))
+		is(t, "Neg", zint.Neg(a), minus(a))
+		is(t, "Abs", zint.Abs(a), number(false, canon(a).Mag...))
+		if zint.Bits(a) != nat.Bits(a.Mag) {
+			t.Errorf("Bits(%v): %d", a, zint.Bits(a))
+		}
+	}
+}
+
+func TestRing(t *testing.T) { // P2.5
+	d := dice(3)
+	for range 1000 {
+		a, b, c := d.number(8), d.number(8), d.number(8)
+		is(t, "a + b = b + a", zint.Add(a, b), zint.Add(b, a))
+		is(t, "a b = b a", zint.Mul(a, b), zint.Mul(b, a))
+		is(t, "a + (b + c) = (a + b) + c", zint.Add(a, zint.Add(b, c)), zint.Add(zint.Add(a, b), c))
+		is(t, "a (b c) = (a b) c", zint.Mul(a, zint.Mul(b, c)), zint.Mul(zint.Mul(a, b), c))
+		is(t, "a (b + c) = a b + a c", zint.Mul(a, zint.Add(b, c)), zint.Add(zint.Mul(a, b), zint.Mul(a, c)))
+		is(t, "a + 0 = a", zint.Add(a, z(0)), canon(a))
+		is(t, "a 1 = a", zint.Mul(a, z(1)), canon(a))
+		is(t, "a + -a = 0", zint.Add(a, zint.Neg(a)), z(0))
+		is(t, "a - b = a + -b", zint.Sub(a, b), zint.Add(a, zint.Neg(b)))
+		is(t, "a b - b a = 0", zint.Sub(zint.Mul(a, b), zint.Mul(b, a)), z(0))
+		if zint.Cmp(a, b) != zint.Sign(zint.Sub(a, b)) || zint.Cmp(a, b) != zint.Cmp(zint.Add(a, c), zint.Add(b, c)) {
+			t.Errorf("Cmp(%v, %v) does not go along with differences or sums", a, b)
+		}
+	}
+}
