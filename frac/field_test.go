@@ -8,6 +8,7 @@ import (
 
 	"tessel/api"
 	"tessel/frac"
+	"tessel/proof"
 	"tessel/zint"
 )
 
@@ -45,7 +46,7 @@ func TestMakeSmall(t *testing.T) { // P3.1
 	smalls(40, func(n, d int64) {
 		got, e := frac.Make(z(n), z(d))
 		taken(t, fmt.Sprintf("Make(%d, %d)", n, d), got, e, low(n, d))
-		got, e = frac.Make(longerZ(z(n)), longerZ(z(d)))
+		got, e = frac.Make(proof.Longer(z(n)), proof.Longer(z(d)))
 		taken(t, fmt.Sprintf("Make(%d, %d) with noughts", n, d), got, e, low(n, d))
 	})
 }
@@ -55,9 +56,9 @@ func TestMakeEdges(t *testing.T) { // P3.1
 		n, d api.Z
 		want api.Q
 	}{
-		{z(6), z(-4), q(-3, 2)}, {z(0), z(-3), q(0, 1)}, {api.Z{Neg: true}, z(-1), q(0, 1)}, {z(math.MinInt64), z(-1), api.Q{Num: power2(63), Den: z(1)}},
-		{z(1), z(math.MinInt64), api.Q{Num: z(-1), Den: power2(63)}}, {z(math.MinInt64), z(math.MinInt64), q(1, 1)},
-		{power2(200), power2(199), q(2, 1)}, {power2(199), power2(200), q(1, 2)}, {zint.Neg(power2(64)), power2(64), q(-1, 1)},
+		{z(6), z(-4), q(-3, 2)}, {z(0), z(-3), q(0, 1)}, {api.Z{Neg: true}, z(-1), q(0, 1)}, {z(math.MinInt64), z(-1), api.Q{Num: proof.Power2(63), Den: z(1)}},
+		{z(1), z(math.MinInt64), api.Q{Num: z(-1), Den: proof.Power2(63)}}, {z(math.MinInt64), z(math.MinInt64), q(1, 1)},
+		{proof.Power2(200), proof.Power2(199), q(2, 1)}, {proof.Power2(199), proof.Power2(200), q(1, 2)}, {zint.Neg(proof.Power2(64)), proof.Power2(64), q(-1, 1)},
 	} {
 		got, e := frac.Make(c.n, c.d)
 		taken(t, fmt.Sprintf("Make(%v, %v)", c.n, c.d), got, e, c.want)
@@ -69,10 +70,10 @@ func TestMakeEdges(t *testing.T) { // P3.1
 }
 
 func TestMakeLong(t *testing.T) { // P3.1
-	d := dice(2)
+	d := proof.Dice(2)
 	for range 1500 {
-		common := d.divisor(4)
-		n, m := zint.Mul(common, d.whole(6)), zint.Mul(common, d.divisor(6))
+		common := d.ZNotZero(4)
+		n, m := zint.Mul(common, d.Z(6)), zint.Mul(common, d.ZNotZero(6))
 		got, e := frac.Make(n, m)
 		amounts(t, fmt.Sprintf("Make(%v, %v)", n, m), got, e, n, m)
 	}
@@ -102,7 +103,7 @@ func TestFieldForms(t *testing.T) { // P3.1: digits 0 at the top, Neg of 0, sign
 				want, wantE := o.play(q(n, d), q(m, c))
 				for _, a := range forms(q(n, d)) {
 					for _, b := range forms(q(m, c)) {
-						if got, e := o.play(a, b); e != wantE || !alike(got, want) {
+						if got, e := o.play(a, b); e != wantE || !proof.Alike(got, want) {
 							t.Errorf("%s(%v, %v): %v, error %d, want %v, error %d", o.name, a, b, got, e, want, wantE)
 						}
 					}
@@ -144,7 +145,7 @@ func TestDenZero(t *testing.T) { // each call but Of and Parse: a Den of 0, on e
 }
 
 func TestQuoByZero(t *testing.T) { // P3.1
-	for _, a := range []api.Q{q(0, 1), q(1, 2), q(-3, 1), {Num: power2(100), Den: z(-3)}} {
+	for _, a := range []api.Q{q(0, 1), q(1, 2), q(-3, 1), {Num: proof.Power2(100), Den: z(-3)}} {
 		for _, b := range forms(q(0, 7)) {
 			got, e := frac.Quo(a, b)
 			refused(t, fmt.Sprintf("Quo(%v, %v)", a, b), got, e, api.ErrZero)
@@ -153,9 +154,9 @@ func TestQuoByZero(t *testing.T) { // P3.1
 }
 
 func TestFieldLong(t *testing.T) { // P3.1: the only answer, on long numbers
-	d := dice(3)
+	d := proof.Dice(3)
 	for range 1500 {
-		a, b := d.rational(6), d.rational(6)
+		a, b := rational(&d, 6), rational(&d, 6)
 		what := fmt.Sprintf("of %v and %v", a, b)
 		left, right, den := zint.Mul(a.Num, b.Den), zint.Mul(b.Num, a.Den), zint.Mul(a.Den, b.Den)
 		got, e := frac.Add(a, b)
@@ -178,8 +179,8 @@ func TestCmpSmall(t *testing.T) { // P3.1
 		smalls(6, func(m, c int64) {
 			// n / d and m / c times the square of d c: so that no sign of a denominator turns the order.
 			want := cmp.Compare(n*d*c*c, m*c*d*d)
-			for _, a := range []api.Q{q(n, d), longer(q(n, d))} {
-				for _, b := range []api.Q{q(m, c), longer(q(m, c))} {
+			for _, a := range []api.Q{q(n, d), proof.Longer(q(n, d))} {
+				for _, b := range []api.Q{q(m, c), proof.Longer(q(m, c))} {
 					if got, e := frac.Cmp(a, b); got != want || e != api.OK {
 						t.Errorf("Cmp(%d/%d, %d/%d): %d, error %d, want %d", n, d, m, c, got, e, want)
 					}
@@ -191,7 +192,7 @@ func TestCmpSmall(t *testing.T) { // P3.1
 
 func TestCmpNear(t *testing.T) { // P3.1: numbers that no float tells apart
 	near := func(n int64) api.Q {
-		return api.Q{Num: zint.Add(power2(300), z(n)), Den: zint.Sub(power2(290), z(n))}
+		return api.Q{Num: zint.Add(proof.Power2(300), z(n)), Den: zint.Sub(proof.Power2(290), z(n))}
 	}
 	for n := int64(-3); n <= 3; n++ {
 		for m := int64(-3); m <= 3; m++ {
@@ -218,15 +219,15 @@ func must(t *testing.T) func(a api.Q, e api.Errno) api.Q {
 }
 
 func TestFieldLaws(t *testing.T) { // P3.4
-	d, ok := dice(4), must(t)
+	d, ok := proof.Dice(4), must(t)
 	same := func(what string, a, b api.Q) {
 		t.Helper()
-		if !alike(a, b) {
+		if !proof.Alike(a, b) {
 			t.Errorf("%s: %v, %v", what, a, b)
 		}
 	}
 	for range 600 {
-		a, b, c := d.rational(5), d.rational(5), d.rational(5)
+		a, b, c := rational(&d, 5), rational(&d, 5), rational(&d, 5)
 		same("a + b = b + a", ok(frac.Add(a, b)), ok(frac.Add(b, a)))
 		same("a b = b a", ok(frac.Mul(a, b)), ok(frac.Mul(b, a)))
 		same("a + (b + c) = (a + b) + c", ok(frac.Add(a, ok(frac.Add(b, c)))), ok(frac.Add(ok(frac.Add(a, b)), c)))

@@ -9,6 +9,7 @@ import (
 
 	"tessel/api"
 	"tessel/frac"
+	"tessel/proof"
 	"tessel/zint"
 )
 
@@ -22,9 +23,9 @@ func ofFloat(x float64) api.Q {
 	odd := bits.TrailingZeros64(uint64(amount))
 	amount, power = amount>>odd, power+odd
 	if power < 0 {
-		return api.Q{Num: z(amount), Den: power2(-power)}
+		return api.Q{Num: z(amount), Den: proof.Power2(-power)}
 	}
-	return api.Q{Num: zint.Mul(z(amount), power2(power)), Den: z(1)}
+	return api.Q{Num: zint.Mul(z(amount), proof.Power2(power)), Den: z(1)}
 }
 
 func isOf(t *testing.T, x float64, want api.Q) {
@@ -35,16 +36,16 @@ func isOf(t *testing.T, x float64, want api.Q) {
 
 func TestOfEdges(t *testing.T) { // P3.1: 0 and -0, subnormal floats, the greatest, powers of two
 	noughtPointOne := api.Q{Num: z(3602879701896397), Den: z(36028797018963968)}
-	greatest := zint.Mul(z(1<<53-1), power2(971))
+	greatest := zint.Mul(z(1<<53-1), proof.Power2(971))
 	for _, c := range []struct {
 		x    float64
 		want api.Q
 	}{
 		{0, q(0, 1)}, {1, q(1, 1)}, {0.5, q(1, 2)}, {1.5, q(3, 2)}, {3, q(3, 1)}, {10, q(10, 1)}, {0.1, noughtPointOne}, {1 << 60, q(1<<60, 1)}, {1<<53 - 1, q(1<<53-1, 1)}, {1 << 53, q(1<<53, 1)}, {1<<53 + 2, q(1<<53+2, 1)},
-		{math.Ldexp(1, -1074), api.Q{Num: z(1), Den: power2(1074)}}, {math.Ldexp(3, -1074), api.Q{Num: z(3), Den: power2(1074)}}, {math.Ldexp(6, -1074), api.Q{Num: z(3), Den: power2(1073)}},
-		{math.Ldexp(1<<52-1, -1074), api.Q{Num: z(1<<52 - 1), Den: power2(1074)}}, {math.Ldexp(1, -1022), api.Q{Num: z(1), Den: power2(1022)}}, {math.Ldexp(1<<52+1, -1074), api.Q{Num: z(1<<52 + 1), Den: power2(1074)}},
-		{math.Ldexp(1<<53-1, -1074), api.Q{Num: z(1<<53 - 1), Den: power2(1074)}}, {math.Ldexp(1<<52+1, -1073), api.Q{Num: z(1<<52 + 1), Den: power2(1073)}},
-		{math.MaxFloat64, api.Q{Num: greatest, Den: z(1)}}, {math.Ldexp(1, 1023), api.Q{Num: power2(1023), Den: z(1)}}, {1 + math.Ldexp(1, -52), api.Q{Num: z(1<<52 + 1), Den: power2(52)}},
+		{math.Ldexp(1, -1074), api.Q{Num: z(1), Den: proof.Power2(1074)}}, {math.Ldexp(3, -1074), api.Q{Num: z(3), Den: proof.Power2(1074)}}, {math.Ldexp(6, -1074), api.Q{Num: z(3), Den: proof.Power2(1073)}},
+		{math.Ldexp(1<<52-1, -1074), api.Q{Num: z(1<<52 - 1), Den: proof.Power2(1074)}}, {math.Ldexp(1, -1022), api.Q{Num: z(1), Den: proof.Power2(1022)}}, {math.Ldexp(1<<52+1, -1074), api.Q{Num: z(1<<52 + 1), Den: proof.Power2(1074)}},
+		{math.Ldexp(1<<53-1, -1074), api.Q{Num: z(1<<53 - 1), Den: proof.Power2(1074)}}, {math.Ldexp(1<<52+1, -1073), api.Q{Num: z(1<<52 + 1), Den: proof.Power2(1073)}},
+		{math.MaxFloat64, api.Q{Num: greatest, Den: z(1)}}, {math.Ldexp(1, 1023), api.Q{Num: proof.Power2(1023), Den: z(1)}}, {1 + math.Ldexp(1, -52), api.Q{Num: z(1<<52 + 1), Den: proof.Power2(52)}},
 	} {
 		isOf(t, c.x, c.want)
 		isOf(t, -c.x, api.Q{Num: zint.Neg(c.want.Num), Den: c.want.Den})
@@ -60,9 +61,9 @@ func TestOfNotFinite(t *testing.T) { // P3.1
 }
 
 func TestOfEachExponent(t *testing.T) { // P3.1
-	d := dice(5)
+	d := proof.Dice(5)
 	for exponent := range uint64(2047) {
-		odd := uint64(d.next(1<<26))<<26 | uint64(d.next(1<<26))
+		odd := uint64(d.Next(1<<26))<<26 | uint64(d.Next(1<<26))
 		for _, fraction := range []uint64{0, 1, 1 << 51, 1<<52 - 1, odd} {
 			x := math.Float64frombits(exponent<<52 | fraction)
 			isOf(t, x, ofFloat(x))
@@ -72,9 +73,9 @@ func TestOfEachExponent(t *testing.T) { // P3.1
 }
 
 func TestOfExactText(t *testing.T) { // P3.1: whole floats, held against the library's digits
-	d := dice(6)
+	d := proof.Dice(6)
 	for range 300 {
-		x := math.Ldexp(float64(d.next(1<<30)+1), d.next(990))
+		x := math.Ldexp(float64(d.Next(1<<30)+1), d.Next(990))
 		got, e := frac.Of(x)
 		text, _ := frac.Text(got)
 		if want := strconv.FormatFloat(x, 'f', 0, 64); e != api.OK || text != want {

@@ -7,6 +7,7 @@ import (
 
 	"tessel/api"
 	"tessel/frac"
+	"tessel/proof"
 	"tessel/zint"
 )
 
@@ -18,7 +19,7 @@ func TestRoundingsSmall(t *testing.T) { // P3.2: halves above and below 0 among 
 		}
 		floor := int64(math.Floor(float64(m) / float64(c)))
 		half := int64(math.Floor((2*float64(m) + float64(c)) / (2 * float64(c))))
-		for _, a := range []api.Q{q(n, d), longer(q(n, d))} {
+		for _, a := range []api.Q{q(n, d), proof.Longer(q(n, d))} {
 			got, e := frac.Floor(a)
 			takenZ(t, fmt.Sprintf("Floor(%d/%d)", n, d), got, e, z(floor))
 			got, e = frac.Round(a)
@@ -28,7 +29,7 @@ func TestRoundingsSmall(t *testing.T) { // P3.2: halves above and below 0 among 
 }
 
 func TestHalves(t *testing.T) { // P3.2
-	for _, k := range []api.Z{z(0), z(1), z(-1), z(2), z(-2), z(1 << 40), z(-1 << 62), power2(90), zint.Neg(power2(90))} {
+	for _, k := range []api.Z{z(0), z(1), z(-1), z(2), z(-2), z(1 << 40), z(-1 << 62), proof.Power2(90), zint.Neg(proof.Power2(90))} {
 		half := api.Q{Num: zint.Add(zint.Add(k, k), z(1)), Den: z(2)}
 		above := zint.Add(k, z(1))
 		for _, a := range forms(half) {
@@ -39,8 +40,8 @@ func TestHalves(t *testing.T) { // P3.2
 		}
 		// A little less than the half, and a little more.
 		for side, want := range map[int64]api.Z{-1: k, 1: above} {
-			den := power2(80)
-			a := api.Q{Num: zint.Add(zint.Add(zint.Mul(k, den), power2(79)), z(side)), Den: den}
+			den := proof.Power2(80)
+			a := api.Q{Num: zint.Add(zint.Add(zint.Mul(k, den), proof.Power2(79)), z(side)), Den: den}
 			got, e := frac.Round(a)
 			takenZ(t, fmt.Sprintf("Round(%v), beside a half", a), got, e, want)
 		}
@@ -48,7 +49,7 @@ func TestHalves(t *testing.T) { // P3.2
 }
 
 func TestRoundingLaws(t *testing.T) { // P3.2, P3.4
-	d, ok := dice(7), must(t)
+	d, ok := proof.Dice(7), must(t)
 	inRange := func(what string, rest, from, below api.Q) {
 		t.Helper()
 		low, _ := frac.Cmp(rest, from)
@@ -58,12 +59,12 @@ func TestRoundingLaws(t *testing.T) { // P3.2, P3.4
 		}
 	}
 	for range 1000 {
-		a := d.rational(6)
+		a := rational(&d, 6)
 		floor, e := frac.Floor(a)
-		takenZ(t, "Floor, canonical", floor, e, number(floor.Neg, floor.Mag...))
+		takenZ(t, "Floor, canonical", floor, e, proof.Number(floor.Neg, floor.Mag...))
 		inRange("a - Floor(a)", ok(frac.Sub(a, api.Q{Num: floor, Den: z(1)})), q(0, 1), q(1, 1))
 		round, e := frac.Round(a)
-		takenZ(t, "Round, canonical", round, e, number(round.Neg, round.Mag...))
+		takenZ(t, "Round, canonical", round, e, proof.Number(round.Neg, round.Mag...))
 		inRange("a - Round(a)", ok(frac.Sub(a, api.Q{Num: round, Den: z(1)})), q(-1, 2), q(1, 2))
 	}
 }
@@ -72,7 +73,7 @@ func TestPowSmall(t *testing.T) { // P3.2
 	smalls(7, func(n, d int64) {
 		num, den := int64(1), int64(1)
 		for k := range 12 {
-			for _, a := range []api.Q{q(n, d), longer(q(n, d))} {
+			for _, a := range []api.Q{q(n, d), proof.Longer(q(n, d))} {
 				got, e := frac.Pow(a, k)
 				amounts(t, fmt.Sprintf("Pow(%d/%d, %d)", n, d, k), got, e, z(num), z(den))
 			}
@@ -107,7 +108,7 @@ func TestPowAnyN(t *testing.T) { // P3.2: of 0, 1 and -1 all powers are taken
 
 func TestPowBelowZero(t *testing.T) { // P3.2
 	for _, n := range []int{-1, -2, -65537, math.MinInt} {
-		for _, a := range []api.Q{q(0, 1), q(1, 1), q(-1, 1), q(1, 2), q(-7, 3), longer(q(2, -1)), {Num: power2(70000), Den: z(1)}} {
+		for _, a := range []api.Q{q(0, 1), q(1, 1), q(-1, 1), q(1, 2), q(-7, 3), proof.Longer(q(2, -1)), {Num: proof.Power2(70000), Den: z(1)}} {
 			got, e := frac.Pow(a, n)
 			refused(t, fmt.Sprintf("Pow(%v, %d)", a, n), got, e, api.ErrArg)
 		}
@@ -116,14 +117,14 @@ func TestPowBelowZero(t *testing.T) { // P3.2
 
 // sized tells numbers of so many bits: the least, the greatest, and one between.
 func sized(size int) []api.Z {
-	return []api.Z{power2(size - 1), zint.Sub(power2(size), z(1)), zint.Add(power2(size-1), z(1))}
+	return []api.Z{proof.Power2(size - 1), zint.Sub(proof.Power2(size), z(1)), zint.Add(proof.Power2(size-1), z(1))}
 }
 
 func TestPowLimit(t *testing.T) { // P3.2: at the border of ErrLimit, by the numerator's bits and by the denominator's
 	for _, size := range []int{2, 3, 5, 31, 32, 33, 64, 255, 1000, 32767, 32768, 32769, 65535, 65536, 65537, 65568, 131072} {
 		top := api.MaxShift / size
 		for _, a := range sized(size) {
-			for _, b := range []api.Q{{Num: a, Den: z(1)}, {Num: z(1), Den: a}, {Num: zint.Neg(a), Den: z(1)}, {Num: z(-1), Den: a}, longer(times(api.Q{Num: a, Den: z(1)}, z(-3)))} {
+			for _, b := range []api.Q{{Num: a, Den: z(1)}, {Num: z(1), Den: a}, {Num: zint.Neg(a), Den: z(1)}, {Num: z(-1), Den: a}, proof.Longer(times(api.Q{Num: a, Den: z(1)}, z(-3)))} {
 				for _, n := range []int{top + 1, top + 2, math.MaxInt} {
 					got, e := frac.Pow(b, n)
 					refused(t, fmt.Sprintf("Pow of %d bits, %d", size, n), got, e, api.ErrLimit)
@@ -141,18 +142,18 @@ func TestPowLimit(t *testing.T) { // P3.2: at the border of ErrLimit, by the num
 func TestPowOfTwoAtLimit(t *testing.T) { // P3.2
 	for n := 1; n <= 32768; n = n*2 + n%3%2 {
 		got, e := frac.Pow(q(2, 1), n)
-		taken(t, fmt.Sprint("2^", n), got, e, api.Q{Num: power2(n), Den: z(1)})
+		taken(t, fmt.Sprint("2^", n), got, e, api.Q{Num: proof.Power2(n), Den: z(1)})
 		got, e = frac.Pow(q(3, 6), n)
-		taken(t, fmt.Sprint("(1/2)^", n), got, e, api.Q{Num: z(1), Den: power2(n)})
+		taken(t, fmt.Sprint("(1/2)^", n), got, e, api.Q{Num: z(1), Den: proof.Power2(n)})
 	}
 	got, e := frac.Pow(q(-2, 1), 32768)
-	taken(t, "(-2)^32768", got, e, api.Q{Num: power2(32768), Den: z(1)})
+	taken(t, "(-2)^32768", got, e, api.Q{Num: proof.Power2(32768), Den: z(1)})
 	got, e = frac.Pow(q(1, -2), 32767)
-	taken(t, "(-1/2)^32767", got, e, api.Q{Num: z(-1), Den: power2(32767)})
+	taken(t, "(-1/2)^32767", got, e, api.Q{Num: z(-1), Den: proof.Power2(32767)})
 }
 
 func TestPowLowestTerms(t *testing.T) { // P3.2: the limit goes by lowest terms
-	common := power2(70000)
+	common := proof.Power2(70000)
 	for n, want := range map[int]api.Q{0: q(1, 1), 1: q(-3, 5), 2: q(9, 25), 3: q(-27, 125)} {
 		got, e := frac.Pow(api.Q{Num: zint.Mul(common, z(-3)), Den: zint.Mul(common, z(5))}, n)
 		taken(t, fmt.Sprintf("Pow of a number with a long common divisor, %d", n), got, e, want)
@@ -170,9 +171,9 @@ func TestPowLowestTerms(t *testing.T) { // P3.2: the limit goes by lowest terms
 }
 
 func TestPowLaws(t *testing.T) { // P3.2: on long numbers
-	d, ok := dice(8), must(t)
+	d, ok := proof.Dice(8), must(t)
 	for range 150 {
-		a, n, m := d.rational(4), d.next(20), d.next(20)
+		a, n, m := rational(&d, 4), d.Next(20), d.Next(20)
 		product := ok(frac.Mul(ok(frac.Pow(a, n)), ok(frac.Pow(a, m))))
 		got, e := frac.Pow(a, n+m)
 		taken(t, fmt.Sprintf("Pow(%v, %d + %d)", a, n, m), got, e, product)

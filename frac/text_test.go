@@ -8,6 +8,7 @@ import (
 
 	"tessel/api"
 	"tessel/frac"
+	"tessel/proof"
 	"tessel/zint"
 )
 
@@ -20,13 +21,13 @@ func TestText(t *testing.T) { // P3.3
 		if den != 1 {
 			want += "/" + strconv.FormatInt(den, 10)
 		}
-		for _, a := range []api.Q{q(n, d), longer(q(n, d))} {
+		for _, a := range []api.Q{q(n, d), proof.Longer(q(n, d))} {
 			if got, e := frac.Text(a); got != want || e != api.OK {
 				t.Errorf("Text(%d/%d): %s, error %d, want %s", n, d, got, e, want)
 			}
 		}
 	})
-	long := api.Q{Num: zint.Neg(power2(64)), Den: zint.Add(power2(65), z(1))}
+	long := api.Q{Num: zint.Neg(proof.Power2(64)), Den: zint.Add(proof.Power2(65), z(1))}
 	for _, a := range forms(long) {
 		if got, e := frac.Text(a); got != "-18446744073709551616/36893488147419103233" || e != api.OK {
 			t.Errorf("Text(%v): %s, error %d", a, got, e)
@@ -40,7 +41,7 @@ func TestParse(t *testing.T) { // P3.3
 		want api.Q
 	}{
 		{"0", q(0, 1)}, {"-0", q(0, 1)}, {"7", q(7, 1)}, {"-007", q(-7, 1)}, {"0/5", q(0, 1)}, {"-0/5", q(0, 1)}, {"6/4", q(3, 2)}, {"-6/4", q(-3, 2)}, {"-03/06", q(-1, 2)}, {"12/3", q(4, 1)}, {"3/1", q(3, 1)}, {"5/005", q(1, 1)}, {"1/0000000000000000000000002", q(1, 2)},
-		{"18446744073709551616", api.Q{Num: power2(64), Den: z(1)}}, {"-1/18446744073709551616", api.Q{Num: z(-1), Den: power2(64)}}, {"36893488147419103232/18446744073709551616", q(2, 1)},
+		{"18446744073709551616", api.Q{Num: proof.Power2(64), Den: z(1)}}, {"-1/18446744073709551616", api.Q{Num: z(-1), Den: proof.Power2(64)}}, {"36893488147419103232/18446744073709551616", q(2, 1)},
 	} {
 		got, e := frac.Parse(c.s)
 		taken(t, "Parse("+c.s+")", got, e, c.want)
@@ -102,9 +103,9 @@ func TestParseLongest(t *testing.T) { // P3.3: both numbers as long as they may 
 }
 
 func TestParseOfText(t *testing.T) { // P3.4
-	d, ok := dice(9), must(t)
+	d, ok := proof.Dice(9), must(t)
 	for range 500 {
-		a := d.rational(12)
+		a := rational(&d, 12)
 		text, _ := frac.Text(a)
 		got, e := frac.Parse(text)
 		taken(t, "Parse("+text+")", got, e, ok(frac.Make(a.Num, a.Den)))

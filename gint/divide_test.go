@@ -6,6 +6,7 @@ import (
 
 	"tessel/api"
 	"tessel/gint"
+	"tessel/proof"
 	"tessel/zint"
 )
 
@@ -86,12 +87,12 @@ func isSide(x, y api.Z) bool {
 }
 
 func TestDivisionsOfLong(t *testing.T) { // P4.3, P4.7: a is q b + r, and r / b in the half-open square
-	d := dice(5)
+	d := proof.Dice(5)
 	for range 600 {
-		a, b := d.whole(12), d.divisor(1+d.next(9))
+		a, b := d.G(12), d.GNotZero(1+d.Next(9))
 		what := fmt.Sprintf("RoundDiv(%s, %s)", show(a), show(b))
 		q, r, e := gint.RoundDiv(a, b)
-		taken(t, what+": q", q, e, canon(q))
+		taken(t, what+": q", q, e, proof.Canon(q))
 		taken(t, what+": r", r, e, difference(a, product(q, b)))
 		place := product(r, api.G{Re: b.Re, Im: zint.Neg(b.Im)})
 		norm := gint.Norm(b)
@@ -101,8 +102,8 @@ func TestDivisionsOfLong(t *testing.T) { // P4.3, P4.7: a is q b + r, and r / b 
 		if twice := gint.Norm(r); zint.Cmp(zint.Add(twice, twice), norm) > 0 {
 			t.Errorf("%s: the norm of %s is above half of the divisor's", what, show(r))
 		}
-		exactly(t, product(a, b), b, canon(a))
-		off := []api.G{g(1, 0), g(0, 1), g(-1, 0), g(1, -1)}[d.next(4)]
+		exactly(t, product(a, b), b, proof.Canon(a))
+		off := []api.G{g(1, 0), g(0, 1), g(-1, 0), g(1, -1)}[d.Next(4)]
 		if zint.Cmp(norm, z(2)) > 0 {
 			inexact(t, sum(product(a, b), off), b)
 		}
@@ -111,7 +112,7 @@ func TestDivisionsOfLong(t *testing.T) { // P4.3, P4.7: a is q b + r, and r / b 
 
 func TestExactEdges(t *testing.T) { // P4.3
 	for _, a := range samples() {
-		exactly(t, a, g(1, 0), canon(a))
+		exactly(t, a, g(1, 0), proof.Canon(a))
 		exactly(t, a, g(-1, 0), gint.Neg(a))
 		exactly(t, a, g(0, 1), gint.Turn(a, 3))
 		exactly(t, a, g(0, -1), gint.Turn(a, 1))

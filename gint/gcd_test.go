@@ -6,6 +6,7 @@ import (
 
 	"tessel/api"
 	"tessel/gint"
+	"tessel/proof"
 	"tessel/zint"
 )
 
@@ -22,7 +23,7 @@ func xgcdOf(a, b api.G) (h, x, y api.G) {
 	for !isZero(r) && !inFirst(r) {
 		r, x, y = product(r, g(0, 1)), product(x, g(0, 1)), product(y, g(0, 1))
 	}
-	return canon(r), canon(x), canon(y)
+	return proof.Canon(r), proof.Canon(x), proof.Canon(y)
 }
 
 func bezout(t *testing.T, a, b, h, x, y api.G) {
@@ -82,7 +83,7 @@ func TestXgcdEdges(t *testing.T) { // P4.4
 		for _, b := range noughts() {
 			bezout(t, a, b, g(0, 0), g(1, 0), g(0, 0))
 		}
-		for _, c := range []api.G{g(2, 1), g(3, 0), {Re: power2(300), Im: z(7)}} {
+		for _, c := range []api.G{g(2, 1), g(3, 0), {Re: proof.Power2(300), Im: z(7)}} {
 			for k := range 4 {
 				turned := gint.Turn(c, k)
 				bezout(t, turned, a, c, gint.Turn(g(1, 0), -k), g(0, 0))
@@ -112,9 +113,9 @@ func multiple(a, b api.G) bool {
 }
 
 func TestXgcdOfLong(t *testing.T) { // P4.4, P4.7
-	d := dice(6)
+	d := proof.Dice(6)
 	for i := range 250 {
-		a, b, c := d.whole(1+i/12), d.whole(1+i/14), d.divisor(3)
+		a, b, c := d.G(1+i/12), d.G(1+i/14), d.GNotZero(3)
 		a, b = product(a, c), product(b, c)
 		follows(t, a, b)
 		h, x, y := gint.Xgcd(a, b)
@@ -128,18 +129,18 @@ func TestXgcdOfLong(t *testing.T) { // P4.4, P4.7
 
 // TestXgcdNearSides: quotients of long numbers that lie on the square's sides and corners, or next to them, or as far from them as some digits less would tell.
 func TestXgcdNearSides(t *testing.T) { // P4.4
-	d := dice(7)
+	d := proof.Dice(7)
 	offs := []api.G{g(0, 0), g(1, 0), g(-1, 0), g(0, 1), g(0, -1), g(1, 1), g(-1, 1)}
 	for size := 1; size <= 14; size++ {
 		for k := range 12 {
-			half := api.G{Re: zint.Add(d.part(size), power2(32*size)), Im: d.part(size)}
+			half := api.G{Re: zint.Add(d.Z(size), proof.Power2(32*size)), Im: d.Z(size)}
 			half = gint.Turn(half, k)
 			b := sum(half, half)
 			near := product(half, []api.G{g(1, 0), g(0, 1), g(1, 1), g(-1, 1), g(0, -1), g(1, -1)}[k%6])
-			a := sum(product(d.whole(1), b), near)
+			a := sum(product(d.G(1), b), near)
 			for _, off := range offs {
 				follows(t, sum(a, off), b)
-				follows(t, sum(a, product(off, api.G{Re: power2(32*size - 28)})), b)
+				follows(t, sum(a, product(off, api.G{Re: proof.Power2(32*size - 28)})), b)
 				follows(t, a, sum(b, off))
 			}
 		}
@@ -147,19 +148,19 @@ func TestXgcdNearSides(t *testing.T) { // P4.4
 }
 
 func TestXgcdOfUneven(t *testing.T) { // P4.4: one number much longer than the other one
-	d := dice(8)
+	d := proof.Dice(8)
 	for _, sizes := range [][2]int{{20, 1}, {1, 20}, {20, 5}, {20, 6}, {20, 13}, {20, 19}, {19, 20}, {40, 7}, {7, 40}} {
 		for range 6 {
-			follows(t, d.whole(sizes[0]), d.whole(sizes[1]))
-			follows(t, api.G{Re: d.part(sizes[0])}, api.G{Im: d.part(sizes[1])})
-			follows(t, api.G{Re: d.part(sizes[0]), Im: d.part(1)}, api.G{Re: d.part(1), Im: d.part(sizes[1])})
+			follows(t, d.G(sizes[0]), d.G(sizes[1]))
+			follows(t, api.G{Re: d.Z(sizes[0])}, api.G{Im: d.Z(sizes[1])})
+			follows(t, api.G{Re: d.Z(sizes[0]), Im: d.Z(1)}, api.G{Re: d.Z(1), Im: d.Z(sizes[1])})
 		}
 	}
 }
 
 func TestXgcdOfVeryLong(t *testing.T) { // R1: it ends soon, and what it answers is a common divisor
-	d := dice(9)
-	a, b, c := d.whole(300), d.whole(300), d.whole(20)
+	d := proof.Dice(9)
+	a, b, c := d.G(300), d.G(300), d.G(20)
 	a, b = product(a, c), product(b, c)
 	h, x, y := gint.Xgcd(a, b)
 	is(t, "a x + b y", sum(product(a, x), product(b, y)), h)

@@ -6,40 +6,41 @@ import (
 
 	"tessel/api"
 	"tessel/gint"
+	"tessel/proof"
 	"tessel/zint"
 )
 
 // long tells a number whose longer part has just so many digits: the lowest or the highest amount of these, or one between.
-func (d *dice) long(size int) api.G {
-	whole := power2(32 * (size - 1))
-	switch d.next(3) {
+func long(d *proof.Dice, size int) api.G {
+	whole := proof.Power2(32 * (size - 1))
+	switch d.Next(3) {
 	case 0:
-		whole = zint.Add(whole, d.part(size-1))
+		whole = zint.Add(whole, d.Z(size-1))
 	case 1:
-		whole = zint.Sub(power2(32*size), z(int64(1+d.next(3))))
+		whole = zint.Sub(proof.Power2(32*size), z(int64(1+d.Next(3))))
 	}
-	return gint.Turn(api.G{Re: whole, Im: d.part(size - 1)}, d.next(4))
+	return gint.Turn(api.G{Re: whole, Im: d.Z(size - 1)}, d.Next(4))
 }
 
 // TestQuotient: the quotient by the numbers' tops is RoundDiv's, wherever a / b lies, also next to the square's sides and corners.
 func TestQuotient(t *testing.T) { // P4.4
-	d := dice(12)
+	d := proof.Dice(12)
 	for size := 1; size <= 16; size++ {
 		for more := -1; more <= 6; more++ {
 			for range 20 {
-				half := d.long(size)
+				half := long(&d, size)
 				b := sum(half, half)
 				q := g(0, 0)
 				if more >= 0 {
-					q = d.long(1 + more)
+					q = long(&d, 1+more)
 				}
-				place := []api.G{g(1, 0), g(0, 1), g(1, 1), g(-1, 1), g(0, -1), g(-1, -1)}[d.next(6)]
+				place := []api.G{g(1, 0), g(0, 1), g(1, 1), g(-1, 1), g(0, -1), g(-1, -1)}[d.Next(6)]
 				a := sum(product(q, b), product(half, place))
-				for _, off := range offsets(d.next(32*size), d.next(4)) {
+				for _, off := range offsets(d.Next(32*size), d.Next(4)) {
 					same(t, sum(a, off), b)
 					same(t, a, sum(b, off))
 				}
-				same(t, d.whole(size+more+1), b)
+				same(t, d.G(size+more+1), b)
 			}
 		}
 	}
@@ -47,7 +48,7 @@ func TestQuotient(t *testing.T) { // P4.4
 
 // offsets are steps of 0, of 1, and of one far place.
 func offsets(far, turns int) []api.G {
-	step := gint.Turn(api.G{Re: power2(far)}, turns)
+	step := gint.Turn(api.G{Re: proof.Power2(far)}, turns)
 	return []api.G{{}, g(1, 0), g(-1, 0), g(0, 1), g(0, -1), step, gint.Neg(step)}
 }
 

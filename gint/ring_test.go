@@ -7,6 +7,7 @@ import (
 
 	"tessel/api"
 	"tessel/gint"
+	"tessel/proof"
 	"tessel/zint"
 )
 
@@ -36,7 +37,7 @@ func TestRingAgainstMachine(t *testing.T) { // P4.1
 		for _, a := range forms(x.whole()) {
 			is(t, fmt.Sprint("Neg of ", x), gint.Neg(a), g(-x.re, -x.im))
 			is(t, fmt.Sprint("Conj of ", x), gint.Conj(a), g(x.re, -x.im))
-			if got := gint.Norm(a); !alikeZ(got, z(x.norm())) {
+			if got := gint.Norm(a); !proof.Alike(got, z(x.norm())) {
 				t.Errorf("Norm of %v: %v", x, got)
 			}
 			if got := gint.IsUnit(a); got != (x.norm() == 1) {
@@ -47,9 +48,9 @@ func TestRingAgainstMachine(t *testing.T) { // P4.1
 }
 
 func TestRingOfLong(t *testing.T) { // P4.1
-	d := dice(2)
+	d := proof.Dice(2)
 	for range 400 {
-		a, b := d.whole(9), d.whole(9)
+		a, b := d.G(9), d.G(9)
 		what := fmt.Sprintf(" of %s and %s", show(a), show(b))
 		is(t, "Add"+what, gint.Add(a, b), sum(a, b))
 		is(t, "Sub"+what, gint.Sub(a, b), difference(a, b))
@@ -62,7 +63,7 @@ func TestRingOfLong(t *testing.T) { // P4.1
 }
 
 func TestEqual(t *testing.T) { // P4.1
-	list := append(noughts()[:1], g(1, 0), g(0, 1), g(-1, 0), g(0, -1), g(1, 1), g(1, -1), g(5, 7), g(7, 5), api.G{Re: power2(64)}, api.G{Im: power2(64)}, api.G{Re: power2(64), Im: z(1)}, api.G{Re: power2(32), Im: power2(64)})
+	list := append(noughts()[:1], g(1, 0), g(0, 1), g(-1, 0), g(0, -1), g(1, 1), g(1, -1), g(5, 7), g(7, 5), api.G{Re: proof.Power2(64)}, api.G{Im: proof.Power2(64)}, api.G{Re: proof.Power2(64), Im: z(1)}, api.G{Re: proof.Power2(32), Im: proof.Power2(64)})
 	for i, x := range list {
 		for j, y := range list {
 			for _, a := range forms(x) {
@@ -84,7 +85,7 @@ func TestIsUnit(t *testing.T) { // P4.1
 			}
 		}
 	}
-	for _, x := range append(noughts(), g(1, 1), g(-1, 1), g(1, -1), g(2, 0), g(0, -2), g(3, 0), g(1<<32, 0), g(0, 1<<32), g(1, 1<<32), g(1<<32+1, 0), api.G{Re: power2(64), Im: z(1)}) {
+	for _, x := range append(noughts(), g(1, 1), g(-1, 1), g(1, -1), g(2, 0), g(0, -2), g(3, 0), g(1<<32, 0), g(0, 1<<32), g(1, 1<<32), g(1<<32+1, 0), api.G{Re: proof.Power2(64), Im: z(1)}) {
 		for _, a := range forms(x) {
 			if gint.IsUnit(a) {
 				t.Errorf("IsUnit(%v): true", a)
@@ -94,16 +95,16 @@ func TestIsUnit(t *testing.T) { // P4.1
 }
 
 func TestRingLaws(t *testing.T) { // P4.7
-	d := dice(3)
+	d := proof.Dice(3)
 	for range 200 {
-		a, b, c := d.whole(4), d.whole(4), d.whole(4)
+		a, b, c := d.G(4), d.G(4), d.G(4)
 		what := fmt.Sprintf(" of %s, %s, %s", show(a), show(b), show(c))
 		is(t, "sum put in another order"+what, gint.Add(gint.Add(a, b), c), gint.Add(a, gint.Add(c, b)))
 		is(t, "product put in another order"+what, gint.Mul(gint.Mul(a, b), c), gint.Mul(a, gint.Mul(c, b)))
 		is(t, "product over a sum"+what, gint.Mul(a, gint.Add(b, c)), gint.Add(gint.Mul(a, b), gint.Mul(a, c)))
-		is(t, "taken away and added"+what, gint.Add(gint.Sub(a, b), b), canon(a))
+		is(t, "taken away and added"+what, gint.Add(gint.Sub(a, b), b), proof.Canon(a))
 		is(t, "conjugate of a product"+what, gint.Conj(gint.Mul(a, b)), gint.Mul(gint.Conj(a), gint.Conj(b)))
-		if norms := zint.Mul(gint.Norm(a), gint.Norm(b)); !alikeZ(gint.Norm(gint.Mul(a, b)), norms) {
+		if norms := zint.Mul(gint.Norm(a), gint.Norm(b)); !proof.Alike(gint.Norm(gint.Mul(a, b)), norms) {
 			t.Errorf("norm of a product%s", what)
 		}
 		if isZero(gint.Mul(a, b)) != (isZero(a) || isZero(b)) {
@@ -118,7 +119,7 @@ func TestTurn(t *testing.T) { // P4.1
 		four := []api.G{a, {Re: zint.Neg(a.Im), Im: a.Re}, {Re: zint.Neg(a.Re), Im: zint.Neg(a.Im)}, {Re: a.Im, Im: zint.Neg(a.Re)}}
 		for k, want := range four {
 			for _, whole := range []int{k, k + 4, k + 400, k - 4, k - 8, k - 4000, 1<<62 + k, k - 1<<62, math.MaxInt - 3 + k, math.MinInt + k} {
-				is(t, fmt.Sprintf("Turn(%v, %d)", a, whole), gint.Turn(a, whole), canon(want))
+				is(t, fmt.Sprintf("Turn(%v, %d)", a, whole), gint.Turn(a, whole), proof.Canon(want))
 			}
 		}
 	}
@@ -145,9 +146,9 @@ func TestCanon(t *testing.T) { // P4.2
 			}
 		}
 	}
-	d := dice(4)
+	d := proof.Dice(4)
 	for range 200 {
-		a := d.divisor(6)
+		a := d.GNotZero(6)
 		h, k := gint.Canon(a)
 		if !inFirst(h) || k < 0 || k > 3 {
 			t.Errorf("Canon(%s): %s, %d", show(a), show(h), k)
@@ -176,7 +177,7 @@ func TestOrder(t *testing.T) { // P4.5
 			}
 		}
 	}
-	long := []api.G{{Re: zint.Neg(power2(100))}, {Im: zint.Neg(power2(100))}, {Im: power2(100)}, {Re: power2(100)}, {Re: zint.Neg(power2(100)), Im: z(-1)}, {Re: z(1), Im: power2(100)}}
+	long := []api.G{{Re: zint.Neg(proof.Power2(100))}, {Im: zint.Neg(proof.Power2(100))}, {Im: proof.Power2(100)}, {Re: proof.Power2(100)}, {Re: zint.Neg(proof.Power2(100)), Im: z(-1)}, {Re: z(1), Im: proof.Power2(100)}}
 	for i, a := range long {
 		for j, b := range long {
 			if got := gint.Cmp(a, b); got != max(-1, min(1, i-j)) {

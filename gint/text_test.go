@@ -8,6 +8,7 @@ import (
 
 	"tessel/api"
 	"tessel/gint"
+	"tessel/proof"
 	"tessel/zint"
 )
 
@@ -36,9 +37,9 @@ func TestText(t *testing.T) { // P4.6
 }
 
 func TestTextOfLong(t *testing.T) { // P4.6
-	d := dice(10)
+	d := proof.Dice(10)
 	for range 300 {
-		a := api.G{Re: d.part(12), Im: zint.Add(power2(33), zint.Abs(d.part(12)))}
+		a := api.G{Re: d.Z(12), Im: zint.Add(proof.Power2(33), zint.Abs(d.Z(12)))}
 		re := zint.Text(a.Re)
 		if re == "0" {
 			continue
@@ -166,14 +167,14 @@ func TestParseLimits(t *testing.T) { // P4.6: texts of MaxText bytes and one mor
 }
 
 func TestParseOfText(t *testing.T) { // P4.6, P4.7
-	d := dice(11)
+	d := proof.Dice(11)
 	for _, x := range square(12) {
 		got, e := gint.Parse(gint.Text(x.whole()))
 		taken(t, fmt.Sprint("Parse(Text of ", x, ")"), got, e, x.whole())
 	}
 	for range 300 {
-		a := d.whole(12)
+		a := d.G(12)
 		got, e := gint.Parse(gint.Text(a))
-		taken(t, fmt.Sprintf("Parse(Text(%v))", a), got, e, canon(a))
+		taken(t, fmt.Sprintf("Parse(Text(%v))", a), got, e, proof.Canon(a))
 	}
 }

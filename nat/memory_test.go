@@ -7,74 +7,31 @@ import (
 
 	"tessel/api"
 	"tessel/nat"
+	"tessel/proof"
 )
 
-// call is one of the package's calls, told as the lists that it answers and all else that it answers.
-type call struct {
-	name string
-	play func(a, b []uint32) ([][]uint32, any)
+func ofTwo(name string, f func(a, b []uint32) []uint32) proof.Call {
+	return proof.Two(name, func(a, b []uint32) []any { return proof.All(f(a, b)) })
 }
 
-func calls() []call {
-	one := func(name string, f func(a, b []uint32) []uint32) call {
-		return call{name, func(a, b []uint32) ([][]uint32, any) { return [][]uint32{f(a, b)}, nil }}
-	}
-	with := func(name string, f func(a []uint32, n int) ([]uint32, api.Errno), n int) call {
-		return call{name, func(a, b []uint32) ([][]uint32, any) {
-			c, e := f(a, n)
-			return [][]uint32{c}, e
-		}}
-	}
-	return []call{
-		one("Norm", func(a, b []uint32) []uint32 { return nat.Norm(a) }),
-		{"Cmp", func(a, b []uint32) ([][]uint32, any) { return nil, nat.Cmp(a, b) }},
-		{"Bits", func(a, b []uint32) ([][]uint32, any) { return nil, nat.Bits(a) }},
-		one("Add", nat.Add),
-		{"Sub", func(a, b []uint32) ([][]uint32, any) {
-			c, e := nat.Sub(a, b)
-			return [][]uint32{c}, e
-		}},
-		one("Mul", nat.Mul),
-		{"DivMod", func(a, b []uint32) ([][]uint32, any) {
-			q, r, e := nat.DivMod(a, b)
-			return [][]uint32{q, r}, e
-		}},
-		with("Shl by 0", nat.Shl, 0), with("Shl by 64", nat.Shl, 64), with("Shl by 5", nat.Shl, 5),
-		with("Shr by 0", nat.Shr, 0), with("Shr by 32", nat.Shr, 32), with("Shr by 5", nat.Shr, 5),
-		one("Gcd", nat.Gcd),
-		with("Pow 0", nat.Pow, 0), with("Pow 1", nat.Pow, 1), with("Pow 3", nat.Pow, 3),
-		one("Root", func(a, b []uint32) []uint32 { return nat.Root(a) }),
-		{"Text", func(a, b []uint32) ([][]uint32, any) { return nil, nat.Text(a) }},
-		{"Parse", func(a, b []uint32) ([][]uint32, any) {
-			c, e := nat.Parse(nat.Text(a))
-			return [][]uint32{c}, e
-		}},
-	}
+func withCount(name string, f func(a []uint32, n int) ([]uint32, api.Errno), n int) proof.Call {
+	return proof.One(name, func(a []uint32) []any { return proof.All(f(a, n)) })
 }
 
-// roomy lays the number where room is spare behind it, and tells all of that memory too.
-func roomy(a []uint32) (number, all []uint32) {
-	all = append(slices.Clone(a), 0xdeadbeef, 0, 0xcafe)
-	return all[:len(a)], all
-}
-
-func copies(lists [][]uint32) [][]uint32 {
-	var c [][]uint32
-	for _, l := range lists {
-		c = append(c, slices.Clone(l))
-	}
-	return c
-}
-
-func alike(a, b [][]uint32) bool {
-	return slices.EqualFunc(a, b, func(x, y []uint32) bool { return slices.Equal(x, y) })
-}
-
-// scribble writes over a list and its spare room.
-func scribble(a []uint32) {
-	a = a[:cap(a)]
-	for i := range a {
-		a[i] = ^a[i]
+func calls() []proof.Call {
+	return []proof.Call{
+		proof.One("Norm", func(a []uint32) []any { return proof.All(nat.Norm(a)) }),
+		proof.Two("Cmp", func(a, b []uint32) []any { return proof.All(nat.Cmp(a, b)) }),
+		proof.One("Bits", func(a []uint32) []any { return proof.All(nat.Bits(a)) }),
+		ofTwo("Add", nat.Add), ofTwo("Mul", nat.Mul), ofTwo("Gcd", nat.Gcd),
+		proof.Two("Sub", func(a, b []uint32) []any { return proof.All(nat.Sub(a, b)) }),
+		proof.Two("DivMod", func(a, b []uint32) []any { return proof.All(nat.DivMod(a, b)) }),
+		withCount("Shl by 0", nat.Shl, 0), withCount("Shl by 64", nat.Shl, 64), withCount("Shl by 5", nat.Shl, 5),
+		withCount("Shr by 0", nat.Shr, 0), withCount("Shr by 32", nat.Shr, 32), withCount("Shr by 5", nat.Shr, 5),
+		withCount("Pow 0", nat.Pow, 0), withCount("Pow 1", nat.Pow, 1), withCount("Pow 3", nat.Pow, 3),
+		proof.One("Root", func(a []uint32) []any { return proof.All(nat.Root(a)) }),
+		proof.One("Text", func(a []uint32) []any { return proof.All(nat.Text(a)) }),
+		proof.One("Parse", func(a []uint32) []any { return proof.All(nat.Parse(nat.Text(a))) }),
 	}
 }
 
@@ -87,57 +44,8 @@ func samples() [][]uint32 {
 	return lists
 }
 
-func TestHandedIn(t *testing.T) { // R4: what is handed in, spare room too, is neither changed nor kept
-	for _, c := range calls() {
-		for _, x := range samples() {
-			for _, y := range samples() {
-				a, allA := roomy(x)
-				b, allB := roomy(y)
-				beforeA, beforeB := slices.Clone(allA), slices.Clone(allB)
-				lists, rest := c.play(a, b)
-				if !slices.Equal(allA, beforeA) || !slices.Equal(allB, beforeB) {
-					t.Fatalf("%s(%v, %v) changes what it is handed", c.name, x, y)
-				}
-				before := copies(lists)
-				scribble(a)
-				scribble(b)
-				if !alike(lists, before) {
-					t.Fatalf("%s(%v, %v): the answer changes with what was handed in", c.name, x, y)
-				}
-				again, restAgain := c.play(slices.Clone(x), slices.Clone(y))
-				if !alike(again, before) || rest != restAgain {
-					t.Fatalf("%s(%v, %v): another answer, the second time", c.name, x, y)
-				}
-			}
-		}
-	}
-}
-
-func TestAnswered(t *testing.T) { // R4: what is answered, spare room too, is new memory, and no two lists share any
-	for _, c := range calls() {
-		for _, x := range samples() {
-			for _, y := range samples() {
-				a, allA := roomy(x)
-				b, allB := roomy(y)
-				beforeA, beforeB := slices.Clone(allA), slices.Clone(allB)
-				lists, _ := c.play(a, b)
-				before := copies(lists)
-				for i, l := range lists {
-					scribble(l)
-					if !slices.Equal(allA, beforeA) || !slices.Equal(allB, beforeB) {
-						t.Fatalf("%s(%v, %v): answer %d shares memory with what was handed in", c.name, x, y, i)
-					}
-					if !alike(lists[i+1:], before[i+1:]) {
-						t.Fatalf("%s(%v, %v): answer %d shares memory with another", c.name, x, y, i)
-					}
-				}
-				again, _ := c.play(a, b)
-				if !alike(again, before) {
-					t.Fatalf("%s(%v, %v): what was answered is kept", c.name, x, y)
-				}
-			}
-		}
-	}
+func TestMemory(t *testing.T) { // R2, R4, and numbers by their values
+	proof.Check(t, calls(), proof.Pairs(samples()))
 }
 
 func TestAnswersApart(t *testing.T) { // R4: room behind a rest is not the quotient's, and the other way round
@@ -153,39 +61,20 @@ func TestAnswersApart(t *testing.T) { // R4: room behind a rest is not the quoti
 	}
 }
 
-func TestOneListTwice(t *testing.T) { // R4: the same list as both arguments, or one that shares its memory
-	for _, c := range calls() {
+func TestPartOfList(t *testing.T) { // R4: as the other argument a list that shares its memory
+	for _, f := range []func(a, b []uint32) []any{
+		func(a, b []uint32) []any { return proof.All(nat.Add(a, b)) },
+		func(a, b []uint32) []any { return proof.All(nat.Sub(a, b)) },
+		func(a, b []uint32) []any { return proof.All(nat.Mul(a, b)) },
+		func(a, b []uint32) []any { return proof.All(nat.DivMod(a, b)) },
+		func(a, b []uint32) []any { return proof.All(nat.Gcd(a, b)) },
+	} {
 		for _, x := range samples() {
 			a := slices.Clone(x)
-			lists, rest := c.play(a, a)
-			want, wantRest := c.play(slices.Clone(x), slices.Clone(x))
-			if !alike(lists, want) || rest != wantRest || !slices.Equal(a, x) {
-				t.Errorf("%s(%v, itself): %v %v, want %v %v", c.name, x, lists, rest, want, wantRest)
-			}
 			part := a[len(a)/2:]
-			lists, rest = c.play(a, part)
-			want, wantRest = c.play(slices.Clone(x), slices.Clone(part))
-			if !alike(lists, want) || rest != wantRest || !slices.Equal(a, x) {
-				t.Errorf("%s(%v, a part of it): %v %v, want %v %v", c.name, x, lists, rest, want, wantRest)
-			}
-		}
-	}
-}
-
-func TestValue(t *testing.T) { // digits 0 at the top make no difference, and none is answered
-	for _, c := range calls() {
-		for _, x := range samples() {
-			for _, y := range samples() {
-				lists, rest := c.play(x, y)
-				longer, restLonger := c.play(append(slices.Clone(x), 0, 0, 0), append(slices.Clone(y), 0))
-				if !alike(lists, longer) || rest != restLonger {
-					t.Errorf("%s(%v, %v): %v %v, with noughts at the top %v %v", c.name, x, y, lists, rest, longer, restLonger)
-				}
-				for _, l := range lists {
-					if len(l) > 0 && l[len(l)-1] == 0 {
-						t.Errorf("%s(%v, %v): %v: a digit 0 at the top", c.name, x, y, l)
-					}
-				}
+			want := f(slices.Clone(x), slices.Clone(part))
+			if got := f(a, part); !proof.Alike(got, want) || !slices.Equal(a, x) {
+				t.Errorf("of %v and a part of it: %v, want %v", x, got, want)
 			}
 		}
 	}

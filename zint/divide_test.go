@@ -7,6 +7,7 @@ import (
 
 	"tessel/api"
 	"tessel/nat"
+	"tessel/proof"
 	"tessel/zint"
 )
 
@@ -43,8 +44,8 @@ func TestDivisionsAgainstMachine(t *testing.T) { // P2.2
 			if m == 0 {
 				continue
 			}
-			for _, a := range []api.Z{z(n), longer(z(n))} {
-				for _, b := range []api.Z{z(m), longer(z(m))} {
+			for _, a := range []api.Z{z(n), proof.Longer(z(n))} {
+				for _, b := range []api.Z{z(m), proof.Longer(z(m))} {
 					q, nearest := floorOf(n, m), halfUp(n, m)
 					divides(t, "FloorDiv", zint.FloorDiv, a, b, z(q), z(n-q*m))
 					divides(t, "RoundDiv", zint.RoundDiv, a, b, z(nearest), z(n-nearest*m))
@@ -62,7 +63,7 @@ func TestDivisionsAgainstMachine(t *testing.T) { // P2.2
 
 func TestByZero(t *testing.T) { // P2.2
 	for _, a := range samples() {
-		for _, b := range noughts() {
+		for _, b := range proof.Noughts() {
 			for name, f := range map[string]division{"FloorDiv": zint.FloorDiv, "RoundDiv": zint.RoundDiv} {
 				q, r, e := f(a, b)
 				refused(t, fmt.Sprintf("%s(%v, %v): q", name, a, b), q, e, api.ErrZero)
@@ -77,10 +78,10 @@ func TestByZero(t *testing.T) { // P2.2
 func TestByOne(t *testing.T) { // P2.2: divisors 1 and -1
 	for _, a := range samples() {
 		for _, f := range []division{zint.FloorDiv, zint.RoundDiv} {
-			divides(t, "by 1", f, a, z(1), canon(a), z(0))
+			divides(t, "by 1", f, a, z(1), proof.Canon(a), z(0))
 			divides(t, "by -1", f, a, z(-1), minus(a), z(0))
 		}
-		exactly(t, a, z(1), canon(a))
+		exactly(t, a, z(1), proof.Canon(a))
 		exactly(t, a, z(-1), minus(a))
 		if nat.Bits(a.Mag) > 0 {
 			exactly(t, a, a, z(1))
@@ -90,7 +91,7 @@ func TestByOne(t *testing.T) { // P2.2: divisors 1 and -1
 }
 
 func TestDivisionsAtWordEnds(t *testing.T) { // P2.2: -2^63 and 2^63 and their neighbours
-	low, high := z(math.MinInt64), power2(63)
+	low, high := z(math.MinInt64), proof.Power2(63)
 	divides(t, "FloorDiv", zint.FloorDiv, low, z(-1), high, z(0))
 	divides(t, "RoundDiv", zint.RoundDiv, low, z(-1), high, z(0))
 	exactly(t, low, z(-1), high)
@@ -100,11 +101,11 @@ func TestDivisionsAtWordEnds(t *testing.T) { // P2.2: -2^63 and 2^63 and their n
 	divides(t, "FloorDiv", zint.FloorDiv, less1(high), low, z(-1), z(-1))
 	divides(t, "FloorDiv", zint.FloorDiv, z(1), low, z(-1), minus(less1(high)))
 	divides(t, "FloorDiv", zint.FloorDiv, z(-1), minus(more1(high)), z(0), z(-1))
-	divides(t, "FloorDiv", zint.FloorDiv, z(-1), power2(64), z(-1), less1(power2(64)))
+	divides(t, "FloorDiv", zint.FloorDiv, z(-1), proof.Power2(64), z(-1), less1(proof.Power2(64)))
 }
 
 func TestHalves(t *testing.T) { // P2.2: halves, of positive and of negative divisors, and what is just beside them
-	for _, half := range []api.Z{z(1), z(2), z(3), z(1 << 31), z(1<<31 + 1), z(1 << 62), power2(63), more1(power2(95))} {
+	for _, half := range []api.Z{z(1), z(2), z(3), z(1 << 31), z(1<<31 + 1), z(1 << 62), proof.Power2(63), more1(proof.Power2(95))} {
 		b := zint.Add(half, half)
 		for k := int64(-3); k <= 3; k++ {
 			for _, b := range []api.Z{b, minus(b)} {
@@ -130,33 +131,33 @@ func TestHalves(t *testing.T) { // P2.2: halves, of positive and of negative div
 }
 
 func TestDivisionLaws(t *testing.T) { // P2.5, P2.2 on long numbers
-	d := dice(4)
+	d := proof.Dice(4)
 	for range 4000 {
-		a, b := d.number(8), d.divisor(6)
+		a, b := d.Z(8), d.ZNotZero(6)
 		q, r, e := zint.FloorDiv(a, b)
-		is(t, "FloorDiv: a = q b + r", zint.Add(zint.Mul(q, b), r), canon(a))
-		if e != api.OK || zint.Sign(r) != 0 && r.Neg != b.Neg || nat.Cmp(r.Mag, b.Mag) >= 0 || !alike(q, canon(q)) || !alike(r, canon(r)) {
+		is(t, "FloorDiv: a = q b + r", zint.Add(zint.Mul(q, b), r), proof.Canon(a))
+		if e != api.OK || zint.Sign(r) != 0 && r.Neg != b.Neg || nat.Cmp(r.Mag, b.Mag) >= 0 || !proof.Alike(q, proof.Canon(q)) || !proof.Alike(r, proof.Canon(r)) {
 			t.Errorf("FloorDiv(%v, %v): %v, %v, error %d", a, b, q, r, e)
 		}
 		q, r, e = zint.RoundDiv(a, b)
-		is(t, "RoundDiv: a = q b + r", zint.Add(zint.Mul(q, b), r), canon(a))
+		is(t, "RoundDiv: a = q b + r", zint.Add(zint.Mul(q, b), r), proof.Canon(a))
 		double := zint.Add(r, r)
 		if b.Neg {
 			double = zint.Neg(double)
 		}
 		// a / b - q = r / b: from -1/2 (included) to 1/2 (excluded).
-		if size := zint.Abs(b); e != api.OK || zint.Cmp(double, minus(size)) < 0 || zint.Cmp(double, size) >= 0 || !alike(q, canon(q)) || !alike(r, canon(r)) {
+		if size := zint.Abs(b); e != api.OK || zint.Cmp(double, minus(size)) < 0 || zint.Cmp(double, size) >= 0 || !proof.Alike(q, proof.Canon(q)) || !proof.Alike(r, proof.Canon(r)) {
 			t.Errorf("RoundDiv(%v, %v): %v, %v, error %d", a, b, q, r, e)
 		}
 	}
 }
 
 func TestExactLaws(t *testing.T) { // P2.2 on long numbers
-	d := dice(5)
+	d := proof.Dice(5)
 	for range 2000 {
-		q, b := d.number(6), d.divisor(6)
+		q, b := d.Z(6), d.ZNotZero(6)
 		a := zint.Mul(q, b)
-		exactly(t, a, b, canon(q))
+		exactly(t, a, b, proof.Canon(q))
 		if zint.Bits(b) > 1 {
 			got, e := zint.Exact(zint.Add(a, z(1)), b)
 			refused(t, fmt.Sprintf("Exact(%v + 1, %v)", a, b), got, e, api.ErrInexact)

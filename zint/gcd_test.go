@@ -7,6 +7,7 @@ import (
 
 	"tessel/api"
 	"tessel/nat"
+	"tessel/proof"
 	"tessel/zint"
 )
 
@@ -49,8 +50,8 @@ func TestGcdSmall(t *testing.T) { // P2.3
 	for n := int64(-36); n <= 36; n++ {
 		for m := int64(-36); m <= 36; m++ {
 			g, x, y := xgcdOf(n, m)
-			for _, a := range []api.Z{z(n), longer(z(n))} {
-				for _, b := range []api.Z{z(m), longer(z(m))} {
+			for _, a := range []api.Z{z(n), proof.Longer(z(n))} {
+				for _, b := range []api.Z{z(m), proof.Longer(z(m))} {
 					is(t, fmt.Sprintf("Gcd(%d, %d)", n, m), zint.Gcd(a, b), z(g))
 					bezout(t, a, b, z(g), z(x), z(y))
 				}
@@ -60,19 +61,19 @@ func TestGcdSmall(t *testing.T) { // P2.3
 }
 
 func TestXgcdEdges(t *testing.T) { // P2.3
-	for _, a := range noughts() {
-		for _, b := range noughts() {
+	for _, a := range proof.Noughts() {
+		for _, b := range proof.Noughts() {
 			is(t, "Gcd of 0s", zint.Gcd(a, b), z(0))
 			bezout(t, a, b, z(0), z(0), z(0))
 		}
-		for _, n := range []api.Z{z(1), z(5), z(1 << 40), power2(200)} {
+		for _, n := range []api.Z{z(1), z(5), z(1 << 40), proof.Power2(200)} {
 			bezout(t, n, a, n, z(1), z(0))
 			bezout(t, minus(n), a, n, z(-1), z(0))
 			bezout(t, a, n, n, z(0), z(1))
 			bezout(t, a, minus(n), n, z(0), z(-1))
 		}
 	}
-	low, high := z(math.MinInt64), power2(63)
+	low, high := z(math.MinInt64), proof.Power2(63)
 	bezout(t, low, low, high, z(0), z(-1))
 	bezout(t, high, low, high, z(0), z(-1))
 	bezout(t, low, high, high, z(0), z(1))
@@ -84,9 +85,9 @@ func TestXgcdEdges(t *testing.T) { // P2.3
 }
 
 func TestXgcdOfMultiples(t *testing.T) { // P2.3: of numbers of which one divides the other
-	d := dice(6)
+	d := proof.Dice(6)
 	for range 500 {
-		b, k := d.divisor(5), d.number(5)
+		b, k := d.ZNotZero(5), d.Z(5)
 		a := zint.Mul(b, k)
 		bezout(t, a, b, zint.Abs(b), z(0), z(int64(zint.Sign(b))))
 		if zint.Bits(k) < 2 {
@@ -102,16 +103,16 @@ func TestXgcdOfMultiples(t *testing.T) { // P2.3: of numbers of which one divide
 }
 
 func TestXgcdLong(t *testing.T) { // P2.3, P2.5: what makes x and y the only ones
-	d := dice(7)
+	d := proof.Dice(7)
 	for range 1500 {
-		common := d.divisor(4)
-		a, b := zint.Mul(common, d.number(6)), zint.Mul(common, d.divisor(6))
+		common := d.ZNotZero(4)
+		a, b := zint.Mul(common, d.Z(6)), zint.Mul(common, d.ZNotZero(6))
 		g, x, y := zint.Xgcd(a, b)
-		is(t, "g", g, number(false, nat.Gcd(a.Mag, b.Mag)...))
+		is(t, "g", g, proof.Number(false, nat.Gcd(a.Mag, b.Mag)...))
 		is(t, "Gcd", zint.Gcd(a, b), g)
 		is(t, "a x + b y = g", zint.Add(zint.Mul(a, x), zint.Mul(b, y)), g)
 		period, e := zint.Exact(zint.Abs(b), g)
-		if e != api.OK || zint.Sign(x) < 0 || zint.Cmp(x, period) >= 0 || !alike(x, canon(x)) || !alike(y, canon(y)) {
+		if e != api.OK || zint.Sign(x) < 0 || zint.Cmp(x, period) >= 0 || !proof.Alike(x, proof.Canon(x)) || !proof.Alike(y, proof.Canon(y)) {
 			t.Errorf("Xgcd(%v, %v): %v, %v, %v", a, b, g, x, y)
 		}
 		if _, e := zint.Exact(a, g); e != api.OK {
@@ -142,8 +143,8 @@ func TestXgcdMostSteps(t *testing.T) { // P2.3: Fibonacci's numbers
 func TestInverseSmall(t *testing.T) { // P2.3
 	for n := int64(-40); n <= 40; n++ {
 		for m := int64(-20); m <= 20; m++ {
-			for _, a := range []api.Z{z(n), longer(z(n))} {
-				for _, b := range []api.Z{z(m), longer(z(m))} {
+			for _, a := range []api.Z{z(n), proof.Longer(z(n))} {
+				for _, b := range []api.Z{z(m), proof.Longer(z(m))} {
 					got, e := zint.Inverse(a, b)
 					what := fmt.Sprintf("Inverse(%d, %d)", n, m)
 					if m == 0 {
@@ -162,29 +163,29 @@ func TestInverseSmall(t *testing.T) { // P2.3
 
 func TestInverseEdges(t *testing.T) { // P2.3: modulo 0, 1 and -1, and modulo long numbers below 0
 	for _, a := range samples() {
-		for _, m := range noughts() {
+		for _, m := range proof.Noughts() {
 			got, e := zint.Inverse(a, m)
 			refused(t, fmt.Sprintf("Inverse(%v, %v)", a, m), got, e, api.ErrZero)
 		}
-		for _, m := range []api.Z{z(1), z(-1), longer(z(1)), longer(z(-1))} {
+		for _, m := range []api.Z{z(1), z(-1), proof.Longer(z(1)), proof.Longer(z(-1))} {
 			got, e := zint.Inverse(a, m)
 			taken(t, fmt.Sprintf("Inverse(%v, %v)", a, m), got, e, z(0))
 		}
 	}
-	for _, m := range []api.Z{z(2), z(-2), power2(64), minus(power2(64))} {
+	for _, m := range []api.Z{z(2), z(-2), proof.Power2(64), minus(proof.Power2(64))} {
 		got, e := zint.Inverse(z(0), m)
 		refused(t, fmt.Sprintf("Inverse(0, %v)", m), got, e, api.ErrNone)
 	}
-	d := dice(8)
+	d := proof.Dice(8)
 	for range 1000 {
-		a, m := d.number(6), d.divisor(6)
+		a, m := d.Z(6), d.ZNotZero(6)
 		x, e := zint.Inverse(a, m)
 		if nat.Cmp(nat.Gcd(a.Mag, m.Mag), []uint32{1}) != 0 {
 			refused(t, fmt.Sprintf("Inverse(%v, %v)", a, m), x, e, api.ErrNone)
 			continue
 		}
 		_, inexact := zint.Exact(zint.Sub(zint.Mul(a, x), z(1)), m)
-		if e != api.OK || inexact != api.OK || zint.Sign(x) < 0 || zint.Cmp(x, zint.Abs(m)) >= 0 || !alike(x, canon(x)) {
+		if e != api.OK || inexact != api.OK || zint.Sign(x) < 0 || zint.Cmp(x, zint.Abs(m)) >= 0 || !proof.Alike(x, proof.Canon(x)) {
 			t.Errorf("Inverse(%v, %v): %v, error %d", a, m, x, e)
 		}
 	}

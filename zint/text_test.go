@@ -9,25 +9,26 @@ import (
 
 	"tessel/api"
 	"tessel/nat"
+	"tessel/proof"
 	"tessel/zint"
 )
 
 func TestText(t *testing.T) { // P2.4
 	for _, n := range append(smalls(), math.MaxInt64, math.MinInt64) {
-		for _, a := range []api.Z{z(n), longer(z(n))} {
+		for _, a := range []api.Z{z(n), proof.Longer(z(n))} {
 			if got := zint.Text(a); got != strconv.FormatInt(n, 10) {
 				t.Errorf("Text(%v): %s, want %d", a, got, n)
 			}
 		}
 	}
-	for _, a := range noughts() {
+	for _, a := range proof.Noughts() {
 		if got := zint.Text(a); got != "0" {
 			t.Errorf("Text(%v): %s, want 0", a, got)
 		}
 	}
-	d := dice(9)
+	d := proof.Dice(9)
 	for range 300 {
-		a := d.divisor(12)
+		a := d.ZNotZero(12)
 		want := nat.Text(a.Mag)
 		if a.Neg {
 			want = "-" + want
@@ -43,7 +44,7 @@ func TestParse(t *testing.T) { // P2.4
 		s    string
 		want api.Z
 	}{
-		{"0", z(0)}, {"-0", z(0)}, {"000", z(0)}, {"-000000000000000000000000", z(0)}, {"7", z(7)}, {"-7", z(-7)}, {"-007", z(-7)}, {"007", z(7)}, {"9223372036854775808", power2(63)}, {"-9223372036854775808", z(math.MinInt64)}, {"18446744073709551616", power2(64)}, {"-18446744073709551616", minus(power2(64))},
+		{"0", z(0)}, {"-0", z(0)}, {"000", z(0)}, {"-000000000000000000000000", z(0)}, {"7", z(7)}, {"-7", z(-7)}, {"-007", z(-7)}, {"007", z(7)}, {"9223372036854775808", proof.Power2(63)}, {"-9223372036854775808", z(math.MinInt64)}, {"18446744073709551616", proof.Power2(64)}, {"-18446744073709551616", minus(proof.Power2(64))},
 	} {
 		got, e := zint.Parse(c.s)
 		taken(t, "Parse("+c.s+")", got, e, c.want)
@@ -80,10 +81,10 @@ func TestParseLimits(t *testing.T) { // P2.4: texts of MaxText bytes and one mor
 }
 
 func TestParseOfText(t *testing.T) { // P2.4
-	d := dice(10)
+	d := proof.Dice(10)
 	for range 500 {
-		a := d.number(20)
+		a := d.Z(20)
 		got, e := zint.Parse(zint.Text(a))
-		taken(t, fmt.Sprintf("Parse(Text(%v))", a), got, e, canon(a))
+		taken(t, fmt.Sprintf("Parse(Text(%v))", a), got, e, proof.Canon(a))
 	}
 }

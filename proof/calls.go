@@ -1,0 +1,188 @@
+package proof
+
+import "tessel/api"
+
+// T is what a test tells its faults to.
+type T interface {
+	Helper()
+	Errorf(format string, args ...any)
+}
+
+// Call is a call of a package, told as what it makes of its arguments: all that it answers.
+type Call struct {
+	name  string
+	play  func(args []any) []any
+	twins bool
+}
+
+// All makes a list of what a call answers.
+func All(answers ...any) []any { return answers }
+
+// One is a call of the first argument.
+func One[A any](name string, play func(a A) []any) Call {
+	return Call{name: name, play: func(args []any) []any { return play(args[0].(A)) }}
+}
+
+// Two is a call of the first two arguments.
+func Two[A, B any](name string, play func(a A, b B) []any) Call {
+	var a A
+	_, twins := any(a).(B)
+	return Call{name, func(args []any) []any { return play(args[0].(A), args[1].(B)) }, twins}
+}
+
+// Pairs lists the samples in all pairs, each as the arguments of a call.
+func Pairs[A any](samples []A) [][]any {
+	var all [][]any
+	for _, a := range samples {
+		for _, b := range samples {
+			all = append(all, []any{a, b})
+		}
+	}
+	return all
+}
+
+// Check plays all calls with all arguments, and tells where one doesn't keep what the document asks of all calls.
+func Check(t T, calls []Call, samples [][]any) {
+	t.Helper()
+	for _, c := range calls {
+		c.look(t, samples, c.memory, c.sharing, c.forms, c.errors)
+	}
+}
+
+// CheckLong is Check for very long numbers: it looks whether each call ends, and counts them by their values.
+func CheckLong(t T, calls []Call, samples [][]any) {
+	t.Helper()
+	for _, c := range calls {
+		c.look(t, samples, c.forms)
+	}
+}
+
+func (c Call) look(t T, samples [][]any, looks ...func(args []any) string) {
+	t.Helper()
+	for _, args := range samples {
+		for _, look := range looks {
+			if fault := look(args); fault != "" {
+				t.Errorf("%s of %s %s", c.name, begin(Show(args)), begin(fault))
+			}
+		}
+	}
+}
+
+// begin cuts a text that is too long to be read.
+func begin(text string) string {
+	const most = 1000
+	if len(text) > most {
+		return text[:most] + " .."
+	}
+	return text
+}
+
+// memory looks at rule R4: what is handed in is neither changed nor kept, what is answered is new memory, and no two lists of it share any.
+func (c Call) memory(args []any) string {
+	handed := Fresh(args)
+	before := Show(rooms(handed))
+	answers := c.play(handed)
+	told := Show(answers)
+	if Show(rooms(handed)) != before {
+		return "changes what it is handed"
+	}
+	seen := map[any]bool{}
+	for _, place := range places(handed) {
+		seen[place] = true
+	}
+	if meets(answers, seen) {
+		return "answers memory that another list has"
+	}
+	scribble(handed)
+	scribble(answers)
+	if again := Show(c.play(Fresh(args))); again != told {
+		return "is " + told + ", and at the second time " + again
+	}
+	return ""
+}
+
+// meets tells whether one of the value's lists has memory of those seen, or of another of its lists.
+func meets(v any, seen map[any]bool) bool {
+	for _, place := range places(v) {
+		if seen[place] {
+			return true
+		}
+		seen[place] = true
+	}
+	return false
+}
+
+// sharing looks at rule R4 where lists that are handed in share memory: those of one argument, or those of two.
+func (c Call) sharing(args []any) string {
+	handed := Fresh(args)
+	for i, v := range handed {
+		handed[i] = folded(v)
+	}
+	if fault := c.asApart(handed); fault != "" {
+		return fault
+	}
+	if !c.twins {
+		return ""
+	}
+	handed[1] = handed[0]
+	if fault := c.asApart(handed); fault != "" {
+		return fault
+	}
+	handed = Fresh(args)
+	handed[1] = handed[0]
+	return c.asApart(handed)
+}
+
+// asApart looks whether a call answers the same as where no list shares memory with another one, and again in new memory.
+func (c Call) asApart(handed []any) string {
+	before := Show(rooms(handed))
+	answers := c.play(handed)
+	if want := Show(c.play(Fresh(handed))); Show(answers) != want {
+		return "is " + Show(answers) + " where memory is shared, and else " + want
+	}
+	seen := map[any]bool{}
+	for _, place := range places(handed) {
+		seen[place] = true
+	}
+	if Show(rooms(handed)) != before || meets(answers, seen) {
+		return "changes or answers memory that is shared"
+	}
+	return ""
+}
+
+// forms looks whether numbers count by their values, and whether those that are answered are canonical.
+func (c Call) forms(args []any) string {
+	told := Show(c.play(args))
+	for _, form := range [][]any{Longer(args), Canon(args)} {
+		if answers := Show(c.play(form)); answers != told {
+			return "is " + told + ", and of another form " + answers
+		}
+	}
+	if answers := c.play(args); !Alike(answers, Canon(answers)) {
+		return "is not canonical: " + told
+	}
+	return ""
+}
+
+// errors looks at rule R2: beside an error all is zero.
+func (c Call) errors(args []any) string {
+	answers := c.play(args)
+	if !hasError(answers) {
+		return ""
+	}
+	for _, v := range answers {
+		if !isZero(v) && !hasError([]any{v}) {
+			return "is " + Show(v) + " beside an error"
+		}
+	}
+	return ""
+}
+
+func hasError(answers []any) bool {
+	for _, v := range answers {
+		if e, ok := v.(api.Errno); ok && e != api.OK {
+			return true
+		}
+	}
+	return false
+}
