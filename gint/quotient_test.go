@@ -46,6 +46,27 @@ func TestQuotient(t *testing.T) { // P4.4
 	}
 }
 
+// TestQuotientCutMost: divisors whose tops are as small, and whose rests as great, as they can be, with long quotients that lie next to a side: here the tops alone mislead most.
+func TestQuotientCutMost(t *testing.T) { // P4.4
+	for tops := 32; tops <= 32*7; tops += 32 {
+		for rest := 32; rest <= 32*3; rest += 32 {
+			b := zint.Add(proof.Power2(tops+rest), zint.Sub(proof.Power2(rest), z(1)))
+			half, _, _ := zint.FloorDiv(b, z(2))
+			for size := 0; size <= 32*5; size += 32 {
+				q := zint.Sub(proof.Power2(size), z(1))
+				for side := int64(-1); side <= 2; side++ {
+					a := zint.Add(zint.Mul(q, b), zint.Add(half, z(side)))
+					for k := range 4 {
+						same(t, gint.Turn(api.G{Re: a}, k), api.G{Re: b})
+						same(t, gint.Turn(api.G{Re: a, Im: a}, k), api.G{Re: b})
+						same(t, api.G{Im: a}, gint.Turn(api.G{Re: b}, k))
+					}
+				}
+			}
+		}
+	}
+}
+
 // offsets are steps of 0, of 1, and of one far place.
 func offsets(far, turns int) []api.G {
 	step := gint.Turn(api.G{Re: proof.Power2(far)}, turns)
