@@ -45,9 +45,9 @@ func smalls(size int64, test func(n, d int64)) {
 func TestMakeSmall(t *testing.T) { // P3.1
 	smalls(40, func(n, d int64) {
 		got, e := frac.Make(z(n), z(d))
-		taken(t, fmt.Sprintf("Make(%d, %d)", n, d), got, e, low(n, d))
+		proof.Taken(t, fmt.Sprintf("Make(%d, %d)", n, d), got, e, low(n, d))
 		got, e = frac.Make(proof.Longer(z(n)), proof.Longer(z(d)))
-		taken(t, fmt.Sprintf("Make(%d, %d) with noughts", n, d), got, e, low(n, d))
+		proof.Taken(t, fmt.Sprintf("Make(%d, %d) with noughts", n, d), got, e, low(n, d))
 	})
 }
 
@@ -61,11 +61,11 @@ func TestMakeEdges(t *testing.T) { // P3.1
 		{proof.Power2(200), proof.Power2(199), q(2, 1)}, {proof.Power2(199), proof.Power2(200), q(1, 2)}, {zint.Neg(proof.Power2(64)), proof.Power2(64), q(-1, 1)},
 	} {
 		got, e := frac.Make(c.n, c.d)
-		taken(t, fmt.Sprintf("Make(%v, %v)", c.n, c.d), got, e, c.want)
+		proof.Taken(t, fmt.Sprintf("Make(%v, %v)", c.n, c.d), got, e, c.want)
 	}
 	for _, a := range hollows() {
 		got, e := frac.Make(a.Num, a.Den)
-		refused(t, fmt.Sprintf("Make(%v, %v)", a.Num, a.Den), got, e, api.ErrZero)
+		proof.Refused(t, fmt.Sprintf("Make(%v, %v)", a.Num, a.Den), got, e, api.ErrZero)
 	}
 }
 
@@ -87,10 +87,10 @@ func TestFieldSmall(t *testing.T) { // P3.1
 				got, e := o.play(q(n, d), q(m, c))
 				num, den := o.want(n, d, m, c)
 				if den == 0 {
-					refused(t, what, got, e, api.ErrZero)
+					proof.Refused(t, what, got, e, api.ErrZero)
 					return
 				}
-				taken(t, what, got, e, low(num, den))
+				proof.Taken(t, what, got, e, low(num, den))
 			})
 		})
 	}
@@ -118,9 +118,9 @@ func TestDenZero(t *testing.T) { // each call but Of and Parse: a Den of 0, on e
 		for _, b := range append(hollows(), q(0, 1), q(0, -2), q(1, 2), q(-3, 1)) {
 			for _, o := range operations() {
 				got, e := o.play(a, b)
-				refused(t, fmt.Sprintf("%s(%v, %v)", o.name, a, b), got, e, api.ErrZero)
+				proof.Refused(t, fmt.Sprintf("%s(%v, %v)", o.name, a, b), got, e, api.ErrZero)
 				got, e = o.play(b, a)
-				refused(t, fmt.Sprintf("%s(%v, %v)", o.name, b, a), got, e, api.ErrZero)
+				proof.Refused(t, fmt.Sprintf("%s(%v, %v)", o.name, b, a), got, e, api.ErrZero)
 			}
 			if got, e := frac.Cmp(a, b); got != 0 || e != api.ErrZero {
 				t.Errorf("Cmp(%v, %v): %d, error %d", a, b, got, e)
@@ -136,7 +136,7 @@ func TestDenZero(t *testing.T) { // each call but Of and Parse: a Den of 0, on e
 		}
 		for _, n := range []int{0, 1, 2, -1, math.MaxInt, math.MinInt} {
 			got, e := frac.Pow(a, n)
-			refused(t, fmt.Sprintf("Pow(%v, %d)", a, n), got, e, api.ErrZero)
+			proof.Refused(t, fmt.Sprintf("Pow(%v, %d)", a, n), got, e, api.ErrZero)
 		}
 		if got, e := frac.Text(a); got != "" || e != api.ErrZero {
 			t.Errorf("Text(%v): %s, error %d", a, got, e)
@@ -148,7 +148,7 @@ func TestQuoByZero(t *testing.T) { // P3.1
 	for _, a := range []api.Q{q(0, 1), q(1, 2), q(-3, 1), {Num: proof.Power2(100), Den: z(-3)}} {
 		for _, b := range forms(q(0, 7)) {
 			got, e := frac.Quo(a, b)
-			refused(t, fmt.Sprintf("Quo(%v, %v)", a, b), got, e, api.ErrZero)
+			proof.Refused(t, fmt.Sprintf("Quo(%v, %v)", a, b), got, e, api.ErrZero)
 		}
 	}
 }
@@ -167,7 +167,7 @@ func TestFieldLong(t *testing.T) { // P3.1: the only answer, on long numbers
 		amounts(t, "Mul "+what, got, e, zint.Mul(a.Num, b.Num), den)
 		got, e = frac.Quo(a, b)
 		if zint.Sign(b.Num) == 0 {
-			refused(t, "Quo "+what, got, e, api.ErrZero)
+			proof.Refused(t, "Quo "+what, got, e, api.ErrZero)
 			continue
 		}
 		amounts(t, "Quo "+what, got, e, left, right)

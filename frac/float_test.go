@@ -31,7 +31,7 @@ func ofFloat(x float64) api.Q {
 func isOf(t *testing.T, x float64, want api.Q) {
 	t.Helper()
 	got, e := frac.Of(x)
-	taken(t, "Of("+strconv.FormatFloat(x, 'g', -1, 64)+")", got, e, want)
+	proof.Taken(t, "Of("+strconv.FormatFloat(x, 'g', -1, 64)+")", got, e, want)
 }
 
 func TestOfEdges(t *testing.T) { // P3.1: 0 and -0, subnormal floats, the greatest, powers of two
@@ -56,7 +56,7 @@ func TestOfEdges(t *testing.T) { // P3.1: 0 and -0, subnormal floats, the greate
 func TestOfNotFinite(t *testing.T) { // P3.1
 	for _, x := range []float64{math.Inf(1), math.Inf(-1), math.NaN(), -math.NaN(), math.Float64frombits(0x7FF0000000000001), math.Float64frombits(0xFFFFFFFFFFFFFFFF)} {
 		got, e := frac.Of(x)
-		refused(t, fmt.Sprintf("Of(%x)", math.Float64bits(x)), got, e, api.ErrArg)
+		proof.Refused(t, fmt.Sprintf("Of(%x)", math.Float64bits(x)), got, e, api.ErrArg)
 	}
 }
 

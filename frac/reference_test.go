@@ -47,30 +47,6 @@ func hollows() []api.Q {
 	return list
 }
 
-// taken tells where a call doesn't answer what is wanted, as it lies there: want is in lowest terms and canonical.
-func taken(t *testing.T, what string, got api.Q, e api.Errno, want api.Q) {
-	t.Helper()
-	if e != api.OK || !proof.Alike(got, want) {
-		t.Errorf("%s: %v, error %d, want %v", what, got, e, want)
-	}
-}
-
-// takenZ is taken of whole numbers.
-func takenZ(t *testing.T, what string, got api.Z, e api.Errno, want api.Z) {
-	t.Helper()
-	if e != api.OK || !proof.Alike(got, want) {
-		t.Errorf("%s: %v, error %d, want %v", what, got, e, want)
-	}
-}
-
-// refused tells where a call isn't refused as it should be, or answers something beside the error.
-func refused(t *testing.T, what string, got api.Q, e, want api.Errno) {
-	t.Helper()
-	if e != want || !isZero(got.Num) || !isZero(got.Den) {
-		t.Errorf("%s: %v, error %d, want error %d", what, got, e, want)
-	}
-}
-
 // isZero tells whether it is a Z's zero value.
 func isZero(a api.Z) bool { return !a.Neg && len(a.Mag) == 0 }
 

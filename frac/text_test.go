@@ -44,7 +44,7 @@ func TestParse(t *testing.T) { // P3.3
 		{"18446744073709551616", api.Q{Num: proof.Power2(64), Den: z(1)}}, {"-1/18446744073709551616", api.Q{Num: z(-1), Den: proof.Power2(64)}}, {"36893488147419103232/18446744073709551616", q(2, 1)},
 	} {
 		got, e := frac.Parse(c.s)
-		taken(t, "Parse("+c.s+")", got, e, c.want)
+		proof.Taken(t, "Parse("+c.s+")", got, e, c.want)
 	}
 }
 
@@ -53,11 +53,11 @@ func TestParseRefused(t *testing.T) { // P3.3
 		"", "-", "/", "//", "-/", "/2", "-/2", "1/", "-1/", "0/", "1/2/3", "1//2", "1/2/", "/1/2", "1/0/2", "1/-2", "1/+2", "+1", "+1/2", "--1", "1/--2", "1/-", "1/-0", "-1/-2", "0/-0", "1-/2", "1/2-", "1/2-3", "1 /2", "1/ 2", " 1/2", "1/2 ", "1\\2", "1:2", "1/2i", "1.5", "1/2.0", "1e3", "0x1/2", "1/0x2", "a", "a/b", "1/a", "a/1", "1_0/2", "1∕2", "½", "１/2", "1/\x00", "1/2\n", "\xff", "x/0", "/0", "-/0", "1/0x", "+1/0", " 1/0",
 	} {
 		got, e := frac.Parse(s)
-		refused(t, fmt.Sprintf("Parse(%q)", s), got, e, api.ErrSyntax)
+		proof.Refused(t, fmt.Sprintf("Parse(%q)", s), got, e, api.ErrSyntax)
 	}
 	for _, s := range []string{"1/0", "0/0", "-0/0", "-1/0", "007/000", "0/0000000000000000000000000000"} {
 		got, e := frac.Parse(s)
-		refused(t, fmt.Sprintf("Parse(%q)", s), got, e, api.ErrZero)
+		proof.Refused(t, fmt.Sprintf("Parse(%q)", s), got, e, api.ErrZero)
 	}
 }
 
@@ -69,25 +69,25 @@ func TestParseLimits(t *testing.T) { // P3.3: texts of MaxText bytes and one mor
 		"-6/" + noughts(api.MaxText-4) + "4": q(-3, 2), "-" + noughts(api.MaxText-4) + "1/3": q(-1, 3), "-" + noughts(half-3) + "4/" + noughts(half-1) + "2": q(-2, 1),
 	} {
 		got, e := frac.Parse(s)
-		taken(t, fmt.Sprint(len(s), " bytes, ", s[:2], ".."), got, e, want)
+		proof.Taken(t, fmt.Sprint(len(s), " bytes, ", s[:2], ".."), got, e, want)
 		// One nought more behind the sign, or behind the /.
 		for _, ahead := range []string{"-", "/"} {
 			if at := strings.Index(s, ahead) + 1; at > 0 {
 				got, e = frac.Parse(s[:at] + "0" + s[at:])
-				refused(t, fmt.Sprint(len(s)+1, " bytes, ", s[:2], ".."), got, e, api.ErrLimit)
+				proof.Refused(t, fmt.Sprint(len(s)+1, " bytes, ", s[:2], ".."), got, e, api.ErrLimit)
 			}
 		}
 	}
 	for _, s := range []string{noughts(api.MaxText + 1), "1/" + noughts(api.MaxText-1), strings.Repeat("x", api.MaxText+1), strings.Repeat("/", api.MaxText+1), "1/-" + noughts(api.MaxText), noughts(half) + "/" + noughts(half), "1/2" + strings.Repeat(" ", 3*api.MaxText)} {
 		got, e := frac.Parse(s)
-		refused(t, fmt.Sprintf("%d bytes, %s..", len(s), s[:3]), got, e, api.ErrLimit)
+		proof.Refused(t, fmt.Sprintf("%d bytes, %s..", len(s), s[:3]), got, e, api.ErrLimit)
 	}
 	for _, s := range []string{noughts(api.MaxText-1) + "x", strings.Repeat("/", api.MaxText), "1/-" + noughts(api.MaxText-3), noughts(api.MaxText-1) + "/", "/" + noughts(api.MaxText-1)} {
 		got, e := frac.Parse(s)
-		refused(t, fmt.Sprintf("%d bytes, %s..", len(s), s[:3]), got, e, api.ErrSyntax)
+		proof.Refused(t, fmt.Sprintf("%d bytes, %s..", len(s), s[:3]), got, e, api.ErrSyntax)
 	}
 	got, e := frac.Parse("1/" + noughts(api.MaxText-2))
-	refused(t, "a denominator of noughts", got, e, api.ErrZero)
+	proof.Refused(t, "a denominator of noughts", got, e, api.ErrZero)
 }
 
 func TestParseLongest(t *testing.T) { // P3.3: both numbers as long as they may be
@@ -99,7 +99,7 @@ func TestParseLongest(t *testing.T) { // P3.3: both numbers as long as they may 
 		t.Errorf("Parse of %d bytes: another text, error %d", len(s), e)
 	}
 	got, e = frac.Parse("-" + nines + "/" + strings.Repeat("3", len(nines)))
-	taken(t, "-99../33..", got, e, q(-3, 1))
+	proof.Taken(t, "-99../33..", got, e, q(-3, 1))
 }
 
 func TestParseOfText(t *testing.T) { // P3.4
@@ -108,6 +108,6 @@ func TestParseOfText(t *testing.T) { // P3.4
 		a := rational(&d, 12)
 		text, _ := frac.Text(a)
 		got, e := frac.Parse(text)
-		taken(t, "Parse("+text+")", got, e, ok(frac.Make(a.Num, a.Den)))
+		proof.Taken(t, "Parse("+text+")", got, e, ok(frac.Make(a.Num, a.Den)))
 	}
 }

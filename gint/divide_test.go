@@ -14,20 +14,20 @@ func divides(t *testing.T, a, b, q, r api.G) {
 	t.Helper()
 	gotQ, gotR, e := gint.RoundDiv(a, b)
 	what := fmt.Sprintf("RoundDiv(%s, %s)", show(a), show(b))
-	taken(t, what+": q", gotQ, e, q)
-	taken(t, what+": r", gotR, e, r)
+	proof.Taken(t, what+": q", gotQ, e, q)
+	proof.Taken(t, what+": r", gotR, e, r)
 }
 
 func exactly(t *testing.T, a, b, want api.G) {
 	t.Helper()
 	got, e := gint.Exact(a, b)
-	taken(t, fmt.Sprintf("Exact(%s, %s)", show(a), show(b)), got, e, want)
+	proof.Taken(t, fmt.Sprintf("Exact(%s, %s)", show(a), show(b)), got, e, want)
 }
 
 func inexact(t *testing.T, a, b api.G) {
 	t.Helper()
 	got, e := gint.Exact(a, b)
-	refused(t, fmt.Sprintf("Exact(%s, %s)", show(a), show(b)), got, e, api.ErrInexact)
+	proof.Refused(t, fmt.Sprintf("Exact(%s, %s)", show(a), show(b)), got, e, api.ErrInexact)
 }
 
 func TestDivisionsAgainstMachine(t *testing.T) { // P4.3
@@ -72,10 +72,10 @@ func TestDivisionByZero(t *testing.T) { // P4.3
 		for _, b := range noughts() {
 			what := fmt.Sprintf("(%v, %v)", a, b)
 			q, r, e := gint.RoundDiv(a, b)
-			refused(t, "RoundDiv"+what+": q", q, e, api.ErrZero)
-			refused(t, "RoundDiv"+what+": r", r, e, api.ErrZero)
+			proof.Refused(t, "RoundDiv"+what+": q", q, e, api.ErrZero)
+			proof.Refused(t, "RoundDiv"+what+": r", r, e, api.ErrZero)
 			got, e := gint.Exact(a, b)
-			refused(t, "Exact"+what, got, e, api.ErrZero)
+			proof.Refused(t, "Exact"+what, got, e, api.ErrZero)
 		}
 	}
 }
@@ -92,8 +92,8 @@ func TestDivisionsOfLong(t *testing.T) { // P4.3, P4.7: a is q b + r, and r / b 
 		a, b := d.G(12), d.GNotZero(1+d.Next(9))
 		what := fmt.Sprintf("RoundDiv(%s, %s)", show(a), show(b))
 		q, r, e := gint.RoundDiv(a, b)
-		taken(t, what+": q", q, e, proof.Canon(q))
-		taken(t, what+": r", r, e, difference(a, product(q, b)))
+		proof.Taken(t, what+": q", q, e, proof.Canon(q))
+		proof.Taken(t, what+": r", r, e, difference(a, product(q, b)))
 		place := product(r, api.G{Re: b.Re, Im: zint.Neg(b.Im)})
 		norm := gint.Norm(b)
 		if !isSide(place.Re, norm) || !isSide(place.Im, norm) {

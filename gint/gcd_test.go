@@ -30,10 +30,10 @@ func bezout(t *testing.T, a, b, h, x, y api.G) {
 	t.Helper()
 	gotH, gotX, gotY := gint.Xgcd(a, b)
 	what := fmt.Sprintf("cd(%s, %s)", show(a), show(b))
-	is(t, "Xg"+what+": g", gotH, h)
-	is(t, "Xg"+what+": x", gotX, x)
-	is(t, "Xg"+what+": y", gotY, y)
-	is(t, "G"+what, gint.Gcd(a, b), h)
+	proof.Is(t, "Xg"+what+": g", gotH, h)
+	proof.Is(t, "Xg"+what+": x", gotX, x)
+	proof.Is(t, "Xg"+what+": y", gotY, y)
+	proof.Is(t, "G"+what, gint.Gcd(a, b), h)
 }
 
 // follows tells where Xgcd and Gcd don't answer what the steps do.
@@ -73,7 +73,7 @@ func divisorOf(x, y small) small {
 func TestGcdByTrial(t *testing.T) { // P4.4, P4.7
 	for _, x := range square(5) {
 		for _, y := range square(5) {
-			is(t, fmt.Sprint("Gcd of ", x, " and ", y), gint.Gcd(x.whole(), y.whole()), divisorOf(x, y).whole())
+			proof.Is(t, fmt.Sprint("Gcd of ", x, " and ", y), gint.Gcd(x.whole(), y.whole()), divisorOf(x, y).whole())
 		}
 	}
 }
@@ -120,7 +120,7 @@ func TestXgcdOfLong(t *testing.T) { // P4.4, P4.7
 		follows(t, a, b)
 		h, x, y := gint.Xgcd(a, b)
 		what := fmt.Sprintf("Xgcd(%s, %s)", show(a), show(b))
-		is(t, what+": a x + b y", sum(product(a, x), product(b, y)), h)
+		proof.Is(t, what+": a x + b y", sum(product(a, x), product(b, y)), h)
 		if !multiple(a, h) || !multiple(b, h) || !multiple(h, c) {
 			t.Errorf("%s: %s is not the greatest common divisor", what, show(h))
 		}
@@ -163,7 +163,7 @@ func TestXgcdOfVeryLong(t *testing.T) { // R1: it ends soon, and what it answers
 	a, b, c := d.G(300), d.G(300), d.G(20)
 	a, b = product(a, c), product(b, c)
 	h, x, y := gint.Xgcd(a, b)
-	is(t, "a x + b y", sum(product(a, x), product(b, y)), h)
+	proof.Is(t, "a x + b y", sum(product(a, x), product(b, y)), h)
 	if !multiple(a, h) || !multiple(b, h) || !multiple(h, c) {
 		t.Error("not the greatest common divisor")
 	}

@@ -80,5 +80,5 @@ func same(t *testing.T, a, b api.G) {
 		return
 	}
 	want, _, _ := gint.RoundDiv(a, b)
-	is(t, fmt.Sprintf("quotient of %s and %s", show(a), show(b)), gint.Quotient(a, b), want)
+	proof.Is(t, fmt.Sprintf("quotient of %s and %s", show(a), show(b)), gint.Quotient(a, b), want)
 }

@@ -2,7 +2,6 @@ package gint_test
 
 import (
 	"strconv"
-	"testing"
 
 	"tessel/api"
 	"tessel/proof"
@@ -58,29 +57,6 @@ func square(n int64) []small {
 // forms are those in which one number may be handed in.
 func forms(a api.G) []api.G {
 	return []api.G{a, proof.Longer(a), {Re: proof.Longer(a.Re), Im: a.Im}, {Re: a.Re, Im: proof.Longer(a.Im)}}
-}
-
-// is tells where an answer isn't what is wanted, as it lies there: want is canonical.
-func is(t *testing.T, what string, got, want api.G) {
-	t.Helper()
-	if !proof.Alike(got, want) {
-		t.Errorf("%s: %v, want %v", what, got, want)
-	}
-}
-
-func taken(t *testing.T, what string, got api.G, e api.Errno, want api.G) {
-	t.Helper()
-	if e != api.OK || !proof.Alike(got, want) {
-		t.Errorf("%s: %v, error %d, want %v", what, got, e, want)
-	}
-}
-
-// refused tells where a call isn't refused as it should be, or answers something beside the error.
-func refused(t *testing.T, what string, got api.G, e, want api.Errno) {
-	t.Helper()
-	if e != want || !proof.Alike(got, api.G{}) {
-		t.Errorf("%s: %v, error %d, want error %d", what, got, e, want)
-	}
 }
 
 // show tells both parts, whatever their form.

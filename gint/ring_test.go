@@ -15,7 +15,7 @@ func TestFrom(t *testing.T) { // P4.1
 	edges := []int64{0, 1, -1, 7, -7, 1<<32 - 1, 1 << 32, -1 << 32, math.MaxInt64, math.MinInt64, math.MinInt64 + 1}
 	for _, re := range edges {
 		for _, im := range edges {
-			is(t, fmt.Sprintf("From(%d, %d)", re, im), gint.From(re, im), g(re, im))
+			proof.Is(t, fmt.Sprintf("From(%d, %d)", re, im), gint.From(re, im), g(re, im))
 		}
 	}
 }
@@ -26,17 +26,17 @@ func TestRingAgainstMachine(t *testing.T) { // P4.1
 			for k, a := range forms(x.whole()) {
 				b := forms(y.whole())[3-k]
 				what := fmt.Sprint(" of ", x, " and ", y)
-				is(t, "Add"+what, gint.Add(a, b), x.plus(y).whole())
-				is(t, "Sub"+what, gint.Sub(a, b), x.less(y).whole())
-				is(t, "Mul"+what, gint.Mul(a, b), x.times(y).whole())
+				proof.Is(t, "Add"+what, gint.Add(a, b), x.plus(y).whole())
+				proof.Is(t, "Sub"+what, gint.Sub(a, b), x.less(y).whole())
+				proof.Is(t, "Mul"+what, gint.Mul(a, b), x.times(y).whole())
 				if got := gint.Equal(a, b); got != (x == y) {
 					t.Errorf("Equal%s: %v", what, got)
 				}
 			}
 		}
 		for _, a := range forms(x.whole()) {
-			is(t, fmt.Sprint("Neg of ", x), gint.Neg(a), g(-x.re, -x.im))
-			is(t, fmt.Sprint("Conj of ", x), gint.Conj(a), g(x.re, -x.im))
+			proof.Is(t, fmt.Sprint("Neg of ", x), gint.Neg(a), g(-x.re, -x.im))
+			proof.Is(t, fmt.Sprint("Conj of ", x), gint.Conj(a), g(x.re, -x.im))
 			if got := gint.Norm(a); !proof.Alike(got, z(x.norm())) {
 				t.Errorf("Norm of %v: %v", x, got)
 			}
@@ -52,13 +52,13 @@ func TestRingOfLong(t *testing.T) { // P4.1
 	for range 400 {
 		a, b := d.G(9), d.G(9)
 		what := fmt.Sprintf(" of %s and %s", show(a), show(b))
-		is(t, "Add"+what, gint.Add(a, b), sum(a, b))
-		is(t, "Sub"+what, gint.Sub(a, b), difference(a, b))
-		is(t, "Mul"+what, gint.Mul(a, b), product(a, b))
-		is(t, "Neg"+what, gint.Neg(a), difference(api.G{}, a))
-		is(t, "Conj"+what, gint.Conj(a), api.G{Re: zint.Add(a.Re, z(0)), Im: zint.Neg(a.Im)})
+		proof.Is(t, "Add"+what, gint.Add(a, b), sum(a, b))
+		proof.Is(t, "Sub"+what, gint.Sub(a, b), difference(a, b))
+		proof.Is(t, "Mul"+what, gint.Mul(a, b), product(a, b))
+		proof.Is(t, "Neg"+what, gint.Neg(a), difference(api.G{}, a))
+		proof.Is(t, "Conj"+what, gint.Conj(a), api.G{Re: zint.Add(a.Re, z(0)), Im: zint.Neg(a.Im)})
 		norm := product(a, api.G{Re: a.Re, Im: zint.Neg(a.Im)})
-		is(t, "Norm"+what, api.G{Re: gint.Norm(a)}, norm)
+		proof.Is(t, "Norm"+what, api.G{Re: gint.Norm(a)}, norm)
 	}
 }
 
@@ -99,11 +99,11 @@ func TestRingLaws(t *testing.T) { // P4.7
 	for range 200 {
 		a, b, c := d.G(4), d.G(4), d.G(4)
 		what := fmt.Sprintf(" of %s, %s, %s", show(a), show(b), show(c))
-		is(t, "sum put in another order"+what, gint.Add(gint.Add(a, b), c), gint.Add(a, gint.Add(c, b)))
-		is(t, "product put in another order"+what, gint.Mul(gint.Mul(a, b), c), gint.Mul(a, gint.Mul(c, b)))
-		is(t, "product over a sum"+what, gint.Mul(a, gint.Add(b, c)), gint.Add(gint.Mul(a, b), gint.Mul(a, c)))
-		is(t, "taken away and added"+what, gint.Add(gint.Sub(a, b), b), proof.Canon(a))
-		is(t, "conjugate of a product"+what, gint.Conj(gint.Mul(a, b)), gint.Mul(gint.Conj(a), gint.Conj(b)))
+		proof.Is(t, "sum put in another order"+what, gint.Add(gint.Add(a, b), c), gint.Add(a, gint.Add(c, b)))
+		proof.Is(t, "product put in another order"+what, gint.Mul(gint.Mul(a, b), c), gint.Mul(a, gint.Mul(c, b)))
+		proof.Is(t, "product over a sum"+what, gint.Mul(a, gint.Add(b, c)), gint.Add(gint.Mul(a, b), gint.Mul(a, c)))
+		proof.Is(t, "taken away and added"+what, gint.Add(gint.Sub(a, b), b), proof.Canon(a))
+		proof.Is(t, "conjugate of a product"+what, gint.Conj(gint.Mul(a, b)), gint.Mul(gint.Conj(a), gint.Conj(b)))
 		if norms := zint.Mul(gint.Norm(a), gint.Norm(b)); !proof.Alike(gint.Norm(gint.Mul(a, b)), norms) {
 			t.Errorf("norm of a product%s", what)
 		}
@@ -119,12 +119,12 @@ func TestTurn(t *testing.T) { // P4.1
 		four := []api.G{a, {Re: zint.Neg(a.Im), Im: a.Re}, {Re: zint.Neg(a.Re), Im: zint.Neg(a.Im)}, {Re: a.Im, Im: zint.Neg(a.Re)}}
 		for k, want := range four {
 			for _, whole := range []int{k, k + 4, k + 400, k - 4, k - 8, k - 4000, 1<<62 + k, k - 1<<62, math.MaxInt - 3 + k, math.MinInt + k} {
-				is(t, fmt.Sprintf("Turn(%v, %d)", a, whole), gint.Turn(a, whole), proof.Canon(want))
+				proof.Is(t, fmt.Sprintf("Turn(%v, %d)", a, whole), gint.Turn(a, whole), proof.Canon(want))
 			}
 		}
 	}
-	is(t, "Turn by the greatest", gint.Turn(g(2, 1), math.MaxInt), g(1, -2))
-	is(t, "Turn by the least", gint.Turn(g(2, 1), math.MinInt), g(2, 1))
+	proof.Is(t, "Turn by the greatest", gint.Turn(g(2, 1), math.MaxInt), g(1, -2))
+	proof.Is(t, "Turn by the least", gint.Turn(g(2, 1), math.MinInt), g(2, 1))
 }
 
 func TestCanon(t *testing.T) { // P4.2
@@ -140,7 +140,7 @@ func TestCanon(t *testing.T) { // P4.2
 	} {
 		for _, a := range forms(c.a.whole()) {
 			h, k := gint.Canon(a)
-			is(t, fmt.Sprintf("Canon(%v)", a), h, c.want.whole())
+			proof.Is(t, fmt.Sprintf("Canon(%v)", a), h, c.want.whole())
 			if k != c.k {
 				t.Errorf("Canon(%v): k is %d, want %d", a, k, c.k)
 			}
@@ -153,10 +153,10 @@ func TestCanon(t *testing.T) { // P4.2
 		if !inFirst(h) || k < 0 || k > 3 {
 			t.Errorf("Canon(%s): %s, %d", show(a), show(h), k)
 		}
-		is(t, "i^k times "+show(a), h, gint.Turn(a, k))
+		proof.Is(t, "i^k times "+show(a), h, gint.Turn(a, k))
 		for turns := range 4 {
 			other, _ := gint.Canon(gint.Turn(a, turns))
-			is(t, "Canon of an associate of "+show(a), other, h)
+			proof.Is(t, "Canon of an associate of "+show(a), other, h)
 		}
 	}
 }

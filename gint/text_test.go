@@ -70,7 +70,7 @@ func TestParse(t *testing.T) { // P4.6
 		{"-9223372036854775808+9223372036854775807i", small{math.MinInt64, math.MaxInt64}},
 	} {
 		got, e := gint.Parse(c.s)
-		taken(t, "Parse("+c.s+")", got, e, c.want.whole())
+		proof.Taken(t, "Parse("+c.s+")", got, e, c.want.whole())
 	}
 }
 
@@ -81,7 +81,7 @@ func TestParseRefused(t *testing.T) { // P4.6
 		"I", "1+I", "j", "1+2j", "1*i", "1+2*i", "1/2", "1/2i", "1.5", "1.5i", "1e3", "1_0", "0x1", "0x1i", "a", "1a", "1+a", "1+ai", "a+i", "i\n", "\x00", "1\x00i", "\xffi", "−i", "–1", "1−i", "１", "١i", "ı", "/i", ":i", "/", ":", ",", "1,i", "(1+i)",
 	} {
 		got, e := gint.Parse(s)
-		refused(t, fmt.Sprintf("Parse(%q)", s), got, e, api.ErrSyntax)
+		proof.Refused(t, fmt.Sprintf("Parse(%q)", s), got, e, api.ErrSyntax)
 	}
 }
 
@@ -96,9 +96,9 @@ func TestParseOfAllShort(t *testing.T) { // P4.6
 	for _, s := range list {
 		got, e := gint.Parse(s)
 		if re, im, ok := split(s); ok {
-			taken(t, fmt.Sprintf("Parse(%q)", s), got, e, g(re, im))
+			proof.Taken(t, fmt.Sprintf("Parse(%q)", s), got, e, g(re, im))
 		} else {
-			refused(t, fmt.Sprintf("Parse(%q)", s), got, e, api.ErrSyntax)
+			proof.Refused(t, fmt.Sprintf("Parse(%q)", s), got, e, api.ErrSyntax)
 		}
 	}
 }
@@ -146,17 +146,17 @@ func TestParseLimits(t *testing.T) { // P4.6: texts of MaxText bytes and one mor
 			t.Fatal("not a text of MaxText bytes")
 		}
 		got, e := gint.Parse(s)
-		taken(t, fmt.Sprint(len(s), " bytes"), got, e, want.whole())
+		proof.Taken(t, fmt.Sprint(len(s), " bytes"), got, e, want.whole())
 		got, e = gint.Parse("0" + s)
-		refused(t, fmt.Sprint(len(s)+1, " bytes"), got, e, api.ErrLimit)
+		proof.Refused(t, fmt.Sprint(len(s)+1, " bytes"), got, e, api.ErrLimit)
 	}
 	for _, s := range []string{noughts + "000i2", noughts + "00+-i", strings.Repeat("x", api.MaxText+1), strings.Repeat("-", api.MaxText+1), noughts + noughts + "i"} {
 		got, e := gint.Parse(s)
-		refused(t, fmt.Sprint(len(s), " bytes"), got, e, api.ErrLimit)
+		proof.Refused(t, fmt.Sprint(len(s), " bytes"), got, e, api.ErrLimit)
 	}
 	for _, s := range []string{noughts + "00i2", noughts + "0+-i", noughts + "+00-", strings.Repeat("-", api.MaxText), strings.Repeat("i", api.MaxText)} {
 		got, e := gint.Parse(s)
-		refused(t, fmt.Sprint(len(s), " bytes"), got, e, api.ErrSyntax)
+		proof.Refused(t, fmt.Sprint(len(s), " bytes"), got, e, api.ErrSyntax)
 	}
 	nines := strings.Repeat("9", api.MaxText/2-1)
 	for _, s := range []string{nines + "-" + nines + "i", "-" + nines + nines + "i"} {
@@ -170,11 +170,11 @@ func TestParseOfText(t *testing.T) { // P4.6, P4.7
 	d := proof.Dice(11)
 	for _, x := range square(12) {
 		got, e := gint.Parse(gint.Text(x.whole()))
-		taken(t, fmt.Sprint("Parse(Text of ", x, ")"), got, e, x.whole())
+		proof.Taken(t, fmt.Sprint("Parse(Text of ", x, ")"), got, e, x.whole())
 	}
 	for range 300 {
 		a := d.G(12)
 		got, e := gint.Parse(gint.Text(a))
-		taken(t, fmt.Sprintf("Parse(Text(%v))", a), got, e, proof.Canon(a))
+		proof.Taken(t, fmt.Sprintf("Parse(Text(%v))", a), got, e, proof.Canon(a))
 	}
 }

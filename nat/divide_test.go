@@ -6,14 +6,15 @@ import (
 
 	"tessel/api"
 	"tessel/nat"
+	"tessel/proof"
 )
 
 func divides(t *testing.T, a, b, q, r []uint32) {
 	t.Helper()
 	gotQ, gotR, e := nat.DivMod(a, b)
 	what := fmt.Sprintf("DivMod(%v, %v)", a, b)
-	taken(t, what+": q", gotQ, e, q)
-	taken(t, what+": r", gotR, e, r)
+	proof.Taken(t, what+": q", gotQ, e, q)
+	proof.Taken(t, what+": r", gotR, e, r)
 }
 
 func TestDivModEdges(t *testing.T) { // P1.2
@@ -30,8 +31,8 @@ func TestDivModEdges(t *testing.T) { // P1.2
 	for _, zero := range [][]uint32{nil, {}, {0}, {0, 0, 0}} {
 		for _, a := range [][]uint32{nil, {1}, ones(3)} {
 			q, r, e := nat.DivMod(a, zero)
-			refused(t, "q by 0", q, e, api.ErrZero)
-			refused(t, "r by 0", r, e, api.ErrZero)
+			proof.Refused(t, "q by 0", q, e, api.ErrZero)
+			proof.Refused(t, "r by 0", r, e, api.ErrZero)
 		}
 	}
 }
@@ -96,8 +97,8 @@ func TestGcd(t *testing.T) { // P1.4
 		// 2^x - 1 and 2^y - 1: 2^Gcd(x, y) - 1
 		{ones(42), ones(30), ones(6)}, {ones(7), ones(40), ones(1)},
 	} {
-		is(t, fmt.Sprintf("Gcd(%v, %v)", c.a, c.b), nat.Gcd(c.a, c.b), c.want)
-		is(t, fmt.Sprintf("Gcd(%v, %v)", c.b, c.a), nat.Gcd(c.b, c.a), c.want)
+		proof.Is(t, fmt.Sprintf("Gcd(%v, %v)", c.a, c.b), nat.Gcd(c.a, c.b), c.want)
+		proof.Is(t, fmt.Sprintf("Gcd(%v, %v)", c.b, c.a), nat.Gcd(c.b, c.a), c.want)
 	}
 }
 
@@ -110,7 +111,7 @@ func TestGcdSlow(t *testing.T) { // P1.4
 			_, r := s.divMod(u)
 			s, u = u, r
 		}
-		is(t, fmt.Sprintf("Gcd(%v, %v)", a, b), nat.Gcd(a, b), s.digits())
+		proof.Is(t, fmt.Sprintf("Gcd(%v, %v)", a, b), nat.Gcd(a, b), s.digits())
 	}
 }
 
@@ -140,6 +141,6 @@ func TestGcdLongest(t *testing.T) { // P1.4: Fibonacci's numbers, that have the 
 	for range 5000 {
 		a, b = b, nat.Add(a, b)
 	}
-	is(t, "two of Fibonacci's", nat.Gcd(b, a), []uint32{1})
-	is(t, "twelve times two of Fibonacci's", nat.Gcd(nat.Mul(a, []uint32{12}), nat.Mul(b, []uint32{12})), []uint32{12})
+	proof.Is(t, "two of Fibonacci's", nat.Gcd(b, a), []uint32{1})
+	proof.Is(t, "twelve times two of Fibonacci's", nat.Gcd(nat.Mul(a, []uint32{12}), nat.Mul(b, []uint32{12})), []uint32{12})
 }

@@ -3,9 +3,6 @@ package nat_test
 import (
 	"fmt"
 	"slices"
-	"testing"
-
-	"tessel/api"
 )
 
 // A slow reckoning of its own, to hold nat against: lists of digits by a small base, the lowest one first, and nothing but school's ways.
@@ -151,31 +148,6 @@ func (d *dice) number(size int) []uint32 {
 		a[i] = d.digit()
 	}
 	return append(a, make([]uint32, d.next(3)/2)...)
-}
-
-// is tells where an answer isn't what is wanted, digit for digit: none may stand at the top that is 0.
-func is(t *testing.T, what string, got, want []uint32) {
-	t.Helper()
-	if !slices.Equal(got, want) {
-		t.Errorf("%s: %v, want %v", what, got, want)
-	}
-}
-
-// refused tells where a call isn't refused as it should be, or answers something beside the error.
-func refused(t *testing.T, what string, got []uint32, e, want api.Errno) {
-	t.Helper()
-	if e != want || len(got) != 0 {
-		t.Errorf("%s: %v, error %d, want error %d", what, got, e, want)
-	}
-}
-
-// taken tells where a call doesn't answer what is wanted.
-func taken(t *testing.T, what string, got []uint32, e api.Errno, want []uint32) {
-	t.Helper()
-	if e != api.OK {
-		t.Errorf("%s: error %d", what, e)
-	}
-	is(t, what, got, want)
 }
 
 // ones tells n digits, all of them the greatest.

@@ -8,6 +8,7 @@ import (
 
 	"tessel/api"
 	"tessel/nat"
+	"tessel/proof"
 )
 
 func TestNorm(t *testing.T) { // P1.1
@@ -16,7 +17,7 @@ func TestNorm(t *testing.T) { // P1.1
 		{[]uint32{1, 0, 0}, []uint32{1}}, {[]uint32{0, 0, 5, 0}, []uint32{0, 0, 5}}, {[]uint32{7, 1 << 31}, []uint32{7, 1 << 31}},
 		{make([]uint32, 100000), nil},
 	} {
-		is(t, fmt.Sprint("Norm of ", len(c.a), " digits"), nat.Norm(c.a), c.want)
+		proof.Is(t, fmt.Sprint("Norm of ", len(c.a), " digits"), nat.Norm(c.a), c.want)
 	}
 }
 
@@ -54,15 +55,15 @@ func TestBits(t *testing.T) { // P1.1
 }
 
 func TestAddCarries(t *testing.T) { // P1.1
-	is(t, "4294967295 + 1", nat.Add(ones(1), []uint32{1}), []uint32{0, 1})
-	is(t, "0 + 0", nat.Add([]uint32{0}, []uint32{0, 0}), nil)
+	proof.Is(t, "4294967295 + 1", nat.Add(ones(1), []uint32{1}), []uint32{0, 1})
+	proof.Is(t, "0 + 0", nat.Add([]uint32{0}, []uint32{0, 0}), nil)
 	for _, n := range []int{1, 2, 3, 50} {
 		next := append(make([]uint32, n), 1)
-		is(t, "a carry through all digits", nat.Add(ones(n), []uint32{1, 0}), next)
-		is(t, "a carry through all digits, turned round", nat.Add([]uint32{1}, ones(n)), next)
+		proof.Is(t, "a carry through all digits", nat.Add(ones(n), []uint32{1, 0}), next)
+		proof.Is(t, "a carry through all digits, turned round", nat.Add([]uint32{1}, ones(n)), next)
 		twice := append(ones(n), 1)
 		twice[0]--
-		is(t, "all digits' greatest, twice", nat.Add(ones(n), ones(n)), twice)
+		proof.Is(t, "all digits' greatest, twice", nat.Add(ones(n), ones(n)), twice)
 	}
 }
 
@@ -70,7 +71,7 @@ func TestSubBorrows(t *testing.T) { // P1.1
 	sub := func(what string, a, b, want []uint32) {
 		t.Helper()
 		got, e := nat.Sub(a, b)
-		taken(t, what, got, e, want)
+		proof.Taken(t, what, got, e, want)
 	}
 	for _, n := range []int{1, 2, 3, 50} {
 		next := append(make([]uint32, n), 1)
@@ -78,24 +79,24 @@ func TestSubBorrows(t *testing.T) { // P1.1
 		sub("all but one", next, ones(n), []uint32{1})
 		sub("itself", next, append(slices.Clone(next), 0), nil)
 		got, e := nat.Sub(ones(n), next)
-		refused(t, "one less than it takes away", got, e, api.ErrNeg)
+		proof.Refused(t, "one less than it takes away", got, e, api.ErrNeg)
 	}
 	sub("0 - 0", nil, []uint32{0}, nil)
 	got, e := nat.Sub([]uint32{9, 9, 0, 0}, []uint32{0, 10})
-	refused(t, "less, but with more digits", got, e, api.ErrNeg)
+	proof.Refused(t, "less, but with more digits", got, e, api.ErrNeg)
 	got, e = nat.Sub(nil, []uint32{1})
-	refused(t, "0 - 1", got, e, api.ErrNeg)
+	proof.Refused(t, "0 - 1", got, e, api.ErrNeg)
 }
 
 func TestMulEdges(t *testing.T) { // P1.1
-	is(t, "0 times much", nat.Mul([]uint32{0, 0}, ones(9)), nil)
-	is(t, "much times 0", nat.Mul(ones(9), nil), nil)
-	is(t, "1 times much", nat.Mul([]uint32{1, 0}, ones(9)), ones(9))
+	proof.Is(t, "0 times much", nat.Mul([]uint32{0, 0}, ones(9)), nil)
+	proof.Is(t, "much times 0", nat.Mul(ones(9), nil), nil)
+	proof.Is(t, "1 times much", nat.Mul([]uint32{1, 0}, ones(9)), ones(9))
 	for _, c := range [][2]int{{1, 1}, {2, 2}, {1, 40}, {40, 1}, {40, 40}, {33, 35}} {
 		m, n := c[0], c[1]
 		// (2^x - 1) (2^y - 1) = 2^(x + y) - 2^x - 2^y + 1
 		want := slowOf(power2(32 * (m + n))).sub(slowOf(power2(32 * m))).sub(slowOf(power2(32 * n))).add(slow{1})
-		is(t, "all digits' greatest", nat.Mul(ones(m), append(ones(n), 0)), want.digits())
+		proof.Is(t, "all digits' greatest", nat.Mul(ones(m), append(ones(n), 0)), want.digits())
 	}
 }
 
@@ -106,13 +107,13 @@ func TestSumsAgainstWords(t *testing.T) { // P1.1, on numbers that words of the 
 		x, y := []uint32{uint32(a), uint32(a >> 32)}, []uint32{uint32(b), uint32(b >> 32), 0}
 		sum, carry := bits.Add64(a, b, 0)
 		high, low := bits.Mul64(a, b)
-		is(t, "Add", nat.Add(x, y), nat.Norm([]uint32{uint32(sum), uint32(sum >> 32), uint32(carry)}))
-		is(t, "Mul", nat.Mul(x, y), nat.Norm([]uint32{uint32(low), uint32(low >> 32), uint32(high), uint32(high >> 32)}))
+		proof.Is(t, "Add", nat.Add(x, y), nat.Norm([]uint32{uint32(sum), uint32(sum >> 32), uint32(carry)}))
+		proof.Is(t, "Mul", nat.Mul(x, y), nat.Norm([]uint32{uint32(low), uint32(low >> 32), uint32(high), uint32(high >> 32)}))
 		left, e := nat.Sub(x, y)
 		if a < b {
-			refused(t, "Sub", left, e, api.ErrNeg)
+			proof.Refused(t, "Sub", left, e, api.ErrNeg)
 		} else {
-			taken(t, "Sub", left, e, nat.Norm([]uint32{uint32(a - b), uint32((a - b) >> 32)}))
+			proof.Taken(t, "Sub", left, e, nat.Norm([]uint32{uint32(a - b), uint32((a - b) >> 32)}))
 		}
 	}
 }
@@ -122,17 +123,17 @@ func TestSumsAgainstSlow(t *testing.T) { // P1.1
 	for range 3000 {
 		a, b := d.number(9), d.number(9)
 		s, u := slowOf(a), slowOf(b)
-		is(t, "Norm", nat.Norm(a), s.digits())
-		is(t, "Add", nat.Add(a, b), s.add(u).digits())
-		is(t, "Mul", nat.Mul(a, b), s.mul(u).digits())
+		proof.Is(t, "Norm", nat.Norm(a), s.digits())
+		proof.Is(t, "Add", nat.Add(a, b), s.add(u).digits())
+		proof.Is(t, "Mul", nat.Mul(a, b), s.mul(u).digits())
 		if nat.Cmp(a, b) != s.cmp(u) {
 			t.Errorf("Cmp(%v, %v): %d", a, b, nat.Cmp(a, b))
 		}
 		left, e := nat.Sub(a, b)
 		if s.cmp(u) < 0 {
-			refused(t, "Sub", left, e, api.ErrNeg)
+			proof.Refused(t, "Sub", left, e, api.ErrNeg)
 		} else {
-			taken(t, "Sub", left, e, s.sub(u).digits())
+			proof.Taken(t, "Sub", left, e, s.sub(u).digits())
 		}
 	}
 }
@@ -141,12 +142,12 @@ func TestRing(t *testing.T) { // P1.6
 	d := dice(3)
 	for range 1000 {
 		a, b, c := d.number(20), d.number(20), d.number(20)
-		is(t, "a + b = b + a", nat.Add(a, b), nat.Add(b, a))
-		is(t, "a b = b a", nat.Mul(a, b), nat.Mul(b, a))
-		is(t, "a + (b + c) = (a + b) + c", nat.Add(a, nat.Add(b, c)), nat.Add(nat.Add(a, b), c))
-		is(t, "a (b c) = (a b) c", nat.Mul(a, nat.Mul(b, c)), nat.Mul(nat.Mul(a, b), c))
-		is(t, "a (b + c) = a b + a c", nat.Mul(a, nat.Add(b, c)), nat.Add(nat.Mul(a, b), nat.Mul(a, c)))
+		proof.Is(t, "a + b = b + a", nat.Add(a, b), nat.Add(b, a))
+		proof.Is(t, "a b = b a", nat.Mul(a, b), nat.Mul(b, a))
+		proof.Is(t, "a + (b + c) = (a + b) + c", nat.Add(a, nat.Add(b, c)), nat.Add(nat.Add(a, b), c))
+		proof.Is(t, "a (b c) = (a b) c", nat.Mul(a, nat.Mul(b, c)), nat.Mul(nat.Mul(a, b), c))
+		proof.Is(t, "a (b + c) = a b + a c", nat.Mul(a, nat.Add(b, c)), nat.Add(nat.Mul(a, b), nat.Mul(a, c)))
 		left, e := nat.Sub(nat.Add(a, b), b)
-		taken(t, "a + b - b = a", left, e, nat.Norm(a))
+		proof.Taken(t, "a + b - b = a", left, e, nat.Norm(a))
 	}
 }

@@ -7,6 +7,7 @@ import (
 
 	"tessel/api"
 	"tessel/nat"
+	"tessel/proof"
 )
 
 func TestText(t *testing.T) { // P1.5
@@ -40,7 +41,7 @@ func TestTextTens(t *testing.T) { // P1.5: groups that are all noughts or all ni
 			t.Errorf("Text(10^%d - 1): %s", n, nat.Text(below))
 		}
 		got, e := nat.Parse("1" + strings.Repeat("0", n))
-		taken(t, fmt.Sprint("Parse(10^", n, ")"), got, e, ten)
+		proof.Taken(t, fmt.Sprint("Parse(10^", n, ")"), got, e, ten)
 	}
 }
 
@@ -52,26 +53,26 @@ func TestParse(t *testing.T) { // P1.5
 		{"0", nil}, {"000", nil}, {"0000000000000000000000", nil}, {"7", []uint32{7}}, {"007", []uint32{7}}, {"0004294967296", []uint32{0, 1}}, {"4294967295", ones(1)}, {"18446744073709551615", ones(2)}, {"18446744073709551616", []uint32{0, 0, 1}},
 	} {
 		got, e := nat.Parse(c.s)
-		taken(t, "Parse("+c.s+")", got, e, c.want)
+		proof.Taken(t, "Parse("+c.s+")", got, e, c.want)
 	}
 	for _, s := range []string{
 		"", "+1", "-1", "-", "+", " 1", "1 ", "1 2", "12a", "a12", "1_000", "0x10", "1e3", "1.0", "1/2", "1:2", "\x00", "1\n", "١", "1١", "\xff", "123456789/", "1234567890:", "/123456789", ":123456789",
 	} {
 		got, e := nat.Parse(s)
-		refused(t, fmt.Sprintf("Parse(%q)", s), got, e, api.ErrSyntax)
+		proof.Refused(t, fmt.Sprintf("Parse(%q)", s), got, e, api.ErrSyntax)
 	}
 }
 
 func TestParseLimits(t *testing.T) { // P1.5
 	noughts := strings.Repeat("0", 65535)
 	got, e := nat.Parse(noughts + "5")
-	taken(t, "65536 bytes", got, e, []uint32{5})
+	proof.Taken(t, "65536 bytes", got, e, []uint32{5})
 	got, e = nat.Parse(noughts + "05")
-	refused(t, "65537 bytes", got, e, api.ErrLimit)
+	proof.Refused(t, "65537 bytes", got, e, api.ErrLimit)
 	got, e = nat.Parse(strings.Repeat("x", 65537))
-	refused(t, "65537 bytes that are no digits: the first error that is named", got, e, api.ErrLimit)
+	proof.Refused(t, "65537 bytes that are no digits: the first error that is named", got, e, api.ErrLimit)
 	got, e = nat.Parse(noughts + "x")
-	refused(t, "65536 bytes, the last one no digit", got, e, api.ErrSyntax)
+	proof.Refused(t, "65536 bytes, the last one no digit", got, e, api.ErrSyntax)
 	nines := strings.Repeat("9", 65536)
 	got, e = nat.Parse(nines)
 	if e != api.OK || nat.Text(got) != nines {
@@ -85,8 +86,8 @@ func TestParseOfText(t *testing.T) { // P1.6
 		a := d.number(25)
 		text := nat.Text(a)
 		got, e := nat.Parse(text)
-		taken(t, "Parse("+text+")", got, e, nat.Norm(a))
+		proof.Taken(t, "Parse("+text+")", got, e, nat.Norm(a))
 		got, e = nat.Parse(strings.Repeat("0", d.next(20)) + text)
-		taken(t, "noughts and "+text, got, e, nat.Norm(a))
+		proof.Taken(t, "noughts and "+text, got, e, nat.Norm(a))
 	}
 }

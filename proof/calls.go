@@ -10,9 +10,10 @@ type T interface {
 
 // Call is a call of a package, told as what it makes of its arguments: all that it answers.
 type Call struct {
-	name  string
-	play  func(args []any) []any
-	twins bool
+	name string
+	play func(args []any) []any
+	// twins is how many arguments, from the first one on, are of one kind.
+	twins int
 }
 
 // All makes a list of what a call answers.
@@ -20,22 +21,42 @@ func All(answers ...any) []any { return answers }
 
 // One is a call of the first argument.
 func One[A any](name string, play func(a A) []any) Call {
-	return Call{name: name, play: func(args []any) []any { return play(args[0].(A)) }}
+	return Call{name, func(args []any) []any { return play(args[0].(A)) }, 1}
 }
 
 // Two is a call of the first two arguments.
 func Two[A, B any](name string, play func(a A, b B) []any) Call {
 	var a A
-	_, twins := any(a).(B)
+	twins := 1
+	if _, ok := any(a).(B); ok {
+		twins = 2
+	}
 	return Call{name, func(args []any) []any { return play(args[0].(A), args[1].(B)) }, twins}
 }
 
+// Many is a call of the first n arguments, which are of one kind.
+func Many[A any](name string, n int, play func(args []A) []any) Call {
+	return Call{name, func(args []any) []any {
+		var all []A
+		for _, v := range args[:n] {
+			all = append(all, v.(A))
+		}
+		return play(all)
+	}, n}
+}
+
 // Pairs lists the samples in all pairs, each as the arguments of a call.
-func Pairs[A any](samples []A) [][]any {
+func Pairs[A any](samples []A) [][]any { return Lists(samples, 2) }
+
+// Lists lists all lists of n of the samples, each as the arguments of a call.
+func Lists[A any](samples []A, n int) [][]any {
+	if n == 0 {
+		return [][]any{nil}
+	}
 	var all [][]any
-	for _, a := range samples {
-		for _, b := range samples {
-			all = append(all, []any{a, b})
+	for _, ahead := range Lists(samples, n-1) {
+		for _, v := range samples {
+			all = append(all, append(ahead[:n-1:n-1], v))
 		}
 	}
 	return all
@@ -114,23 +135,25 @@ func meets(v any, seen map[any]bool) bool {
 
 // sharing looks at rule R4 where lists that are handed in share memory: those of one argument, or those of two.
 func (c Call) sharing(args []any) string {
-	handed := Fresh(args)
-	for i, v := range handed {
-		handed[i] = folded(v)
+	foldedArgs := Fresh(args)
+	for i, v := range foldedArgs {
+		foldedArgs[i] = folded(v)
 	}
-	if fault := c.asApart(handed); fault != "" {
+	if fault := c.asApart(foldedArgs); fault != "" {
 		return fault
 	}
-	if !c.twins {
-		return ""
+	for j := range c.twins {
+		for i := range j {
+			for _, form := range [][]any{foldedArgs, Fresh(args)} {
+				handed := append([]any{}, form...)
+				handed[j] = handed[i]
+				if fault := c.asApart(handed); fault != "" {
+					return fault
+				}
+			}
+		}
 	}
-	handed[1] = handed[0]
-	if fault := c.asApart(handed); fault != "" {
-		return fault
-	}
-	handed = Fresh(args)
-	handed[1] = handed[0]
-	return c.asApart(handed)
+	return ""
 }
 
 // asApart looks whether a call answers the same as where no list shares memory with another one, and again in new memory.

@@ -103,6 +103,54 @@ func TestBadCalls(t *testing.T) {
 	}
 }
 
+func TestManyArguments(t *testing.T) {
+	lists := Lists([]api.G{{}, G(1, 2), G(-7, 3)}, 3)
+	if len(lists) != 27 || Show(lists[0]) != Show([]any{api.G{}, api.G{}, api.G{}}) || Show(lists[5]) != Show([]any{api.G{}, G(1, 2), G(-7, 3)}) || Show(lists[26]) != Show([]any{G(-7, 3), G(-7, 3), G(-7, 3)}) {
+		t.Errorf("lists of three: %v", lists)
+	}
+	meet := func(a, b api.Z) bool { return len(a.Mag) > 0 && len(b.Mag) > 0 && &a.Mag[0] == &b.Mag[0] }
+	for want, play := range map[string]func(a []api.G) []any{
+		"":                       func(a []api.G) []any { return All(Canon(a[2]), len(a)) },
+		"where memory is shared": func(a []api.G) []any { return All(meet(a[1].Re, a[2].Re)) },
+		"changes what":           func(a []api.G) []any { clear(a[2].Im.Mag); return All() },
+	} {
+		l := &listener{}
+		Check(l, []Call{Many("it", 3, play)}, lists)
+		if faults := strings.Join(l.faults, "\n"); !strings.Contains(faults, want) || want == "" && faults != "" {
+			t.Errorf("a call of three that %q: its faults are told as\n%s", want, faults)
+		}
+	}
+}
+
+func TestLooks(t *testing.T) {
+	for want, looks := range map[int][]func(l T){
+		0: {
+			func(l T) { Is(l, "it", Z(3), Z(3)) },
+			func(l T) { Taken(l, "it", []api.G{}, api.OK, nil) },
+			func(l T) { Refused(l, "it", api.G{}, api.ErrNone, api.ErrNone) },
+			func(l T) { Refused(l, "it", []uint32{}, api.ErrNone, api.ErrNone) },
+		},
+		1: {
+			func(l T) { Is(l, "it", Z(3), Z(4)) },
+			func(l T) { Is(l, "it", Longer(Z(3)), Z(3)) },
+			func(l T) { Taken(l, "it", Z(3), api.OK, Z(4)) },
+			func(l T) { Taken(l, "it", Z(3), api.ErrNone, Z(3)) },
+			func(l T) { Refused(l, "it", api.Z{}, api.OK, api.ErrNone) },
+			func(l T) { Refused(l, "it", api.Z{}, api.ErrZero, api.ErrNone) },
+			func(l T) { Refused(l, "it", Z(1), api.ErrNone, api.ErrNone) },
+			func(l T) { Refused(l, "it", api.Z{Neg: true}, api.ErrNone, api.ErrNone) },
+		},
+	} {
+		for i, look := range looks {
+			l := &listener{}
+			look(l)
+			if len(l.faults) != want {
+				t.Errorf("look %d of those that tell %d faults: %v", i, want, l.faults)
+			}
+		}
+	}
+}
+
 func TestForms(t *testing.T) {
 	for _, a := range append(Noughts(), Z(1), Z(-1), Z(1<<40), Power2(95), api.Z{Mag: []uint32{3, 0}}) {
 		form := Longer(a)

@@ -17,14 +17,14 @@ func divides(t *testing.T, name string, f division, a, b, q, r api.Z) {
 	t.Helper()
 	gotQ, gotR, e := f(a, b)
 	what := fmt.Sprintf("%s(%v, %v)", name, a, b)
-	taken(t, what+": q", gotQ, e, q)
-	taken(t, what+": r", gotR, e, r)
+	proof.Taken(t, what+": q", gotQ, e, q)
+	proof.Taken(t, what+": r", gotR, e, r)
 }
 
 func exactly(t *testing.T, a, b, want api.Z) {
 	t.Helper()
 	got, e := zint.Exact(a, b)
-	taken(t, fmt.Sprintf("Exact(%v, %v)", a, b), got, e, want)
+	proof.Taken(t, fmt.Sprintf("Exact(%v, %v)", a, b), got, e, want)
 }
 
 // floorOf tells the floor of n / m, and halfUp that of n / m + 1/2.
@@ -53,7 +53,7 @@ func TestDivisionsAgainstMachine(t *testing.T) { // P2.2
 						exactly(t, a, b, z(n/m))
 					} else {
 						got, e := zint.Exact(a, b)
-						refused(t, fmt.Sprintf("Exact(%d, %d)", n, m), got, e, api.ErrInexact)
+						proof.Refused(t, fmt.Sprintf("Exact(%d, %d)", n, m), got, e, api.ErrInexact)
 					}
 				}
 			}
@@ -66,11 +66,11 @@ func TestByZero(t *testing.T) { // P2.2
 		for _, b := range proof.Noughts() {
 			for name, f := range map[string]division{"FloorDiv": zint.FloorDiv, "RoundDiv": zint.RoundDiv} {
 				q, r, e := f(a, b)
-				refused(t, fmt.Sprintf("%s(%v, %v): q", name, a, b), q, e, api.ErrZero)
-				refused(t, fmt.Sprintf("%s(%v, %v): r", name, a, b), r, e, api.ErrZero)
+				proof.Refused(t, fmt.Sprintf("%s(%v, %v): q", name, a, b), q, e, api.ErrZero)
+				proof.Refused(t, fmt.Sprintf("%s(%v, %v): r", name, a, b), r, e, api.ErrZero)
 			}
 			got, e := zint.Exact(a, b)
-			refused(t, fmt.Sprintf("Exact(%v, %v)", a, b), got, e, api.ErrZero)
+			proof.Refused(t, fmt.Sprintf("Exact(%v, %v)", a, b), got, e, api.ErrZero)
 		}
 	}
 }
@@ -135,12 +135,12 @@ func TestDivisionLaws(t *testing.T) { // P2.5, P2.2 on long numbers
 	for range 4000 {
 		a, b := d.Z(8), d.ZNotZero(6)
 		q, r, e := zint.FloorDiv(a, b)
-		is(t, "FloorDiv: a = q b + r", zint.Add(zint.Mul(q, b), r), proof.Canon(a))
+		proof.Is(t, "FloorDiv: a = q b + r", zint.Add(zint.Mul(q, b), r), proof.Canon(a))
 		if e != api.OK || zint.Sign(r) != 0 && r.Neg != b.Neg || nat.Cmp(r.Mag, b.Mag) >= 0 || !proof.Alike(q, proof.Canon(q)) || !proof.Alike(r, proof.Canon(r)) {
 			t.Errorf("FloorDiv(%v, %v): %v, %v, error %d", a, b, q, r, e)
 		}
 		q, r, e = zint.RoundDiv(a, b)
-		is(t, "RoundDiv: a = q b + r", zint.Add(zint.Mul(q, b), r), proof.Canon(a))
+		proof.Is(t, "RoundDiv: a = q b + r", zint.Add(zint.Mul(q, b), r), proof.Canon(a))
 		double := zint.Add(r, r)
 		if b.Neg {
 			double = zint.Neg(double)
@@ -160,9 +160,9 @@ func TestExactLaws(t *testing.T) { // P2.2 on long numbers
 		exactly(t, a, b, proof.Canon(q))
 		if zint.Bits(b) > 1 {
 			got, e := zint.Exact(zint.Add(a, z(1)), b)
-			refused(t, fmt.Sprintf("Exact(%v + 1, %v)", a, b), got, e, api.ErrInexact)
+			proof.Refused(t, fmt.Sprintf("Exact(%v + 1, %v)", a, b), got, e, api.ErrInexact)
 			got, e = zint.Exact(zint.Sub(a, z(1)), b)
-			refused(t, fmt.Sprintf("Exact(%v - 1, %v)", a, b), got, e, api.ErrInexact)
+			proof.Refused(t, fmt.Sprintf("Exact(%v - 1, %v)", a, b), got, e, api.ErrInexact)
 		}
 	}
 }

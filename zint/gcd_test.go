@@ -41,9 +41,9 @@ func bezout(t *testing.T, a, b, g, x, y api.Z) {
 	t.Helper()
 	gotG, gotX, gotY := zint.Xgcd(a, b)
 	what := fmt.Sprintf("Xgcd(%v, %v)", a, b)
-	is(t, what+": g", gotG, g)
-	is(t, what+": x", gotX, x)
-	is(t, what+": y", gotY, y)
+	proof.Is(t, what+": g", gotG, g)
+	proof.Is(t, what+": x", gotX, x)
+	proof.Is(t, what+": y", gotY, y)
 }
 
 func TestGcdSmall(t *testing.T) { // P2.3
@@ -52,7 +52,7 @@ func TestGcdSmall(t *testing.T) { // P2.3
 			g, x, y := xgcdOf(n, m)
 			for _, a := range []api.Z{z(n), proof.Longer(z(n))} {
 				for _, b := range []api.Z{z(m), proof.Longer(z(m))} {
-					is(t, fmt.Sprintf("Gcd(%d, %d)", n, m), zint.Gcd(a, b), z(g))
+					proof.Is(t, fmt.Sprintf("Gcd(%d, %d)", n, m), zint.Gcd(a, b), z(g))
 					bezout(t, a, b, z(g), z(x), z(y))
 				}
 			}
@@ -63,7 +63,7 @@ func TestGcdSmall(t *testing.T) { // P2.3
 func TestXgcdEdges(t *testing.T) { // P2.3
 	for _, a := range proof.Noughts() {
 		for _, b := range proof.Noughts() {
-			is(t, "Gcd of 0s", zint.Gcd(a, b), z(0))
+			proof.Is(t, "Gcd of 0s", zint.Gcd(a, b), z(0))
 			bezout(t, a, b, z(0), z(0), z(0))
 		}
 		for _, n := range []api.Z{z(1), z(5), z(1 << 40), proof.Power2(200)} {
@@ -108,9 +108,9 @@ func TestXgcdLong(t *testing.T) { // P2.3, P2.5: what makes x and y the only one
 		common := d.ZNotZero(4)
 		a, b := zint.Mul(common, d.Z(6)), zint.Mul(common, d.ZNotZero(6))
 		g, x, y := zint.Xgcd(a, b)
-		is(t, "g", g, proof.Number(false, nat.Gcd(a.Mag, b.Mag)...))
-		is(t, "Gcd", zint.Gcd(a, b), g)
-		is(t, "a x + b y = g", zint.Add(zint.Mul(a, x), zint.Mul(b, y)), g)
+		proof.Is(t, "g", g, proof.Number(false, nat.Gcd(a.Mag, b.Mag)...))
+		proof.Is(t, "Gcd", zint.Gcd(a, b), g)
+		proof.Is(t, "a x + b y = g", zint.Add(zint.Mul(a, x), zint.Mul(b, y)), g)
 		period, e := zint.Exact(zint.Abs(b), g)
 		if e != api.OK || zint.Sign(x) < 0 || zint.Cmp(x, period) >= 0 || !proof.Alike(x, proof.Canon(x)) || !proof.Alike(y, proof.Canon(y)) {
 			t.Errorf("Xgcd(%v, %v): %v, %v, %v", a, b, g, x, y)
@@ -148,12 +148,12 @@ func TestInverseSmall(t *testing.T) { // P2.3
 					got, e := zint.Inverse(a, b)
 					what := fmt.Sprintf("Inverse(%d, %d)", n, m)
 					if m == 0 {
-						refused(t, what, got, e, api.ErrZero)
+						proof.Refused(t, what, got, e, api.ErrZero)
 					} else if gcdOf(n, m) != 1 {
-						refused(t, what, got, e, api.ErrNone)
+						proof.Refused(t, what, got, e, api.ErrNone)
 					} else {
 						_, x, _ := xgcdOf(n, m)
-						taken(t, what, got, e, z(x))
+						proof.Taken(t, what, got, e, z(x))
 					}
 				}
 			}
@@ -165,23 +165,23 @@ func TestInverseEdges(t *testing.T) { // P2.3: modulo 0, 1 and -1, and modulo lo
 	for _, a := range samples() {
 		for _, m := range proof.Noughts() {
 			got, e := zint.Inverse(a, m)
-			refused(t, fmt.Sprintf("Inverse(%v, %v)", a, m), got, e, api.ErrZero)
+			proof.Refused(t, fmt.Sprintf("Inverse(%v, %v)", a, m), got, e, api.ErrZero)
 		}
 		for _, m := range []api.Z{z(1), z(-1), proof.Longer(z(1)), proof.Longer(z(-1))} {
 			got, e := zint.Inverse(a, m)
-			taken(t, fmt.Sprintf("Inverse(%v, %v)", a, m), got, e, z(0))
+			proof.Taken(t, fmt.Sprintf("Inverse(%v, %v)", a, m), got, e, z(0))
 		}
 	}
 	for _, m := range []api.Z{z(2), z(-2), proof.Power2(64), minus(proof.Power2(64))} {
 		got, e := zint.Inverse(z(0), m)
-		refused(t, fmt.Sprintf("Inverse(0, %v)", m), got, e, api.ErrNone)
+		proof.Refused(t, fmt.Sprintf("Inverse(0, %v)", m), got, e, api.ErrNone)
 	}
 	d := proof.Dice(8)
 	for range 1000 {
 		a, m := d.Z(6), d.ZNotZero(6)
 		x, e := zint.Inverse(a, m)
 		if nat.Cmp(nat.Gcd(a.Mag, m.Mag), []uint32{1}) != 0 {
-			refused(t, fmt.Sprintf("Inverse(%v, %v)", a, m), x, e, api.ErrNone)
+			proof.Refused(t, fmt.Sprintf("Inverse(%v, %v)", a, m), x, e, api.ErrNone)
 			continue
 		}
 		_, inexact := zint.Exact(zint.Sub(zint.Mul(a, x), z(1)), m)

@@ -2,7 +2,6 @@ package zint_test
 
 import (
 	"slices"
-	"testing"
 
 	"tessel/api"
 	"tessel/nat"
@@ -20,31 +19,6 @@ func less1(a api.Z) api.Z {
 func more1(a api.Z) api.Z { return proof.Number(false, nat.Add(a.Mag, []uint32{1})...) }
 
 func minus(a api.Z) api.Z { return proof.Number(!a.Neg, slices.Clone(a.Mag)...) }
-
-// is tells where an answer isn't the number that is wanted, as it lies there: want is canonical.
-func is(t *testing.T, what string, got, want api.Z) {
-	t.Helper()
-	if !proof.Alike(got, want) {
-		t.Errorf("%s: %v, want %v", what, got, want)
-	}
-}
-
-// taken tells where a call doesn't answer what is wanted.
-func taken(t *testing.T, what string, got api.Z, e api.Errno, want api.Z) {
-	t.Helper()
-	if e != api.OK {
-		t.Errorf("%s: error %d", what, e)
-	}
-	is(t, what, got, want)
-}
-
-// refused tells where a call isn't refused as it should be, or answers something beside the error.
-func refused(t *testing.T, what string, got api.Z, e, want api.Errno) {
-	t.Helper()
-	if e != want || got.Neg || len(got.Mag) != 0 {
-		t.Errorf("%s: %v, error %d, want error %d", what, got, e, want)
-	}
-}
 
 // smalls are numbers of all pairs of which sums, products and quotients are held against the machine's.
 func smalls() []int64 {

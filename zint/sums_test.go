@@ -23,7 +23,7 @@ func TestFrom(t *testing.T) { // P2.1
 		{math.MaxInt64, api.Z{Mag: []uint32{1<<32 - 1, 1<<31 - 1}}}, {-math.MaxInt64, api.Z{Neg: true, Mag: []uint32{1<<32 - 1, 1<<31 - 1}}},
 		{math.MinInt64, api.Z{Neg: true, Mag: []uint32{0, 1 << 31}}},
 	} {
-		is(t, fmt.Sprint("From ", c.n), zint.From(c.n), c.want)
+		proof.Is(t, fmt.Sprint("From ", c.n), zint.From(c.n), c.want)
 	}
 }
 
@@ -87,18 +87,18 @@ func TestAgainstMachine(t *testing.T) { // P2.1
 	for _, n := range smalls() {
 		a := z(n)
 		for _, a := range []api.Z{a, proof.Longer(a)} {
-			is(t, fmt.Sprint("Neg ", n), zint.Neg(a), z(-n))
-			is(t, fmt.Sprint("Abs ", n), zint.Abs(a), z(max(n, -n)))
+			proof.Is(t, fmt.Sprint("Neg ", n), zint.Neg(a), z(-n))
+			proof.Is(t, fmt.Sprint("Abs ", n), zint.Abs(a), z(max(n, -n)))
 			if got := zint.Bits(a); got != bits.Len64(uint64(max(n, -n))) {
 				t.Errorf("Bits(%d): %d", n, got)
 			}
 		}
 		for _, m := range smalls() {
 			for _, b := range []api.Z{z(m), proof.Longer(z(m))} {
-				is(t, fmt.Sprint(n, " + ", m), zint.Add(a, b), z(n+m))
-				is(t, fmt.Sprint(n, " - ", m), zint.Sub(a, b), z(n-m))
-				is(t, fmt.Sprint(m, " - ", n), zint.Sub(b, a), z(m-n))
-				is(t, fmt.Sprint(n, " * ", m), zint.Mul(a, b), product(n, m))
+				proof.Is(t, fmt.Sprint(n, " + ", m), zint.Add(a, b), z(n+m))
+				proof.Is(t, fmt.Sprint(n, " - ", m), zint.Sub(a, b), z(n-m))
+				proof.Is(t, fmt.Sprint(m, " - ", n), zint.Sub(b, a), z(m-n))
+				proof.Is(t, fmt.Sprint(n, " * ", m), zint.Mul(a, b), product(n, m))
 				if zint.Cmp(a, b) != cmp.Compare(n, m) {
 					t.Errorf("Cmp(%d, %d): %d", n, m, zint.Cmp(a, b))
 				}
@@ -124,11 +124,11 @@ func TestSumsAgainstNat(t *testing.T) { // P2.1, on long numbers: amounts by nat
 		} else if a.Neg != b.Neg {
 			sum = proof.Number(b.Neg, amount(b, a)...)
 		}
-		is(t, fmt.Sprint(a, " + ", b), zint.Add(a, b), sum)
-		is(t, fmt.Sprint(a, " - -", b), zint.Sub(a, minus(b)), sum)
-		is(t, fmt.Sprint(a, " * ", b), zint.Mul(a, b), proof.Number(a.Neg != b.Neg, nat.Mul(a.Mag, b.Mag)...))
-		is(t, "Neg", zint.Neg(a), minus(a))
-		is(t, "Abs", zint.Abs(a), proof.Number(false, proof.Canon(a).Mag...))
+		proof.Is(t, fmt.Sprint(a, " + ", b), zint.Add(a, b), sum)
+		proof.Is(t, fmt.Sprint(a, " - -", b), zint.Sub(a, minus(b)), sum)
+		proof.Is(t, fmt.Sprint(a, " * ", b), zint.Mul(a, b), proof.Number(a.Neg != b.Neg, nat.Mul(a.Mag, b.Mag)...))
+		proof.Is(t, "Neg", zint.Neg(a), minus(a))
+		proof.Is(t, "Abs", zint.Abs(a), proof.Number(false, proof.Canon(a).Mag...))
 		if zint.Bits(a) != nat.Bits(a.Mag) {
 			t.Errorf("Bits(%v): %d", a, zint.Bits(a))
 		}
@@ -139,16 +139,16 @@ func TestRing(t *testing.T) { // P2.5
 	d := proof.Dice(3)
 	for range 1000 {
 		a, b, c := d.Z(8), d.Z(8), d.Z(8)
-		is(t, "a + b = b + a", zint.Add(a, b), zint.Add(b, a))
-		is(t, "a b = b a", zint.Mul(a, b), zint.Mul(b, a))
-		is(t, "a + (b + c) = (a + b) + c", zint.Add(a, zint.Add(b, c)), zint.Add(zint.Add(a, b), c))
-		is(t, "a (b c) = (a b) c", zint.Mul(a, zint.Mul(b, c)), zint.Mul(zint.Mul(a, b), c))
-		is(t, "a (b + c) = a b + a c", zint.Mul(a, zint.Add(b, c)), zint.Add(zint.Mul(a, b), zint.Mul(a, c)))
-		is(t, "a + 0 = a", zint.Add(a, z(0)), proof.Canon(a))
-		is(t, "a 1 = a", zint.Mul(a, z(1)), proof.Canon(a))
-		is(t, "a + -a = 0", zint.Add(a, zint.Neg(a)), z(0))
-		is(t, "a - b = a + -b", zint.Sub(a, b), zint.Add(a, zint.Neg(b)))
-		is(t, "a b - b a = 0", zint.Sub(zint.Mul(a, b), zint.Mul(b, a)), z(0))
+		proof.Is(t, "a + b = b + a", zint.Add(a, b), zint.Add(b, a))
+		proof.Is(t, "a b = b a", zint.Mul(a, b), zint.Mul(b, a))
+		proof.Is(t, "a + (b + c) = (a + b) + c", zint.Add(a, zint.Add(b, c)), zint.Add(zint.Add(a, b), c))
+		proof.Is(t, "a (b c) = (a b) c", zint.Mul(a, zint.Mul(b, c)), zint.Mul(zint.Mul(a, b), c))
+		proof.Is(t, "a (b + c) = a b + a c", zint.Mul(a, zint.Add(b, c)), zint.Add(zint.Mul(a, b), zint.Mul(a, c)))
+		proof.Is(t, "a + 0 = a", zint.Add(a, z(0)), proof.Canon(a))
+		proof.Is(t, "a 1 = a", zint.Mul(a, z(1)), proof.Canon(a))
+		proof.Is(t, "a + -a = 0", zint.Add(a, zint.Neg(a)), z(0))
+		proof.Is(t, "a - b = a + -b", zint.Sub(a, b), zint.Add(a, zint.Neg(b)))
+		proof.Is(t, "a b - b a = 0", zint.Sub(zint.Mul(a, b), zint.Mul(b, a)), z(0))
 		if zint.Cmp(a, b) != zint.Sign(zint.Sub(a, b)) || zint.Cmp(a, b) != zint.Cmp(zint.Add(a, c), zint.Add(b, c)) {
 			t.Errorf("Cmp(%v, %v) does not go along with differences or sums", a, b)
 		}

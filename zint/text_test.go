@@ -47,13 +47,13 @@ func TestParse(t *testing.T) { // P2.4
 		{"0", z(0)}, {"-0", z(0)}, {"000", z(0)}, {"-000000000000000000000000", z(0)}, {"7", z(7)}, {"-7", z(-7)}, {"-007", z(-7)}, {"007", z(7)}, {"9223372036854775808", proof.Power2(63)}, {"-9223372036854775808", z(math.MinInt64)}, {"18446744073709551616", proof.Power2(64)}, {"-18446744073709551616", minus(proof.Power2(64))},
 	} {
 		got, e := zint.Parse(c.s)
-		taken(t, "Parse("+c.s+")", got, e, c.want)
+		proof.Taken(t, "Parse("+c.s+")", got, e, c.want)
 	}
 	for _, s := range []string{
 		"", "-", "--1", "--", "+1", "+", "-+1", "+-1", "1-", "-1-", "1-2", " 1", "-1 ", "- 1", " -1", "1 2", "-a", "12a", "0x10", "-0x1", "1_000", "1e3", "1.0", "-1/2", "−1", "–1", "\x00", "-1\n", "١", "\xff", "-/", "-:",
 	} {
 		got, e := zint.Parse(s)
-		refused(t, fmt.Sprintf("Parse(%q)", s), got, e, api.ErrSyntax)
+		proof.Refused(t, fmt.Sprintf("Parse(%q)", s), got, e, api.ErrSyntax)
 	}
 }
 
@@ -61,7 +61,7 @@ func TestParseLimits(t *testing.T) { // P2.4: texts of MaxText bytes and one mor
 	noughts := strings.Repeat("0", api.MaxText-2)
 	for s, want := range map[string]int64{noughts + "05": 5, "-" + noughts + "5": -5, "-" + noughts + "0": 0} {
 		got, e := zint.Parse(s)
-		taken(t, fmt.Sprint(len(s), " bytes"), got, e, z(want))
+		proof.Taken(t, fmt.Sprint(len(s), " bytes"), got, e, z(want))
 	}
 	nines := strings.Repeat("9", api.MaxText-1)
 	for _, s := range []string{"-" + nines, "9" + nines} {
@@ -72,11 +72,11 @@ func TestParseLimits(t *testing.T) { // P2.4: texts of MaxText bytes and one mor
 	}
 	for _, s := range []string{noughts + "005", "-" + noughts + "05", "-9" + nines, "99" + nines, "--" + nines, strings.Repeat("x", api.MaxText+1), strings.Repeat("-", api.MaxText+1)} {
 		got, e := zint.Parse(s)
-		refused(t, fmt.Sprintf("%d bytes, %s..", len(s), s[:3]), got, e, api.ErrLimit)
+		proof.Refused(t, fmt.Sprintf("%d bytes, %s..", len(s), s[:3]), got, e, api.ErrLimit)
 	}
 	for _, s := range []string{"-" + noughts + "x", noughts + "0x", "--" + noughts, strings.Repeat("-", api.MaxText)} {
 		got, e := zint.Parse(s)
-		refused(t, fmt.Sprintf("%d bytes, %s..", len(s), s[:3]), got, e, api.ErrSyntax)
+		proof.Refused(t, fmt.Sprintf("%d bytes, %s..", len(s), s[:3]), got, e, api.ErrSyntax)
 	}
 }
 
@@ -85,6 +85,6 @@ func TestParseOfText(t *testing.T) { // P2.4
 	for range 500 {
 		a := d.Z(20)
 		got, e := zint.Parse(zint.Text(a))
-		taken(t, fmt.Sprintf("Parse(Text(%v))", a), got, e, proof.Canon(a))
+		proof.Taken(t, fmt.Sprintf("Parse(Text(%v))", a), got, e, proof.Canon(a))
 	}
 }
