@@ -1,0 +1,145 @@
+package gres_test
+
+import (
+	"fmt"
+	"math"
+
+	"tessel/api"
+	"tessel/gint"
+	"tessel/proof"
+	"tessel/zint"
+)
+
+func z(n int64) api.Z { return proof.Z(n) }
+
+func g(re, im int64) api.G { return proof.G(re, im) }
+
+// Small numbers are the machine's complex ones, which are exact as long as their parts are whole and below 2^53.
+
+func whole(a complex128) api.G { return g(int64(real(a)), int64(imag(a))) }
+
+func conj(a complex128) complex128 { return complex(real(a), -imag(a)) }
+
+func norm(a complex128) float64 { return real(a * conj(a)) }
+
+// divides tells whether m divides a. m is not 0.
+func divides(m, a complex128) bool {
+	top := a * conj(m)
+	return math.Mod(real(top), norm(m)) == 0 && math.Mod(imag(top), norm(m)) == 0
+}
+
+// inSquare tells whether r / m lies in the half-open square.
+func inSquare(r, m complex128) bool {
+	twice, n := 2*r*conj(m), norm(m)
+	return -n <= real(twice) && real(twice) < n && -n <= imag(twice) && imag(twice) < n
+}
+
+// square lists all numbers whose parts are at most n in amount.
+func square(n int) []complex128 {
+	var list []complex128
+	for re := -n; re <= n; re++ {
+		for im := -n; im <= n; im++ {
+			list = append(list, complex(float64(re), float64(im)))
+		}
+	}
+	return list
+}
+
+// moduli lists all numbers whose parts are at most n in amount, but 0.
+func moduli(n int) []complex128 {
+	var list []complex128
+	for _, m := range square(n) {
+		if m != 0 {
+			list = append(list, m)
+		}
+	}
+	return list
+}
+
+// residuesOf lists all residues by m, looked for among all numbers that may be ones.
+func residuesOf(m complex128) []complex128 {
+	var list []complex128
+	for _, r := range square(int(math.Sqrt(norm(m)))) {
+		if inSquare(r, m) {
+			list = append(list, r)
+		}
+	}
+	return list
+}
+
+// pick tells the one number of a list that is as it is asked for, and whether there is just one.
+func pick(list []complex128, is func(r complex128) bool) (complex128, bool) {
+	var found []complex128
+	for _, r := range list {
+		if is(r) {
+			found = append(found, r)
+		}
+	}
+	if len(found) != 1 {
+		return 0, false
+	}
+	return found[0], true
+}
+
+// residueOf tells the one of m's residues that is the same as a.
+func residueOf(residues []complex128, a, m complex128) complex128 {
+	r, _ := pick(residues, func(r complex128) bool { return divides(m, a-r) })
+	return r
+}
+
+// forms are those in which one number may be handed in.
+func forms(a complex128) []api.G {
+	b := whole(a)
+	return []api.G{b, proof.Longer(b), {Re: proof.Longer(b.Re), Im: b.Im}, {Re: b.Re, Im: proof.Longer(b.Im)}}
+}
+
+// noughts are forms of 0.
+func noughts() []api.G {
+	var list []api.G
+	for _, nought := range proof.Noughts() {
+		list = append(list, api.G{Re: nought}, api.G{Im: nought}, api.G{Re: nought, Im: proof.Fresh(nought)})
+	}
+	return list
+}
+
+// called names a call with its arguments, whatever their forms.
+func called(name string, args ...api.G) string {
+	for i, a := range args {
+		name += []string{"(", ", "}[min(i, 1)] + gint.Text(a)
+	}
+	return name + ")"
+}
+
+// fault tells where r is no residue, or is not the same as a by m, or is not canonical; else nothing. m is not 0.
+func fault(r, a, m api.G) string {
+	if !proof.Alike(r, proof.Canon(r)) {
+		return fmt.Sprintf("not canonical: %v", r)
+	}
+	if !sameBy(r, a, m) {
+		return gint.Text(r) + " is not the same by the modulus as " + gint.Text(a)
+	}
+	place, n := gint.Mul(r, gint.Conj(m)), gint.Norm(m)
+	for _, part := range []api.Z{place.Re, place.Im} {
+		twice := zint.Add(part, part)
+		if zint.Cmp(twice, zint.Neg(n)) < 0 || zint.Cmp(twice, n) >= 0 {
+			return gint.Text(r) + " lies outside of the square"
+		}
+	}
+	return ""
+}
+
+// sameBy tells whether m divides a - b. m is not 0.
+func sameBy(a, b, m api.G) bool {
+	_, e := gint.Exact(gint.Sub(a, b), m)
+	return e == api.OK
+}
+
+// isResidue tells a fault where an answer is not a's residue by m.
+func isResidue(t proof.T, what string, got api.G, e api.Errno, a, m api.G) {
+	t.Helper()
+	if e != api.OK {
+		t.Errorf("%s: error %d", what, e)
+	} else if f := fault(got, a, m); f != "" {
+		t.Errorf("%s: %s", what, f)
+	}
+}
