@@ -38,8 +38,8 @@ func TestDivisionsAgainstMachine(t *testing.T) { // P4.3
 			}
 			q := x.over(y)
 			r := x.less(q.times(y))
-			for k, a := range forms(x.whole()) {
-				b := forms(y.whole())[3-k]
+			for k, a := range proof.Forms(x.whole()) {
+				b := proof.Forms(y.whole())[3-k]
 				divides(t, a, b, q.whole(), r.whole())
 				if r.norm() == 0 {
 					exactly(t, a, b, q.whole())
@@ -69,7 +69,7 @@ func TestBorders(t *testing.T) { // P4.3: the square's sides: the lower and the 
 
 func TestDivisionByZero(t *testing.T) { // P4.3
 	for _, a := range samples() {
-		for _, b := range noughts() {
+		for _, b := range proof.GNoughts() {
 			what := fmt.Sprintf("(%v, %v)", a, b)
 			q, r, e := gint.RoundDiv(a, b)
 			proof.Refused(t, "RoundDiv"+what+": q", q, e, api.ErrZero)

@@ -46,8 +46,8 @@ func follows(t *testing.T, a, b api.G) {
 func TestXgcdOfSmall(t *testing.T) { // P4.4
 	for _, x := range square(5) {
 		for _, y := range square(3) {
-			for k, a := range forms(x.whole()) {
-				follows(t, a, forms(y.whole())[3-k])
+			for k, a := range proof.Forms(x.whole()) {
+				follows(t, a, proof.Forms(y.whole())[3-k])
 			}
 		}
 	}
@@ -79,8 +79,8 @@ func TestGcdByTrial(t *testing.T) { // P4.4, P4.7
 }
 
 func TestXgcdEdges(t *testing.T) { // P4.4
-	for _, a := range noughts() {
-		for _, b := range noughts() {
+	for _, a := range proof.GNoughts() {
+		for _, b := range proof.GNoughts() {
 			bezout(t, a, b, g(0, 0), g(1, 0), g(0, 0))
 		}
 		for _, c := range []api.G{g(2, 1), g(3, 0), {Re: proof.Power2(300), Im: z(7)}} {

@@ -54,11 +54,6 @@ func square(n int64) []small {
 	return list
 }
 
-// forms are those in which one number may be handed in.
-func forms(a api.G) []api.G {
-	return []api.G{a, proof.Longer(a), {Re: proof.Longer(a.Re), Im: a.Im}, {Re: a.Re, Im: proof.Longer(a.Im)}}
-}
-
 // show tells both parts, whatever their form.
 func show(a api.G) string { return "(" + zint.Text(a.Re) + "," + zint.Text(a.Im) + ")" }
 
@@ -85,18 +80,9 @@ func isZero(a api.G) bool { return zint.Sign(a.Re) == 0 && zint.Sign(a.Im) == 0 
 // inFirst tells whether it lies in the first quadrant.
 func inFirst(a api.G) bool { return zint.Sign(a.Re) > 0 && zint.Sign(a.Im) >= 0 }
 
-// noughts are forms of 0.
-func noughts() []api.G {
-	var list []api.G
-	for _, nought := range proof.Noughts() {
-		list = append(list, api.G{Re: nought}, api.G{Im: nought}, api.G{Re: nought, Im: proof.Fresh(nought)})
-	}
-	return list
-}
-
 // samples are numbers of all kinds and forms.
 func samples() []api.G {
-	list := noughts()[19:]
+	list := proof.GNoughts()[19:]
 	for _, a := range []small{{1, 0}, {0, 1}, {-1, 0}, {0, -1}, {1, 1}, {-2, 1}, {2, -3}, {-4, -1}, {5, 0}, {0, -7}, {1 << 32, -1 << 40}} {
 		list = append(list, a.whole())
 	}

@@ -23,8 +23,8 @@ func TestFrom(t *testing.T) { // P4.1
 func TestRingAgainstMachine(t *testing.T) { // P4.1
 	for _, x := range square(4) {
 		for _, y := range square(4) {
-			for k, a := range forms(x.whole()) {
-				b := forms(y.whole())[3-k]
+			for k, a := range proof.Forms(x.whole()) {
+				b := proof.Forms(y.whole())[3-k]
 				what := fmt.Sprint(" of ", x, " and ", y)
 				proof.Is(t, "Add"+what, gint.Add(a, b), x.plus(y).whole())
 				proof.Is(t, "Sub"+what, gint.Sub(a, b), x.less(y).whole())
@@ -34,7 +34,7 @@ func TestRingAgainstMachine(t *testing.T) { // P4.1
 				}
 			}
 		}
-		for _, a := range forms(x.whole()) {
+		for _, a := range proof.Forms(x.whole()) {
 			proof.Is(t, fmt.Sprint("Neg of ", x), gint.Neg(a), g(-x.re, -x.im))
 			proof.Is(t, fmt.Sprint("Conj of ", x), gint.Conj(a), g(x.re, -x.im))
 			if got := gint.Norm(a); !proof.Alike(got, z(x.norm())) {
@@ -63,11 +63,11 @@ func TestRingOfLong(t *testing.T) { // P4.1
 }
 
 func TestEqual(t *testing.T) { // P4.1
-	list := append(noughts()[:1], g(1, 0), g(0, 1), g(-1, 0), g(0, -1), g(1, 1), g(1, -1), g(5, 7), g(7, 5), api.G{Re: proof.Power2(64)}, api.G{Im: proof.Power2(64)}, api.G{Re: proof.Power2(64), Im: z(1)}, api.G{Re: proof.Power2(32), Im: proof.Power2(64)})
+	list := append(proof.GNoughts()[:1], g(1, 0), g(0, 1), g(-1, 0), g(0, -1), g(1, 1), g(1, -1), g(5, 7), g(7, 5), api.G{Re: proof.Power2(64)}, api.G{Im: proof.Power2(64)}, api.G{Re: proof.Power2(64), Im: z(1)}, api.G{Re: proof.Power2(32), Im: proof.Power2(64)})
 	for i, x := range list {
 		for j, y := range list {
-			for _, a := range forms(x) {
-				for _, b := range forms(y) {
+			for _, a := range proof.Forms(x) {
+				for _, b := range proof.Forms(y) {
 					if got := gint.Equal(a, b); got != (i == j) {
 						t.Errorf("Equal(%v, %v): %v", a, b, got)
 					}
@@ -79,14 +79,14 @@ func TestEqual(t *testing.T) { // P4.1
 
 func TestIsUnit(t *testing.T) { // P4.1
 	for _, u := range []api.G{g(1, 0), g(0, 1), g(-1, 0), g(0, -1)} {
-		for _, a := range forms(u) {
+		for _, a := range proof.Forms(u) {
 			if !gint.IsUnit(a) {
 				t.Errorf("IsUnit(%v): false", a)
 			}
 		}
 	}
-	for _, x := range append(noughts(), g(1, 1), g(-1, 1), g(1, -1), g(2, 0), g(0, -2), g(3, 0), g(1<<32, 0), g(0, 1<<32), g(1, 1<<32), g(1<<32+1, 0), api.G{Re: proof.Power2(64), Im: z(1)}) {
-		for _, a := range forms(x) {
+	for _, x := range append(proof.GNoughts(), g(1, 1), g(-1, 1), g(1, -1), g(2, 0), g(0, -2), g(3, 0), g(1<<32, 0), g(0, 1<<32), g(1, 1<<32), g(1<<32+1, 0), api.G{Re: proof.Power2(64), Im: z(1)}) {
+		for _, a := range proof.Forms(x) {
 			if gint.IsUnit(a) {
 				t.Errorf("IsUnit(%v): true", a)
 			}
@@ -138,7 +138,7 @@ func TestCanon(t *testing.T) { // P4.2
 		{small{5, 5}, small{5, 5}, 0}, {small{-5, 5}, small{5, 5}, 3}, {small{-5, -5}, small{5, 5}, 2}, {small{5, -5}, small{5, 5}, 1},
 		{small{1, 0}, small{1, 0}, 0}, {small{0, 1}, small{1, 0}, 3}, {small{-1, 0}, small{1, 0}, 2}, {small{0, -1}, small{1, 0}, 1},
 	} {
-		for _, a := range forms(c.a.whole()) {
+		for _, a := range proof.Forms(c.a.whole()) {
 			h, k := gint.Canon(a)
 			proof.Is(t, fmt.Sprintf("Canon(%v)", a), h, c.want.whole())
 			if k != c.k {
@@ -169,9 +169,9 @@ func TestOrder(t *testing.T) { // P4.5
 	}
 	for i, x := range rising {
 		for j, y := range rising {
-			for k, a := range forms(x.whole()) {
+			for k, a := range proof.Forms(x.whole()) {
 				want := max(-1, min(1, i-j))
-				if got := gint.Cmp(a, forms(y.whole())[3-k]); got != want {
+				if got := gint.Cmp(a, proof.Forms(y.whole())[3-k]); got != want {
 					t.Errorf("Cmp(%v, %v): %d, want %d", x, y, got, want)
 				}
 			}

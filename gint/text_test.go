@@ -23,13 +23,13 @@ func TestText(t *testing.T) { // P4.6
 		{small{3, -2}, "3-2i"}, {small{3, 2}, "3+2i"}, {small{-3, 2}, "-3+2i"}, {small{-3, -2}, "-3-2i"}, {small{10, 10}, "10+10i"},
 		{small{math.MinInt64, math.MinInt64}, "-9223372036854775808-9223372036854775808i"}, {small{math.MaxInt64, 1 << 32}, "9223372036854775807+4294967296i"},
 	} {
-		for _, a := range forms(c.a.whole()) {
+		for _, a := range proof.Forms(c.a.whole()) {
 			if got := gint.Text(a); got != c.want {
 				t.Errorf("Text(%v): %s, want %s", a, got, c.want)
 			}
 		}
 	}
-	for _, a := range noughts() {
+	for _, a := range proof.GNoughts() {
 		if got := gint.Text(a); got != "0" {
 			t.Errorf("Text(%v): %s, want 0", a, got)
 		}

@@ -31,7 +31,7 @@ func TestInverseAgainstMachine(t *testing.T) { // P5.2, P5.4: there is none just
 func TestInverseEdges(t *testing.T) { // P5.2
 	units := []api.G{g(1, 0), g(0, 1), g(-1, 0), g(0, -1)}
 	for k, m := range units {
-		for _, a := range append(noughts(), g(1, 0), g(4, 0), g(-7, 12), api.G{Re: proof.Power2(200)}) {
+		for _, a := range append(proof.GNoughts(), g(1, 0), g(4, 0), g(-7, 12), api.G{Re: proof.Power2(200)}) {
 			got, e := gres.Inverse(a, m)
 			proof.Taken(t, called("Inverse", a, m), got, e, g(0, 0))
 		}
@@ -39,7 +39,7 @@ func TestInverseEdges(t *testing.T) { // P5.2
 		proof.Taken(t, called("Inverse", m, g(5, 0)), got, e, gint.Turn(g(1, 0), -k))
 	}
 	for _, m := range []api.G{g(2, 0), g(1, 1), g(-5, 0), {Im: proof.Power2(90)}} {
-		for _, a := range append(noughts(), m, gint.Neg(m), gint.Mul(m, g(3, -7))) {
+		for _, a := range append(proof.GNoughts(), m, gint.Neg(m), gint.Mul(m, g(3, -7))) {
 			got, e := gres.Inverse(a, m)
 			proof.Refused(t, called("Inverse", a, m), got, e, api.ErrNone)
 		}

@@ -87,7 +87,7 @@ func TestTooManyResidues(t *testing.T) { // P5.3: ErrLimit, ahead of ErrNone
 		proof.Refused(t, called("All", m), list, e, api.ErrLimit)
 		units, e := gres.Units(m)
 		proof.Refused(t, called("Units", m), units, e, api.ErrLimit)
-		for _, a := range append(noughts()[:1], g(1, 0), g(2, 1), m) {
+		for _, a := range append(proof.GNoughts()[:1], g(1, 0), g(2, 1), m) {
 			order, e := gres.Order(a, m)
 			proof.Refused(t, called("Order", a, m), order, e, api.ErrLimit)
 		}
@@ -147,7 +147,7 @@ func TestOrder(t *testing.T) { // P5.3
 func TestOrderEdges(t *testing.T) { // P5.3
 	for k := range 4 {
 		unit := gint.Turn(g(1, 0), k)
-		for _, a := range append(noughts(), g(7, 0), unit, api.G{Im: proof.Power2(100)}) {
+		for _, a := range append(proof.GNoughts(), g(7, 0), unit, api.G{Im: proof.Power2(100)}) {
 			got, e := gres.Order(a, unit)
 			proof.Taken(t, called("Order", a, unit), got, e, 1)
 		}
@@ -156,7 +156,7 @@ func TestOrderEdges(t *testing.T) { // P5.3
 		got, e = gres.Order(unit, g(2, 0)) // -1 is the same as 1 here
 		proof.Taken(t, called("Order", unit, g(2, 0)), got, e, []int{1, 2, 1, 2}[k])
 	}
-	for _, a := range append(noughts(), g(1, 1), g(64, 0), g(2, 0), g(-3, 5)) {
+	for _, a := range append(proof.GNoughts(), g(1, 1), g(64, 0), g(2, 0), g(-3, 5)) {
 		got, e := gres.Order(a, g(64, 0))
 		proof.Refused(t, called("Order", a, g(64, 0)), got, e, api.ErrNone)
 	}

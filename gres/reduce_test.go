@@ -87,7 +87,7 @@ func TestPowAgainstMachine(t *testing.T) { // P5.1
 
 func TestPowEdges(t *testing.T) { // P5.1
 	for _, n := range proof.Noughts() { // a^0 is 1, of 0 too; below a unit all is 0
-		for _, a := range append(noughts()[:1], g(1, 0), g(-4, 7), api.G{Re: proof.Power2(200)}) {
+		for _, a := range append(proof.GNoughts()[:1], g(1, 0), g(-4, 7), api.G{Re: proof.Power2(200)}) {
 			got, e := gres.Pow(a, n, g(5, 0))
 			proof.Taken(t, called("Pow of 0 times ", a), got, e, g(1, 0))
 			got, e = gres.Pow(a, n, g(1, 1))
@@ -146,7 +146,7 @@ func TestPowBelowZero(t *testing.T) { // P5.1: ErrArg, behind ErrZero
 				proof.Refused(t, called("Pow by "+zint.Text(n), a, m), got, e, api.ErrArg)
 			}
 		}
-		for _, m := range noughts() {
+		for _, m := range proof.GNoughts() {
 			got, e := gres.Pow(g(2, 1), n, m)
 			proof.Refused(t, called("Pow by "+zint.Text(n), m), got, e, api.ErrZero)
 		}
@@ -167,8 +167,8 @@ func TestCount(t *testing.T) { // P5.1
 }
 
 func TestModulusZero(t *testing.T) { // P5.1 to P5.3: all calls are refused, whatever else is wrong
-	for _, m := range noughts() {
-		for _, a := range append(noughts()[:3], g(1, 0), g(-3, 2), api.G{Im: proof.Power2(100)}) {
+	for _, m := range proof.GNoughts() {
+		for _, a := range append(proof.GNoughts()[:3], g(1, 0), g(-3, 2), api.G{Im: proof.Power2(100)}) {
 			what := called("a modulus of 0", a)
 			got, e := gres.Reduce(a, m)
 			proof.Refused(t, what+": Reduce", got, e, api.ErrZero)

@@ -88,19 +88,7 @@ func residueOf(residues []complex128, a, m complex128) complex128 {
 }
 
 // forms are those in which one number may be handed in.
-func forms(a complex128) []api.G {
-	b := whole(a)
-	return []api.G{b, proof.Longer(b), {Re: proof.Longer(b.Re), Im: b.Im}, {Re: b.Re, Im: proof.Longer(b.Im)}}
-}
-
-// noughts are forms of 0.
-func noughts() []api.G {
-	var list []api.G
-	for _, nought := range proof.Noughts() {
-		list = append(list, api.G{Re: nought}, api.G{Im: nought}, api.G{Re: nought, Im: proof.Fresh(nought)})
-	}
-	return list
-}
+func forms(a complex128) []api.G { return proof.Forms(whole(a)) }
 
 // called names a call with its arguments, whatever their forms.
 func called(name string, args ...api.G) string {

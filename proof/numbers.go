@@ -34,6 +34,20 @@ func Noughts() []api.Z {
 	return []api.Z{{}, {Neg: true}, {Mag: []uint32{}}, {Neg: true, Mag: []uint32{}}, {Mag: []uint32{0}}, {Neg: true, Mag: []uint32{0}}, {Neg: true, Mag: []uint32{0, 0, 0}}}
 }
 
+// GNoughts are forms in which the Gaussian 0 may be handed in.
+func GNoughts() []api.G {
+	var list []api.G
+	for _, nought := range Noughts() {
+		list = append(list, api.G{Re: nought}, api.G{Im: nought}, api.G{Re: nought, Im: Fresh(nought)})
+	}
+	return list
+}
+
+// Forms are four in which one Gaussian integer may be handed in.
+func Forms(a api.G) []api.G {
+	return []api.G{a, Longer(a), {Re: Longer(a.Re), Im: a.Im}, {Re: a.Re, Im: Longer(a.Im)}}
+}
+
 // Dice tell numbers that come in the same order at each run.
 type Dice uint64
 

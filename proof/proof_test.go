@@ -173,6 +173,27 @@ func TestForms(t *testing.T) {
 	}
 }
 
+func TestGaussianForms(t *testing.T) {
+	for _, a := range append(numbers, GNoughts()...) {
+		forms := Forms(a)
+		for i, form := range forms {
+			if !Alike(Canon(form), Canon(a)) {
+				t.Errorf("Forms(%v): %v has another value", a, form)
+			}
+			for _, other := range forms[:i] {
+				if Alike(form, other) {
+					t.Errorf("Forms(%v): %v comes twice", a, form)
+				}
+			}
+		}
+	}
+	for _, nought := range GNoughts() {
+		if !isZero(Canon(nought)) {
+			t.Errorf("GNoughts: %v", nought)
+		}
+	}
+}
+
 func TestDice(t *testing.T) {
 	d, e := Dice(1), Dice(1)
 	long, zero := false, false
