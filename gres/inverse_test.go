@@ -13,8 +13,8 @@ import (
 func TestInverseAgainstMachine(t *testing.T) { // P5.2, P5.4: there is none just if no residue makes 1
 	for _, m := range moduli(5) {
 		residues := residuesOf(m)
-		for _, a := range square(5) {
-			want, ok := pick(residues, func(x complex128) bool { return divides(m, a*x-1) })
+		for _, a := range proof.Square(5) {
+			want, ok := pick(residues, func(x complex128) bool { return proof.Divides(m, a*x-1) })
 			for k, x := range forms(a) {
 				y := forms(m)[3-k]
 				got, e := gres.Inverse(x, y)
@@ -80,7 +80,7 @@ func TestCrtAgainstMachine(t *testing.T) { // P5.2
 			for k, a := range []complex128{0, 1, -3 + 2i, 5i, 4 - 1i} {
 				for l, b := range []complex128{0, 1, 2 + 1i, -4i} {
 					// Where there are common divisors, two or none or more of the residues are the same as both; but of one alone it's never so.
-					want, ok := pick(residues, func(r complex128) bool { return divides(m, r-a) && divides(n, r-b) })
+					want, ok := pick(residues, func(r complex128) bool { return proof.Divides(m, r-a) && proof.Divides(n, r-b) })
 					what := fmt.Sprintf("Crt(%v, %v, %v, %v)", a, m, b, n)
 					got, e := gres.Crt(forms(a)[k%4], forms(m)[l], forms(b)[3-l], forms(n)[k%4])
 					if ok {

@@ -12,14 +12,7 @@ import (
 
 // rising tells a list's numbers by norm, then real part, then imaginary part.
 func rising(list []complex128) []api.G {
-	slices.SortFunc(list, func(a, b complex128) int {
-		for _, less := range []float64{norm(a) - norm(b), real(a) - real(b), imag(a) - imag(b)} {
-			if less != 0 {
-				return int(less)
-			}
-		}
-		return 0
-	})
+	slices.SortFunc(list, proof.Compare)
 	var all []api.G
 	for _, a := range list {
 		all = append(all, whole(a))
@@ -32,7 +25,7 @@ func unitsOf(m complex128) []complex128 {
 	residues := residuesOf(m)
 	var list []complex128
 	for _, r := range residues {
-		if slices.ContainsFunc(residues, func(x complex128) bool { return divides(m, r*x-1) }) {
+		if slices.ContainsFunc(residues, func(x complex128) bool { return proof.Divides(m, r*x-1) }) {
 			list = append(list, r)
 		}
 	}
@@ -58,7 +51,7 @@ func TestAll(t *testing.T) { // P5.3
 		for k, x := range forms(m) {
 			got, e := gres.All(x)
 			proof.Taken(t, called("All", x), got, e, want)
-			if k == 0 && int(norm(m)) != len(want) {
+			if k == 0 && int(proof.Norm(m)) != len(want) {
 				t.Errorf("%s: %d are looked for", called("All", x), len(want))
 			}
 		}
@@ -118,7 +111,7 @@ func TestUnits(t *testing.T) { // P5.3
 func orderOf(residues []complex128, a, m complex128) int {
 	power := residueOf(residues, a, m)
 	for k := 1; k <= len(residues); k++ {
-		if divides(m, power-1) {
+		if proof.Divides(m, power-1) {
 			return k
 		}
 		power = residueOf(residues, power*a, m)
@@ -129,7 +122,7 @@ func orderOf(residues []complex128, a, m complex128) int {
 func TestOrder(t *testing.T) { // P5.3
 	for _, m := range moduli(4) {
 		residues := residuesOf(m)
-		for _, a := range square(4) {
+		for _, a := range proof.Square(4) {
 			want := orderOf(residues, a, m)
 			for k, x := range forms(a) {
 				y := forms(m)[3-k]

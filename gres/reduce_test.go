@@ -14,7 +14,7 @@ import (
 func TestReduceAgainstMachine(t *testing.T) { // P5.1
 	for _, m := range moduli(5) {
 		residues := residuesOf(m)
-		for _, a := range square(7) {
+		for _, a := range proof.Square(7) {
 			want := whole(residueOf(residues, a, m))
 			for k, x := range forms(a) {
 				y := forms(m)[3-k]
@@ -53,8 +53,8 @@ func TestReduceLong(t *testing.T) { // P5.1
 func TestMul(t *testing.T) { // P5.1
 	for _, m := range moduli(3) {
 		residues := residuesOf(m)
-		for _, a := range square(3) {
-			for _, b := range square(3) {
+		for _, a := range proof.Square(3) {
+			for _, b := range proof.Square(3) {
 				got, e := gres.Mul(whole(a), whole(b), whole(m))
 				proof.Taken(t, fmt.Sprintf("Mul(%v, %v, %v)", a, b, m), got, e, whole(residueOf(residues, a*b, m)))
 			}
@@ -71,7 +71,7 @@ func TestMul(t *testing.T) { // P5.1
 func TestPowAgainstMachine(t *testing.T) { // P5.1
 	for _, m := range moduli(3) {
 		residues := residuesOf(m)
-		for _, a := range square(3) {
+		for _, a := range proof.Square(3) {
 			want := residueOf(residues, 1, m)
 			for n := range 18 {
 				what := fmt.Sprintf("Pow(%v, %d, %v)", a, n, m)

@@ -14,41 +14,18 @@ func z(n int64) api.Z { return proof.Z(n) }
 
 func g(re, im int64) api.G { return proof.G(re, im) }
 
-// Small numbers are the machine's complex ones, which are exact as long as their parts are whole and below 2^53.
-
-func whole(a complex128) api.G { return g(int64(real(a)), int64(imag(a))) }
-
-func conj(a complex128) complex128 { return complex(real(a), -imag(a)) }
-
-func norm(a complex128) float64 { return real(a * conj(a)) }
-
-// divides tells whether m divides a. m is not 0.
-func divides(m, a complex128) bool {
-	top := a * conj(m)
-	return math.Mod(real(top), norm(m)) == 0 && math.Mod(imag(top), norm(m)) == 0
-}
+func whole(a complex128) api.G { return proof.Whole(a) }
 
 // inSquare tells whether r / m lies in the half-open square.
 func inSquare(r, m complex128) bool {
-	twice, n := 2*r*conj(m), norm(m)
+	twice, n := 2*r*proof.Conj(m), proof.Norm(m)
 	return -n <= real(twice) && real(twice) < n && -n <= imag(twice) && imag(twice) < n
-}
-
-// square lists all numbers whose parts are at most n in amount.
-func square(n int) []complex128 {
-	var list []complex128
-	for re := -n; re <= n; re++ {
-		for im := -n; im <= n; im++ {
-			list = append(list, complex(float64(re), float64(im)))
-		}
-	}
-	return list
 }
 
 // moduli lists all numbers whose parts are at most n in amount, but 0.
 func moduli(n int) []complex128 {
 	var list []complex128
-	for _, m := range square(n) {
+	for _, m := range proof.Square(n) {
 		if m != 0 {
 			list = append(list, m)
 		}
@@ -59,7 +36,7 @@ func moduli(n int) []complex128 {
 // residuesOf lists all residues by m, looked for among all numbers that may be ones.
 func residuesOf(m complex128) []complex128 {
 	var list []complex128
-	for _, r := range square(int(math.Sqrt(norm(m)))) {
+	for _, r := range proof.Square(int(math.Sqrt(proof.Norm(m)))) {
 		if inSquare(r, m) {
 			list = append(list, r)
 		}
@@ -83,7 +60,7 @@ func pick(list []complex128, is func(r complex128) bool) (complex128, bool) {
 
 // residueOf tells the one of m's residues that is the same as a.
 func residueOf(residues []complex128, a, m complex128) complex128 {
-	r, _ := pick(residues, func(r complex128) bool { return divides(m, a-r) })
+	r, _ := pick(residues, func(r complex128) bool { return proof.Divides(m, a-r) })
 	return r
 }
 

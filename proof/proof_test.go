@@ -194,6 +194,24 @@ func TestGaussianForms(t *testing.T) {
 	}
 }
 
+func TestMachine(t *testing.T) {
+	Is(t, "Whole", Whole(-3+7i), G(-3, 7))
+	Is(t, "Conj", Whole(Conj(2-5i)), G(2, 5))
+	Is(t, "Norm", Norm(3-4i), 25.0)
+	for a, want := range map[complex128]bool{0: true, 5: true, 3 + 4i: true, 2 - 1i: false, 1: false, 2 + 2i: false, -1 + 2i: true} {
+		Is(t, "Divides", Divides(2+1i, a), want)
+	}
+	for i, a := range []complex128{0, -1, -1i, 1i, 1, 1 - 1i, 1 + 1i, -2} {
+		for j, b := range []complex128{0, -1, -1i, 1i, 1, 1 - 1i, 1 + 1i, -2} {
+			Is(t, "Compare", Compare(a, b), max(-1, min(1, i-j)))
+		}
+	}
+	list := Square(2)
+	if len(list) != 25 || !slices.Contains(list, -2+2i) || len(slices.Compact(list)) != 25 {
+		t.Errorf("Square(2): %v", list)
+	}
+}
+
 func TestDice(t *testing.T) {
 	d, e := Dice(1), Dice(1)
 	long, zero := false, false
