@@ -45,9 +45,9 @@ func smalls(size int64, test func(n, d int64)) {
 func TestMakeSmall(t *testing.T) { // P3.1
 	smalls(40, func(n, d int64) {
 		got, e := frac.Make(z(n), z(d))
-		proof.Taken(t, fmt.Sprintf("Make(%d, %d)", n, d), got, e, low(n, d))
+		proof.Taken(t, fmt.Sprintf("Make(%d, %d)", n, d), got, e, proof.Low(n, d))
 		got, e = frac.Make(proof.Longer(z(n)), proof.Longer(z(d)))
-		proof.Taken(t, fmt.Sprintf("Make(%d, %d) with noughts", n, d), got, e, low(n, d))
+		proof.Taken(t, fmt.Sprintf("Make(%d, %d) with noughts", n, d), got, e, proof.Low(n, d))
 	})
 }
 
@@ -63,7 +63,7 @@ func TestMakeEdges(t *testing.T) { // P3.1
 		got, e := frac.Make(c.n, c.d)
 		proof.Taken(t, fmt.Sprintf("Make(%v, %v)", c.n, c.d), got, e, c.want)
 	}
-	for _, a := range hollows() {
+	for _, a := range proof.Hollows() {
 		got, e := frac.Make(a.Num, a.Den)
 		proof.Refused(t, fmt.Sprintf("Make(%v, %v)", a.Num, a.Den), got, e, api.ErrZero)
 	}
@@ -90,7 +90,7 @@ func TestFieldSmall(t *testing.T) { // P3.1
 					proof.Refused(t, what, got, e, api.ErrZero)
 					return
 				}
-				proof.Taken(t, what, got, e, low(num, den))
+				proof.Taken(t, what, got, e, proof.Low(num, den))
 			})
 		})
 	}
@@ -101,8 +101,8 @@ func TestFieldForms(t *testing.T) { // P3.1: digits 0 at the top, Neg of 0, sign
 		smalls(3, func(n, d int64) {
 			smalls(2, func(m, c int64) {
 				want, wantE := o.play(q(n, d), q(m, c))
-				for _, a := range forms(q(n, d)) {
-					for _, b := range forms(q(m, c)) {
+				for _, a := range proof.QForms(q(n, d)) {
+					for _, b := range proof.QForms(q(m, c)) {
 						if got, e := o.play(a, b); e != wantE || !proof.Alike(got, want) {
 							t.Errorf("%s(%v, %v): %v, error %d, want %v, error %d", o.name, a, b, got, e, want, wantE)
 						}
@@ -114,8 +114,8 @@ func TestFieldForms(t *testing.T) { // P3.1: digits 0 at the top, Neg of 0, sign
 }
 
 func TestDenZero(t *testing.T) { // each call but Of and Parse: a Den of 0, on either side, whatever else is wrong
-	for _, a := range hollows() {
-		for _, b := range append(hollows(), q(0, 1), q(0, -2), q(1, 2), q(-3, 1)) {
+	for _, a := range proof.Hollows() {
+		for _, b := range append(proof.Hollows(), q(0, 1), q(0, -2), q(1, 2), q(-3, 1)) {
 			for _, o := range operations() {
 				got, e := o.play(a, b)
 				proof.Refused(t, fmt.Sprintf("%s(%v, %v)", o.name, a, b), got, e, api.ErrZero)
@@ -146,7 +146,7 @@ func TestDenZero(t *testing.T) { // each call but Of and Parse: a Den of 0, on e
 
 func TestQuoByZero(t *testing.T) { // P3.1
 	for _, a := range []api.Q{q(0, 1), q(1, 2), q(-3, 1), {Num: proof.Power2(100), Den: z(-3)}} {
-		for _, b := range forms(q(0, 7)) {
+		for _, b := range proof.QForms(q(0, 7)) {
 			got, e := frac.Quo(a, b)
 			proof.Refused(t, fmt.Sprintf("Quo(%v, %v)", a, b), got, e, api.ErrZero)
 		}
@@ -156,7 +156,7 @@ func TestQuoByZero(t *testing.T) { // P3.1
 func TestFieldLong(t *testing.T) { // P3.1: the only answer, on long numbers
 	d := proof.Dice(3)
 	for range 1500 {
-		a, b := rational(&d, 6), rational(&d, 6)
+		a, b := d.Q(6), d.Q(6)
 		what := fmt.Sprintf("of %v and %v", a, b)
 		left, right, den := zint.Mul(a.Num, b.Den), zint.Mul(b.Num, a.Den), zint.Mul(a.Den, b.Den)
 		got, e := frac.Add(a, b)
@@ -196,8 +196,8 @@ func TestCmpNear(t *testing.T) { // P3.1: numbers that no float tells apart
 	}
 	for n := int64(-3); n <= 3; n++ {
 		for m := int64(-3); m <= 3; m++ {
-			for _, a := range forms(near(n)) {
-				for _, b := range forms(near(m)) {
+			for _, a := range proof.QForms(near(n)) {
+				for _, b := range proof.QForms(near(m)) {
 					if got, e := frac.Cmp(a, b); got != cmp.Compare(n, m) || e != api.OK {
 						t.Errorf("Cmp of near numbers %d and %d: %d, error %d", n, m, got, e)
 					}
@@ -207,19 +207,8 @@ func TestCmpNear(t *testing.T) { // P3.1: numbers that no float tells apart
 	}
 }
 
-// must tells the answer of a call that may not be refused here.
-func must(t *testing.T) func(a api.Q, e api.Errno) api.Q {
-	return func(a api.Q, e api.Errno) api.Q {
-		t.Helper()
-		if e != api.OK {
-			t.Errorf("refused with error %d", e)
-		}
-		return a
-	}
-}
-
 func TestFieldLaws(t *testing.T) { // P3.4
-	d, ok := proof.Dice(4), must(t)
+	d, ok := proof.Dice(4), proof.Must[api.Q](t)
 	same := func(what string, a, b api.Q) {
 		t.Helper()
 		if !proof.Alike(a, b) {
@@ -227,7 +216,7 @@ func TestFieldLaws(t *testing.T) { // P3.4
 		}
 	}
 	for range 600 {
-		a, b, c := rational(&d, 5), rational(&d, 5), rational(&d, 5)
+		a, b, c := d.Q(5), d.Q(5), d.Q(5)
 		same("a + b = b + a", ok(frac.Add(a, b)), ok(frac.Add(b, a)))
 		same("a b = b a", ok(frac.Mul(a, b)), ok(frac.Mul(b, a)))
 		same("a + (b + c) = (a + b) + c", ok(frac.Add(a, ok(frac.Add(b, c)))), ok(frac.Add(ok(frac.Add(a, b)), c)))

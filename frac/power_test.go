@@ -32,7 +32,7 @@ func TestHalves(t *testing.T) { // P3.2
 	for _, k := range []api.Z{z(0), z(1), z(-1), z(2), z(-2), z(1 << 40), z(-1 << 62), proof.Power2(90), zint.Neg(proof.Power2(90))} {
 		half := api.Q{Num: zint.Add(zint.Add(k, k), z(1)), Den: z(2)}
 		above := zint.Add(k, z(1))
-		for _, a := range forms(half) {
+		for _, a := range proof.QForms(half) {
 			got, e := frac.Floor(a)
 			proof.Taken(t, fmt.Sprintf("Floor(%v)", a), got, e, k)
 			got, e = frac.Round(a)
@@ -49,7 +49,7 @@ func TestHalves(t *testing.T) { // P3.2
 }
 
 func TestRoundingLaws(t *testing.T) { // P3.2, P3.4
-	d, ok := proof.Dice(7), must(t)
+	d, ok := proof.Dice(7), proof.Must[api.Q](t)
 	inRange := func(what string, rest, from, below api.Q) {
 		t.Helper()
 		low, _ := frac.Cmp(rest, from)
@@ -59,7 +59,7 @@ func TestRoundingLaws(t *testing.T) { // P3.2, P3.4
 		}
 	}
 	for range 1000 {
-		a := rational(&d, 6)
+		a := d.Q(6)
 		floor, e := frac.Floor(a)
 		proof.Taken(t, "Floor, canonical", floor, e, proof.Number(floor.Neg, floor.Mag...))
 		inRange("a - Floor(a)", ok(frac.Sub(a, api.Q{Num: floor, Den: z(1)})), q(0, 1), q(1, 1))
@@ -84,7 +84,7 @@ func TestPowSmall(t *testing.T) { // P3.2
 
 func TestPowAnyN(t *testing.T) { // P3.2: of 0, 1 and -1 all powers are taken
 	for n, isOdd := range map[int]bool{0: false, 1: true, 2: false, 3: true, 65536: false, 65537: true, 1 << 40: false, 1 << 62: false, 1<<62 + 1: true, math.MaxInt - 1: false, math.MaxInt: true} {
-		for _, a := range forms(q(1, 1)) {
+		for _, a := range proof.QForms(q(1, 1)) {
 			got, e := frac.Pow(a, n)
 			proof.Taken(t, fmt.Sprintf("Pow(%v, %d)", a, n), got, e, q(1, 1))
 		}
@@ -95,11 +95,11 @@ func TestPowAnyN(t *testing.T) { // P3.2: of 0, 1 and -1 all powers are taken
 		if n == 0 {
 			nought = q(1, 1)
 		}
-		for _, a := range forms(q(-1, 1)) {
+		for _, a := range proof.QForms(q(-1, 1)) {
 			got, e := frac.Pow(a, n)
 			proof.Taken(t, fmt.Sprintf("Pow(%v, %d)", a, n), got, e, turned)
 		}
-		for _, a := range forms(q(0, 3)) {
+		for _, a := range proof.QForms(q(0, 3)) {
 			got, e := frac.Pow(a, n)
 			proof.Taken(t, fmt.Sprintf("Pow(%v, %d)", a, n), got, e, nought)
 		}
@@ -124,7 +124,7 @@ func TestPowLimit(t *testing.T) { // P3.2: at the border of ErrLimit, by the num
 	for _, size := range []int{2, 3, 5, 31, 32, 33, 64, 255, 1000, 32767, 32768, 32769, 65535, 65536, 65537, 65568, 131072} {
 		top := api.MaxShift / size
 		for _, a := range sized(size) {
-			for _, b := range []api.Q{{Num: a, Den: z(1)}, {Num: z(1), Den: a}, {Num: zint.Neg(a), Den: z(1)}, {Num: z(-1), Den: a}, proof.Longer(times(api.Q{Num: a, Den: z(1)}, z(-3)))} {
+			for _, b := range []api.Q{{Num: a, Den: z(1)}, {Num: z(1), Den: a}, {Num: zint.Neg(a), Den: z(1)}, {Num: z(-1), Den: a}, proof.Longer(proof.Times(api.Q{Num: a, Den: z(1)}, z(-3)))} {
 				for _, n := range []int{top + 1, top + 2, math.MaxInt} {
 					got, e := frac.Pow(b, n)
 					proof.Refused(t, fmt.Sprintf("Pow of %d bits, %d", size, n), got, e, api.ErrLimit)
@@ -171,9 +171,9 @@ func TestPowLowestTerms(t *testing.T) { // P3.2: the limit goes by lowest terms
 }
 
 func TestPowLaws(t *testing.T) { // P3.2: on long numbers
-	d, ok := proof.Dice(8), must(t)
+	d, ok := proof.Dice(8), proof.Must[api.Q](t)
 	for range 150 {
-		a, n, m := rational(&d, 4), d.Next(20), d.Next(20)
+		a, n, m := d.Q(4), d.Next(20), d.Next(20)
 		product := ok(frac.Mul(ok(frac.Pow(a, n)), ok(frac.Pow(a, m))))
 		got, e := frac.Pow(a, n+m)
 		proof.Taken(t, fmt.Sprintf("Pow(%v, %d + %d)", a, n, m), got, e, product)

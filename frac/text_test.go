@@ -14,7 +14,7 @@ import (
 
 func TestText(t *testing.T) { // P3.3
 	smalls(30, func(n, d int64) {
-		lowest := low(n, d)
+		lowest := proof.Low(n, d)
 		num, _ := zint.Int(lowest.Num)
 		den, _ := zint.Int(lowest.Den)
 		want := strconv.FormatInt(num, 10)
@@ -28,7 +28,7 @@ func TestText(t *testing.T) { // P3.3
 		}
 	})
 	long := api.Q{Num: zint.Neg(proof.Power2(64)), Den: zint.Add(proof.Power2(65), z(1))}
-	for _, a := range forms(long) {
+	for _, a := range proof.QForms(long) {
 		if got, e := frac.Text(a); got != "-18446744073709551616/36893488147419103233" || e != api.OK {
 			t.Errorf("Text(%v): %s, error %d", a, got, e)
 		}
@@ -103,9 +103,9 @@ func TestParseLongest(t *testing.T) { // P3.3: both numbers as long as they may 
 }
 
 func TestParseOfText(t *testing.T) { // P3.4
-	d, ok := proof.Dice(9), must(t)
+	d, ok := proof.Dice(9), proof.Must[api.Q](t)
 	for range 500 {
-		a := rational(&d, 12)
+		a := d.Q(12)
 		text, _ := frac.Text(a)
 		got, e := frac.Parse(text)
 		proof.Taken(t, "Parse("+text+")", got, e, ok(frac.Make(a.Num, a.Den)))

@@ -25,3 +25,14 @@ func Refused[V any](t T, what string, got V, e, want api.Errno) {
 		t.Errorf("%s: %v, error %d, want error %d", what, got, e, want)
 	}
 }
+
+// Must tells the answer of a call that may not be refused.
+func Must[V any](t T) func(a V, e api.Errno) V {
+	return func(a V, e api.Errno) V {
+		t.Helper()
+		if e != api.OK {
+			t.Errorf("refused with error %d", e)
+		}
+		return a
+	}
+}

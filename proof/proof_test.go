@@ -7,6 +7,7 @@ import (
 	"testing"
 
 	"tessel/api"
+	"tessel/zint"
 )
 
 // listener is told the faults that are looked for.
@@ -129,6 +130,7 @@ func TestLooks(t *testing.T) {
 			func(l T) { Taken(l, "it", []api.G{}, api.OK, nil) },
 			func(l T) { Refused(l, "it", api.G{}, api.ErrNone, api.ErrNone) },
 			func(l T) { Refused(l, "it", []uint32{}, api.ErrNone, api.ErrNone) },
+			func(l T) { Is(l, "it", Must[api.Z](l)(Z(3), api.OK), Z(3)) },
 		},
 		1: {
 			func(l T) { Is(l, "it", Z(3), Z(4)) },
@@ -138,6 +140,7 @@ func TestLooks(t *testing.T) {
 			func(l T) { Refused(l, "it", api.Z{}, api.OK, api.ErrNone) },
 			func(l T) { Refused(l, "it", api.Z{}, api.ErrZero, api.ErrNone) },
 			func(l T) { Refused(l, "it", Z(1), api.ErrNone, api.ErrNone) },
+			func(l T) { Must[api.Z](l)(Z(3), api.ErrNone) },
 			func(l T) { Refused(l, "it", api.Z{Neg: true}, api.ErrNone, api.ErrNone) },
 		},
 	} {
@@ -194,6 +197,36 @@ func TestGaussianForms(t *testing.T) {
 	}
 }
 
+func TestRationals(t *testing.T) {
+	Is(t, "Q", Q(-6, 4), api.Q{Num: Z(-6), Den: Z(4)})
+	Is(t, "Low", Low(-6, -4), Q(3, 2))
+	Is(t, "Low, of a Den below 0", Low(6, -4), Q(-3, 2))
+	Is(t, "Low of 0", Low(0, -7), Q(0, 1))
+	for _, a := range []api.Q{Q(-3, 4), Q(-15, 20), Q(3, -4)} {
+		forms := QForms(a)
+		for i, form := range forms {
+			if !isMinus3By4(form) {
+				t.Errorf("QForms(%v): %v has another value", a, form)
+			}
+			for _, other := range forms[:i] {
+				if Alike(form, other) {
+					t.Errorf("QForms(%v): %v comes twice", a, form)
+				}
+			}
+		}
+	}
+	for _, a := range Hollows() {
+		if !isZero(Canon(a.Den)) {
+			t.Errorf("Hollows: %v", a)
+		}
+	}
+}
+
+// isMinus3By4 tells whether a rational is -3/4, by products across.
+func isMinus3By4(a api.Q) bool {
+	return Alike(zint.Mul(a.Num, Z(4)), zint.Mul(a.Den, Z(-3)))
+}
+
 func TestMachine(t *testing.T) {
 	Is(t, "Whole", Whole(-3+7i), G(-3, 7))
 	Is(t, "Conj", Whole(Conj(2-5i)), G(2, 5))
@@ -214,17 +247,22 @@ func TestMachine(t *testing.T) {
 
 func TestDice(t *testing.T) {
 	d, e := Dice(1), Dice(1)
-	long, zero := false, false
+	long, zero, below := false, false, false
 	for range 200 {
 		a := d.G(4)
 		if !Alike(a, e.G(4)) || isZero(Canon(d.GNotZero(1))) || isZero(Canon(d.ZNotZero(1))) {
 			t.Error("Dice")
 		}
-		e = d
 		long = long || len(a.Re.Mag) > 0 && a.Re.Mag[len(a.Re.Mag)-1] == 0
 		zero = zero || len(Canon(a.Im).Mag) == 0
+		q := d.Q(2)
+		below = below || q.Den.Neg
+		if isZero(Canon(q.Den)) {
+			t.Errorf("a rational over 0: %v", q)
+		}
+		e = d
 	}
-	if !long || !zero {
+	if !long || !zero || !below {
 		t.Error("Dice: some kinds of numbers do not come")
 	}
 }
