@@ -9,7 +9,7 @@ type anyList interface {
 	room() any
 	places() []any
 	rebuilt(number func(a api.Z) api.Z) any
-	// repeated is a list of the same length that holds the first item everywhere.
+	// repeated is a list of the same length that holds the first item everywhere, folded itself.
 	repeated() any
 }
 
@@ -74,8 +74,12 @@ func (l list[L, E]) rebuilt(number func(a api.Z) api.Z) any {
 
 func (l list[L, E]) repeated() any {
 	all := make(L, len(l.items))
+	if len(all) == 0 {
+		return all
+	}
+	first := folded(l.items[0]).(E)
 	for i := range all {
-		all[i] = l.items[0]
+		all[i] = first
 	}
 	return all
 }

@@ -24,7 +24,8 @@ var numbers = []api.G{{}, G(1, 0), G(-7, 3), {Re: Power2(40), Im: Z(-1)}, {Re: a
 // played tells the faults of a call of two Gaussian integers.
 func played(play func(a, b api.G) []any) string {
 	l := &listener{}
-	Check(l, []Call{Two("it", play)}, Pairs(numbers))
+	// Some of the calls write over their arguments: each has its own.
+	Check(l, []Call{Two("it", play)}, Pairs(Fresh(numbers)))
 	return strings.Join(l.faults, "\n")
 }
 
@@ -105,7 +106,8 @@ func TestBadCalls(t *testing.T) {
 }
 
 func TestManyArguments(t *testing.T) {
-	lists := Lists([]api.G{{}, G(1, 2), G(-7, 3)}, 3)
+	kinds := []api.G{{}, G(1, 2), G(-7, 3)}
+	lists := Lists(kinds, 3)
 	if len(lists) != 27 || Show(lists[0]) != Show([]any{api.G{}, api.G{}, api.G{}}) || Show(lists[5]) != Show([]any{api.G{}, G(1, 2), G(-7, 3)}) || Show(lists[26]) != Show([]any{G(-7, 3), G(-7, 3), G(-7, 3)}) {
 		t.Errorf("lists of three: %v", lists)
 	}
@@ -116,9 +118,28 @@ func TestManyArguments(t *testing.T) {
 		"changes what":           func(a []api.G) []any { clear(a[2].Im.Mag); return All() },
 	} {
 		l := &listener{}
-		Check(l, []Call{Many("it", 3, play)}, lists)
+		Check(l, []Call{Many("it", 3, play)}, Lists(Fresh(kinds), 3))
 		if faults := strings.Join(l.faults, "\n"); !strings.Contains(faults, want) || want == "" && faults != "" {
 			t.Errorf("a call of three that %q: its faults are told as\n%s", want, faults)
+		}
+	}
+}
+
+func TestSharedRows(t *testing.T) {
+	meet := func(a, b api.Z) bool { return len(a.Mag) > 0 && len(b.Mag) > 0 && &a.Mag[0] == &b.Mag[0] }
+	for want, play := range map[string]func(m api.M) []any{
+		"":                       func(m api.M) []any { return All(Canon(m), len(m)) },
+		"where memory is shared": func(m api.M) []any { return All(len(m) > 0 && len(m[0]) > 1 && meet(m[0][0].Re, m[0][1].Re)) },
+		"is (true) where memory": func(m api.M) []any { return All(len(m) > 1 && len(m[1]) > 0 && &m[0][0] == &m[1][0]) },
+		"changes what":           func(m api.M) []any { clear(m); return All() },
+		"answers memory":         func(m api.M) []any { return All(append(api.M{}, m...)) },
+	} {
+		// One of the calls writes over its arguments: each has its own.
+		samples := Lists([]api.M{nil, {{}}, Matrix([]complex128{1 + 2i, 3}, []complex128{4, 5i})}, 1)
+		l := &listener{}
+		Check(l, []Call{One("it", play)}, samples)
+		if faults := strings.Join(l.faults, "\n"); !strings.Contains(faults, want) || want == "" && faults != "" {
+			t.Errorf("a call of a matrix that %q: its faults are told as\n%s", want, faults)
 		}
 	}
 }
@@ -242,6 +263,35 @@ func TestMachine(t *testing.T) {
 	list := Square(2)
 	if len(list) != 25 || !slices.Contains(list, -2+2i) || len(slices.Compact(list)) != 25 {
 		t.Errorf("Square(2): %v", list)
+	}
+}
+
+func TestMatrices(t *testing.T) {
+	Is(t, "Vector", Vector(1, -2i), []api.G{G(1, 0), G(0, -2)})
+	Is(t, "Matrix", Matrix([]complex128{1 + 2i}, nil, []complex128{0, -3}), api.M{{G(1, 2)}, {}, {G(0, 0), G(-3, 0)}})
+	for _, m := range Crooked() {
+		even := true
+		for _, row := range m {
+			even = even && len(row) == len(m[0])
+		}
+		if even && len(m) <= api.MaxSize && len(m[0]) <= api.MaxSize {
+			t.Errorf("Crooked: a good matrix of %d rows", len(m))
+		}
+	}
+	d := Dice(3)
+	seen := map[complex128]bool{}
+	for _, row := range d.Rows(40, 10, 1) {
+		for _, x := range row {
+			seen[x] = true
+		}
+	}
+	for _, x := range Square(1) {
+		if !seen[x] {
+			t.Errorf("Rows: no %v comes", x)
+		}
+	}
+	if m := d.M(2, 3, 4); len(seen) != 9 || len(m) != 2 || len(m[0]) != 3 || len(m[1]) != 3 || Alike(m[0], m[1]) {
+		t.Errorf("Rows: %v; M: %v", seen, m)
 	}
 }
 

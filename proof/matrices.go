@@ -1,0 +1,89 @@
+package proof
+
+import (
+	"slices"
+
+	"tessel/api"
+)
+
+// Vector tells the machine's numbers as the program has them.
+func Vector(numbers ...complex128) []api.G {
+	list := make([]api.G, len(numbers))
+	for i, x := range numbers {
+		list[i] = Whole(x)
+	}
+	return list
+}
+
+// Matrix tells the machine's rows as the program has them.
+func Matrix(rows ...[]complex128) api.M {
+	m := make(api.M, len(rows))
+	for i, row := range rows {
+		m[i] = Vector(row...)
+	}
+	return m
+}
+
+// Crooked are matrices that are not good: rows of several lengths, more rows or columns than there may be.
+func Crooked() []api.M {
+	var list []api.M
+	for _, lengths := range [][]int{
+		{1, 0}, {0, 1}, {1, 2}, {2, 1}, {2, 2, 1}, {2, 1, 2}, {0, 0, 3}, {3, 0, 0},
+		{api.MaxSize + 1}, {api.MaxSize + 1, api.MaxSize + 1}, {0, api.MaxSize + 1}, {api.MaxSize, api.MaxSize + 1}, {1 << 10},
+		make([]int, api.MaxSize+1), append(make([]int, api.MaxSize-1), 1), append(make([]int, api.MaxSize), 1), make([]int, 1<<10),
+	} {
+		list = append(list, ofLengths(lengths))
+	}
+	for _, cols := range []int{1, api.MaxSize, api.MaxSize + 1} {
+		list = append(list, ofLengths(slices.Repeat([]int{cols}, api.MaxSize+1)))
+	}
+	return list
+}
+
+// ofLengths tells rows of these lengths.
+func ofLengths(lengths []int) api.M {
+	var m api.M
+	for _, n := range lengths {
+		row := make([]api.G, n)
+		for j := range row {
+			row[j] = G(int64(j), 1)
+		}
+		m = append(m, row)
+	}
+	return m
+}
+
+// Small tells a machine's number whose parts are at most n in amount.
+func (d *Dice) Small(n int) complex128 {
+	return complex(float64(d.Next(2*n+1)-n), float64(d.Next(2*n+1)-n))
+}
+
+// Rows tells rows of such numbers.
+func (d *Dice) Rows(rows, cols, n int) [][]complex128 {
+	list := make([][]complex128, rows)
+	for i := range list {
+		list[i] = make([]complex128, cols)
+		for j := range list[i] {
+			list[i][j] = d.Small(n)
+		}
+	}
+	return list
+}
+
+// Vector tells Gaussian integers of at most size digits.
+func (d *Dice) Vector(n, size int) []api.G {
+	list := make([]api.G, n)
+	for i := range list {
+		list[i] = d.G(size)
+	}
+	return list
+}
+
+// M tells a matrix of such numbers.
+func (d *Dice) M(rows, cols, size int) api.M {
+	m := make(api.M, rows)
+	for i := range m {
+		m[i] = d.Vector(cols, size)
+	}
+	return m
+}
