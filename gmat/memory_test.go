@@ -66,29 +66,13 @@ func ofVector() []proof.Call {
 	}
 }
 
-// kinds are numbers of all kinds and forms.
-func kinds() []api.G {
-	d := proof.Dice(9)
-	return append(proof.GNoughts()[15:], g(1, 0), g(0, -1), g(-7, 3), proof.Longer(g(0, 5)), api.G{Re: proof.Power2(64), Im: proof.Z(-1)}, d.G(5), d.G(5))
-}
-
-// matrices are ones of all kinds, and such as are not good.
-func matrices() []api.M {
-	d, list := proof.Dice(10), kinds()
-	all := []api.M{nil, {}, {{}}, {nil, {}}, {list[:2], list[2:4]}, {list[3:6], list[7:10], list[4:7]}, {{list[0]}, {list[7]}, {list[9]}}, {list[5:]}}
-	for _, size := range [][2]int{{1, 1}, {1, 2}, {2, 1}, {2, 2}, {2, 3}, {3, 3}} {
-		all = append(all, d.M(size[0], size[1], 4))
-	}
-	return append(all, proof.Crooked()[:4]...)
-}
-
 func TestMemory(t *testing.T) { // R2, R4, and numbers by their values
 	var withNumber, withVector [][]any
-	for _, m := range matrices() {
-		for _, x := range kinds() {
+	for _, m := range proof.Matrices() {
+		for _, x := range proof.Kinds() {
 			withNumber = append(withNumber, []any{m, x})
 		}
-		for _, n := range matrices() {
+		for _, n := range proof.Matrices() {
 			v := []api.G{}
 			if len(n) > 0 {
 				v = n[0]
@@ -96,9 +80,9 @@ func TestMemory(t *testing.T) { // R2, R4, and numbers by their values
 			withVector = append(withVector, []any{v, m})
 		}
 	}
-	vectors := [][]api.G{nil, {}, kinds(), kinds()[:1], kinds()[3:5], kinds()[6:8], kinds()[8:], kinds()[9:]}
-	proof.Check(t, ofOne(), proof.Lists(matrices(), 1))
-	proof.Check(t, ofTwo(), proof.Pairs(matrices()))
+	vectors := [][]api.G{nil, {}, proof.Kinds(), proof.Kinds()[:1], proof.Kinds()[3:5], proof.Kinds()[6:8], proof.Kinds()[8:], proof.Kinds()[9:]}
+	proof.Check(t, ofOne(), proof.Lists(proof.Matrices(), 1))
+	proof.Check(t, ofTwo(), proof.Pairs(proof.Matrices()))
 	proof.Check(t, ofNumber(), withNumber)
 	proof.Check(t, ofVectors(), proof.Pairs(vectors))
 	proof.Check(t, ofVector(), withVector)

@@ -11,75 +11,7 @@ import (
 
 func g(re, im int64) api.G { return proof.G(re, im) }
 
-// rows is a matrix of the machine's numbers.
-type rows [][]complex128
-
-func (a rows) whole() api.M { return proof.Matrix(a...) }
-
-func (a rows) width() int {
-	if len(a) == 0 {
-		return 0
-	}
-	return len(a[0])
-}
-
-// made tells the matrix of so many rows and columns that a number for each place makes.
-func made(height, width int, number func(i, j int) complex128) rows {
-	var list rows
-	for i := 0; i < height; i++ {
-		row := make([]complex128, 0)
-		for j := 0; j < width; j++ {
-			row = append(row, number(i, j))
-		}
-		list = append(list, row)
-	}
-	return list
-}
-
-func (a rows) plus(b rows) rows {
-	return made(len(a), a.width(), func(i, j int) complex128 { return a[i][j] + b[i][j] })
-}
-
-func (a rows) scaled(x complex128) rows {
-	return made(len(a), a.width(), func(i, j int) complex128 { return x * a[i][j] })
-}
-
-func (a rows) turned() rows {
-	return made(a.width(), len(a), func(i, j int) complex128 { return a[j][i] })
-}
-
-func (a rows) conjugated() rows {
-	return made(len(a), a.width(), func(i, j int) complex128 { return proof.Conj(a[i][j]) })
-}
-
-// times goes through b's rows, and adds to all of a row's places at once.
-func (a rows) times(b rows) rows {
-	product := made(len(a), b.width(), func(i, j int) complex128 { return 0 })
-	for i := range product {
-		for k, row := range b {
-			for j, y := range row {
-				product[i][j] += a[i][k] * y
-			}
-		}
-	}
-	return product
-}
-
-// gram tells the rows' products.
-func (a rows) gram() rows {
-	return made(len(a), len(a), func(i, j int) complex128 { return dot(a[i], a[j]) })
-}
-
-func dot(u, v []complex128) complex128 {
-	sum := complex128(0)
-	for j, x := range u {
-		sum += x * proof.Conj(v[j])
-	}
-	return sum
-}
-
-// copied tells the same rows in new memory.
-func (a rows) copied() rows { return a.scaled(1) }
+type rows = proof.Rows
 
 // sample is a matrix with the forms in which it may be handed in.
 type sample struct {
@@ -91,7 +23,7 @@ type sample struct {
 func samples() []sample {
 	var list []sample
 	for _, a := range append(smalls(), limits()...) {
-		list = append(list, sample{a, forms(a)})
+		list = append(list, sample{a, a.Forms()})
 	}
 	return list
 }
@@ -102,7 +34,7 @@ func smalls() []rows {
 	d := proof.Dice(1)
 	for height := 1; height <= 4; height++ {
 		for width := 1; width <= 4; width++ {
-			list = append(list, rows(d.Rows(height, width, 1)), rows(d.Rows(height, width, 99)))
+			list = append(list, d.Rows(height, width, 1), d.Rows(height, width, 99))
 		}
 	}
 	return list
@@ -124,19 +56,6 @@ func places(a rows) []int {
 		list = append(list, i)
 	}
 	return list
-}
-
-// forms are those in which a matrix may be handed in.
-func forms(a rows) []api.M {
-	mixed := proof.Longer(a.whole())
-	for i, row := range a {
-		for j, x := range row {
-			if (i+j)%2 == 1 {
-				mixed[i][j] = proof.Whole(x)
-			}
-		}
-	}
-	return []api.M{a.whole(), proof.Longer(a.whole()), mixed}
 }
 
 // vectors are lists of all small lengths, and of those about the limit of a matrix, which is none of theirs.

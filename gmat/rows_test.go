@@ -16,7 +16,7 @@ func TestAddRow(t *testing.T) { // P8.2
 		for _, i := range places(a.rows) {
 			for _, j := range places(a.rows) {
 				for _, q := range []complex128{0, 1, -1i, 5 - 2i} {
-					want := a.copied()
+					want := a.Copied()
 					for k := range want[i] {
 						want[i][k] += q * a.rows[j][k]
 					}
@@ -26,7 +26,7 @@ func TestAddRow(t *testing.T) { // P8.2
 						if i == j {
 							proof.Refused(t, what, got, e, api.ErrArg)
 						} else {
-							taken(t, what, got, e, want.whole())
+							taken(t, what, got, e, want.Whole())
 						}
 					}
 				}
@@ -39,11 +39,11 @@ func TestSwap(t *testing.T) { // P8.2
 	for _, a := range samples() {
 		for _, i := range places(a.rows) {
 			for _, j := range places(a.rows) {
-				want := a.copied()
+				want := a.Copied()
 				want[i], want[j] = a.rows[j], a.rows[i]
 				m := a.forms[(i+j)%3]
 				got, e := gmat.Swap(m, i, j)
-				taken(t, fmt.Sprintf("Swap(%s, %d, %d)", show(m), i, j), got, e, want.whole())
+				taken(t, fmt.Sprintf("Swap(%s, %d, %d)", show(m), i, j), got, e, want.Whole())
 			}
 		}
 	}
@@ -54,14 +54,14 @@ func TestTurn(t *testing.T) { // P8.2
 	for _, a := range samples() {
 		for _, i := range places(a.rows) {
 			for k, unit := range units {
-				want := a.copied()
+				want := a.Copied()
 				for j := range want[i] {
 					want[i][j] *= unit
 				}
 				for l, whole := range []int{k, k + 4, k - 4, k + 400, k - 4000, 1<<62 + k, k - 1<<62, math.MaxInt - 3 + k, math.MinInt + k} {
 					m := a.forms[l%3]
 					got, e := gmat.Turn(m, i, whole)
-					taken(t, fmt.Sprintf("Turn(%s, %d, %d)", show(m), i, whole), got, e, want.whole())
+					taken(t, fmt.Sprintf("Turn(%s, %d, %d)", show(m), i, whole), got, e, want.Whole())
 				}
 			}
 		}

@@ -17,7 +17,7 @@ func TestGood(t *testing.T) { // P8.1
 				t.Errorf("Good(%s): false", show(m))
 			}
 			height, width, e := gmat.Size(m)
-			proof.Taken(t, "Size of "+show(m), []int{height, width}, e, []int{len(a.rows), a.width()})
+			proof.Taken(t, "Size of "+show(m), []int{height, width}, e, []int{len(a.rows), a.Width()})
 		}
 	}
 	if !gmat.Good(nil) || !gmat.Good(api.M{nil}) || !gmat.Good(api.M{{}, nil}) {
@@ -41,8 +41,8 @@ func TestCrooked(t *testing.T) { // P8.1
 func TestIdent(t *testing.T) { // P8.1
 	for n := 0; n <= api.MaxSize; n++ {
 		got, e := gmat.Ident(n)
-		want := made(n, n, func(i, j int) complex128 { return map[bool]complex128{true: 1}[i == j] })
-		taken(t, fmt.Sprint("Ident ", n), got, e, want.whole())
+		want := proof.Made(n, n, func(i, j int) complex128 { return map[bool]complex128{true: 1}[i == j] })
+		taken(t, fmt.Sprint("Ident ", n), got, e, want.Whole())
 	}
 	for _, n := range []int{-1, -2, -api.MaxSize, -api.MaxSize - 1, math.MinInt} {
 		got, e := gmat.Ident(n)

@@ -10,7 +10,7 @@ import (
 )
 
 // fits tells whether two matrices have one size.
-func fits(a, b rows) bool { return len(a) == len(b) && a.width() == b.width() }
+func fits(a, b rows) bool { return len(a) == len(b) && a.Width() == b.Width() }
 
 // holds tells where a call of two matrices is not what the machine's numbers tell, or isn't refused where the sizes do not fit.
 func holds(t *testing.T, name string, play func(a, b api.M) (api.M, api.Errno), a, b sample, fit bool, want func() rows) {
@@ -20,7 +20,7 @@ func holds(t *testing.T, name string, play func(a, b api.M) (api.M, api.Errno), 
 		what := fmt.Sprintf("%s of %s and %s", name, show(m), show(n))
 		got, e := play(m, n)
 		if fit {
-			taken(t, what, got, e, want().whole())
+			taken(t, what, got, e, want().Whole())
 		} else {
 			proof.Refused(t, what, got, e, api.ErrShape)
 		}
@@ -31,8 +31,8 @@ func TestSums(t *testing.T) { // P8.1
 	list := samples()
 	for _, a := range list {
 		for _, b := range list {
-			holds(t, "Add", gmat.Add, a, b, fits(a.rows, b.rows), func() rows { return a.plus(b.rows) })
-			holds(t, "Sub", gmat.Sub, a, b, fits(a.rows, b.rows), func() rows { return a.plus(b.scaled(-1)) })
+			holds(t, "Add", gmat.Add, a, b, fits(a.rows, b.rows), func() rows { return a.Plus(b.rows) })
+			holds(t, "Sub", gmat.Sub, a, b, fits(a.rows, b.rows), func() rows { return a.Plus(b.Scaled(-1)) })
 		}
 	}
 }
@@ -41,7 +41,7 @@ func TestMul(t *testing.T) { // P8.1
 	list := samples()
 	for _, a := range list {
 		for _, b := range list {
-			holds(t, "Mul", gmat.Mul, a, b, a.width() == len(b.rows), func() rows { return a.times(b.rows) })
+			holds(t, "Mul", gmat.Mul, a, b, a.Width() == len(b.rows), func() rows { return a.Times(b.rows) })
 		}
 	}
 }
@@ -51,12 +51,12 @@ func TestScale(t *testing.T) { // P8.1
 		for _, x := range []complex128{0, 1, -1, 1i, -1i, 7 - 3i, -100, 1e9i} {
 			for k, m := range a.forms {
 				got, e := gmat.Scale(m, proof.Forms(proof.Whole(x))[k+1])
-				taken(t, fmt.Sprintf("Scale of %s by %v", show(m), x), got, e, a.scaled(x).whole())
+				taken(t, fmt.Sprintf("Scale of %s by %v", show(m), x), got, e, a.Scaled(x).Whole())
 			}
 		}
 		for _, nought := range proof.GNoughts() {
 			got, e := gmat.Scale(a.forms[0], nought)
-			taken(t, "Scale by 0", got, e, a.scaled(0).whole())
+			taken(t, "Scale by 0", got, e, a.Scaled(0).Whole())
 		}
 	}
 }
@@ -65,9 +65,9 @@ func TestTurned(t *testing.T) { // P8.1
 	for _, a := range samples() {
 		for _, m := range a.forms {
 			got, e := gmat.Trans(m)
-			taken(t, "Trans of "+show(m), got, e, a.turned().whole())
+			taken(t, "Trans of "+show(m), got, e, a.Turned().Whole())
 			got, e = gmat.Adj(m)
-			taken(t, "Adj of "+show(m), got, e, a.turned().conjugated().whole())
+			taken(t, "Adj of "+show(m), got, e, a.Turned().Conjugated().Whole())
 		}
 	}
 }
@@ -76,7 +76,7 @@ func TestGram(t *testing.T) { // P8.1
 	for _, a := range samples() {
 		for _, m := range a.forms {
 			got, e := gmat.Gram(m)
-			taken(t, "Gram of "+show(m), got, e, a.gram().whole())
+			taken(t, "Gram of "+show(m), got, e, a.Gram().Whole())
 		}
 	}
 }
@@ -97,7 +97,7 @@ func TestNoColumns(t *testing.T) { // P8.1: rows without columns, and no rows
 		got, e := gmat.Trans(empty)
 		taken(t, "Trans", got, e, nil)
 		got, e = gmat.Gram(empty)
-		taken(t, "Gram", got, e, make(rows, height).gram().whole())
+		taken(t, "Gram", got, e, make(rows, height).Gram().Whole())
 	}
 }
 

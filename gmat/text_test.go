@@ -37,7 +37,7 @@ func TestText(t *testing.T) { // P8.4
 	}{
 		{nil, ""}, {rows{}, ""}, {rows{{0}}, "0"}, {rows{{-1i}}, "-i"}, {rows{{1, 2}, {1i, 0}}, "1 2; i 0"}, {rows{{1}, {2}, {3 - 4i}}, "1; 2; 3-4i"}, {rows{{-1 + 1i, 12, 0, -7i}}, "-1+i 12 0 -7i"}, {rows{{0, 0}, {0, 0}}, "0 0; 0 0"}, {rows{{10, -10}, {5i, 1 + 1i}, {0, 1 << 40}}, "10 -10; 5i 1+i; 0 1099511627776"},
 	} {
-		for _, m := range forms(c.a) {
+		for _, m := range c.a.Forms() {
 			tells(t, m, c.want)
 		}
 	}
@@ -57,7 +57,7 @@ func TestText(t *testing.T) { // P8.4
 			}
 		}
 		for _, m := range a.forms {
-			if a.width() > 0 || len(m) == 0 {
+			if a.Width() > 0 || len(m) == 0 {
 				tells(t, m, want)
 			}
 		}
@@ -78,7 +78,7 @@ func TestParse(t *testing.T) { // P8.4
 		"1 2;i 0": a, "1 2; i 0": a, "1 2 ;i 0": a, "  1  2  ;  i  0  ": a, "01 2; 0+1i -0": a, "1 2;i   0": a,
 		"3-4i": {{3 - 4i}}, "3 -4i": {{3, -4i}}, "-1 -1": {{-1, -1}}, "-1+i -i 007;1 2 3": {{-1 + 1i, -1i, 7}, {1, 2, 3}}, "1;2;3;4;5": {{1}, {2}, {3}, {4}, {5}},
 	} {
-		reads(t, s, want.whole())
+		reads(t, s, want.Whole())
 	}
 }
 
@@ -102,7 +102,7 @@ func TestParseSizes(t *testing.T) { // P8.4: rows and columns at MaxSize and one
 	row := func(n int) string { return strings.Repeat("1 ", n) }
 	high := func(n int, row string) string { return strings.Repeat(row+";", n-1) + row }
 	ones := func(height, width int) api.M {
-		return made(height, width, func(i, j int) complex128 { return 1 }).whole()
+		return proof.Made(height, width, func(i, j int) complex128 { return 1 }).Whole()
 	}
 	for _, n := range []int{1, 2, api.MaxSize - 1, api.MaxSize} {
 		reads(t, row(n), ones(1, n))
@@ -133,7 +133,7 @@ func TestParseLimits(t *testing.T) { // P8.4: texts of MaxText bytes and one mor
 		if len(s) != api.MaxText {
 			t.Fatalf("%d bytes, not a text of MaxText", len(s))
 		}
-		reads(t, s, want.whole())
+		reads(t, s, want.Whole())
 		refuses(t, " "+s, api.ErrLimit)
 		refuses(t, s+" ", api.ErrLimit)
 	}
@@ -203,7 +203,7 @@ func TestParseOfAllShort(t *testing.T) { // P8.4
 
 func TestParseOfText(t *testing.T) { // P8.4, P8.5
 	for _, a := range samples() {
-		if a.width() == 0 && len(a.rows) > 0 {
+		if a.Width() == 0 && len(a.rows) > 0 {
 			continue
 		}
 		for _, m := range a.forms {
@@ -211,7 +211,7 @@ func TestParseOfText(t *testing.T) { // P8.4, P8.5
 			if e != api.OK {
 				t.Errorf("Text of %s: error %d", show(m), e)
 			}
-			reads(t, text, a.whole())
+			reads(t, text, a.Whole())
 		}
 	}
 	for height := 1; height <= 4; height++ {

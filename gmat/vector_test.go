@@ -29,7 +29,7 @@ func TestTimes(t *testing.T) { // P8.3
 				}
 				want := proof.Vector()
 				if len(a.rows) > 0 {
-					want = rows{v}.times(a.rows).whole()[0]
+					want = rows{v}.Times(a.rows).Whole()[0]
 				}
 				proof.Taken(t, what, got, e, want)
 			}
@@ -46,7 +46,7 @@ func TestDot(t *testing.T) { // P8.3: vectors of any length
 				if len(u) != len(v) {
 					proof.Refused(t, what, got, e, api.ErrShape)
 				} else {
-					proof.Taken(t, what, got, e, proof.Whole(dot(u, v)))
+					proof.Taken(t, what, got, e, proof.Whole(proof.Dot(u, v)))
 				}
 			}
 		}
@@ -110,12 +110,12 @@ func TestEqual(t *testing.T) { // P8.3
 func TestEqualElsewhere(t *testing.T) { // P8.3: one part of one number makes two matrices two
 	for _, a := range append(smalls(), limits()...) {
 		for _, i := range places(a) {
-			for _, j := range places(a.turned()) {
+			for _, j := range places(a.Turned()) {
 				for _, off := range []complex128{1, -1, 1i, -1i} {
-					b := a.copied()
+					b := a.Copied()
 					b[i][j] += off
-					if gmat.Equal(a.whole(), b.whole()) || gmat.Equal(b.whole(), a.whole()) {
-						t.Errorf("Equal(%s, %s): true", show(a.whole()), show(b.whole()))
+					if gmat.Equal(a.Whole(), b.Whole()) || gmat.Equal(b.Whole(), a.Whole()) {
+						t.Errorf("Equal(%s, %s): true", show(a.Whole()), show(b.Whole()))
 					}
 				}
 			}

@@ -59,8 +59,8 @@ func (d *Dice) Small(n int) complex128 {
 }
 
 // Rows tells rows of such numbers.
-func (d *Dice) Rows(rows, cols, n int) [][]complex128 {
-	list := make([][]complex128, rows)
+func (d *Dice) Rows(rows, cols, n int) Rows {
+	list := make(Rows, rows)
 	for i := range list {
 		list[i] = make([]complex128, cols)
 		for j := range list[i] {
@@ -86,4 +86,20 @@ func (d *Dice) M(rows, cols, size int) api.M {
 		m[i] = d.Vector(cols, size)
 	}
 	return m
+}
+
+// Kinds are Gaussian integers of all kinds and forms.
+func Kinds() []api.G {
+	d := Dice(9)
+	return append(GNoughts()[15:], G(1, 0), G(0, -1), G(-7, 3), Longer(G(0, 5)), api.G{Re: Power2(64), Im: Z(-1)}, d.G(5), d.G(5))
+}
+
+// Matrices are ones of all kinds, and such as are not good.
+func Matrices() []api.M {
+	d, list := Dice(10), Kinds()
+	all := []api.M{nil, {}, {{}}, {nil, {}}, {list[:2], list[2:4]}, {list[3:6], list[7:10], list[4:7]}, {{list[0]}, {list[7]}, {list[9]}}, {list[5:]}}
+	for _, size := range [][2]int{{1, 1}, {1, 2}, {2, 1}, {2, 2}, {2, 3}, {3, 3}} {
+		all = append(all, d.M(size[0], size[1], 4))
+	}
+	return append(all, Crooked()[:4]...)
 }

@@ -295,6 +295,30 @@ func TestMatrices(t *testing.T) {
 	}
 }
 
+func TestRows(t *testing.T) {
+	a, b := Rows{{1, 2i}, {0, -3}, {1i, 1}}, Rows{{1, 1i}, {2, 0}}
+	for _, c := range []struct {
+		what      string
+		got, want Rows
+	}{
+		{"Times", a.Times(b), Rows{{1 + 4i, 1i}, {-6, 0}, {2 + 1i, -1}}}, {"Times of no rows", Rows{}.Times(b), nil},
+		{"Plus", b.Plus(Rows{{0, 2i}, {0, -3}}), Rows{{1, 3i}, {2, -3}}}, {"Scaled", b.Scaled(1i), Rows{{1i, -1}, {2i, 0}}}, {"Copied", b.Copied(), b},
+		{"Turned", b.Turned(), Rows{{1, 2}, {1i, 0}}}, {"Conjugated", b.Conjugated(), Rows{{1, -1i}, {2, 0}}}, {"Gram", b.Gram(), Rows{{2, 2}, {2, 4}}},
+	} {
+		Is(t, c.what, c.got.Whole(), c.want.Whole())
+	}
+	if Rows(nil).Width() != 0 || a.Width() != 2 || Dot(a[0], a[2]) != 1i {
+		t.Errorf("Width: %d, Dot: %v", a.Width(), Dot(a[0], a[2]))
+	}
+	forms := a.Forms()
+	for i, m := range forms {
+		Is(t, "Forms", Canon(m), a.Whole())
+		if i > 0 && Alike(m, forms[i-1]) || Alike(m, forms[(i+2)%3]) {
+			t.Errorf("Forms: %d is another one", i)
+		}
+	}
+}
+
 func TestDice(t *testing.T) {
 	d, e := Dice(1), Dice(1)
 	long, zero, below := false, false, false
