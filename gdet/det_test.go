@@ -24,30 +24,30 @@ func holds[V any](t *testing.T, name string, play func(m api.M) (V, api.Errno), 
 }
 
 func TestDet(t *testing.T) { // P9.1
-	holds(t, "Det", gdet.Det, func(a rows) api.G { return proof.Whole(det(a)) }, squares(), tiny(), flags())
+	holds(t, "Det", gdet.Det, func(a rows) api.G { return proof.Whole(a.Det()) }, proof.Squares(), proof.Tiny(), proof.Flags())
 }
 
 func TestRank(t *testing.T) { // P9.1
-	holds(t, "Rank", gdet.Rank, rank, samples(), squares(), flags())
-	holds(t, "Independent", gdet.Independent, func(a rows) bool { return rank(a) == len(a) }, samples(), squares(), flags())
+	holds(t, "Rank", gdet.Rank, rows.Rank, proof.Samples(), proof.Squares(), proof.Flags())
+	holds(t, "Independent", gdet.Independent, func(a rows) bool { return a.Rank() == len(a) }, proof.Samples(), proof.Squares(), proof.Flags())
 }
 
 func TestMinors(t *testing.T) { // P9.2
-	holds(t, "Minors", gdet.Minors, minors, samples(), squares(), tiny())
+	holds(t, "Minors", gdet.Minors, minors, proof.Samples(), proof.Squares(), proof.Tiny())
 }
 
 func TestAdjugate(t *testing.T) { // P9.3
-	holds(t, "Adjugate", gdet.Adjugate, func(a rows) api.M { return adjugate(a).Whole() }, squares(), tiny(), flags())
+	holds(t, "Adjugate", gdet.Adjugate, func(a rows) api.M { return adjugate(a).Whole() }, proof.Squares(), proof.Tiny(), proof.Flags())
 }
 
 func TestInverse(t *testing.T) { // P9.3
 	d, taken := proof.Dice(3), 0
-	list := append(tiny(), squares()...)
+	list := append(proof.Tiny(), proof.Squares()...)
 	for k := range 60 {
-		list = append(list, unimodular(&d, 1+k%5))
+		list = append(list, d.Unimodular(1+k%5))
 	}
 	for _, a := range list {
-		unit := det(a)
+		unit := a.Det()
 		for _, m := range a.Forms() {
 			got, e := gdet.Inverse(m)
 			what := fmt.Sprint("Inverse ", a)
@@ -65,24 +65,22 @@ func TestInverse(t *testing.T) { // P9.3
 }
 
 func TestNotSquare(t *testing.T) { // P9.1, P9.3
-	for _, a := range samples() {
+	for _, a := range proof.Samples() {
 		if len(a) == a.Width() {
 			continue
 		}
-		refused(t, fmt.Sprint(" of ", a), a.Whole(), api.ErrShape, squaresOnly()...)
+		proof.CheckRefused(t, squaresOnly(), proof.All(a.Whole()), api.ErrShape)
 	}
 	wide := proof.Made(api.MaxSize-1, api.MaxSize, func(i, j int) complex128 { return 1 })
-	refused(t, " of a wide one", wide.Whole(), api.ErrShape, squaresOnly()...)
-	refused(t, " of a high one", wide.Turned().Whole(), api.ErrShape, squaresOnly()...)
+	proof.CheckRefused(t, squaresOnly(), proof.All(wide.Whole()), api.ErrShape)
+	proof.CheckRefused(t, squaresOnly(), proof.All(wide.Turned().Whole()), api.ErrShape)
 }
 
 func TestNotGood(t *testing.T) { // all calls
 	for _, m := range proof.Crooked() {
-		what := fmt.Sprint(" of ", len(m), " rows that are not good")
-		refused(t, what, m, api.ErrShape, append(squaresOnly(), ofAll()...)...)
+		proof.CheckRefused(t, append(squaresOnly(), ofAll()...), proof.All(m), api.ErrShape)
 		for _, v := range [][]api.G{nil, m[0], m[len(m)-1], make([]api.G, api.MaxSize), make([]api.G, api.MaxSize+1)} {
-			got, e := gdet.Solve(m, v)
-			proof.Refused(t, "Solve"+what, got, e, api.ErrShape)
+			proof.CheckRefused(t, ofVector(), proof.All(m, v), api.ErrShape)
 		}
 	}
 }
@@ -104,7 +102,7 @@ func TestEmpty(t *testing.T) { // P9.1 to P9.3: no rows, and rows without column
 	}
 	for height := 1; height <= api.MaxSize; height++ {
 		m, what := make(api.M, height), fmt.Sprint(" of ", height, " rows without columns")
-		refused(t, what, m, api.ErrShape, squaresOnly()...)
+		proof.CheckRefused(t, squaresOnly(), proof.All(m), api.ErrShape)
 		rank, e := gdet.Rank(m)
 		proof.Taken(t, "Rank"+what, rank, e, 0)
 		all, e := gdet.Independent(m)
@@ -118,29 +116,19 @@ func TestEmpty(t *testing.T) { // P9.1 to P9.3: no rows, and rows without column
 	}
 }
 
-// call is one of a matrix, by its name.
-type call struct {
-	name string
-	play func(m api.M) (any, api.Errno)
-}
-
-func named[V any](name string, play func(m api.M) (V, api.Errno)) call {
-	return call{name, func(m api.M) (any, api.Errno) { return play(m) }}
-}
-
 // squaresOnly are the calls that take matrices with as many rows as columns alone, ofAll are those of any.
-func squaresOnly() []call {
-	return []call{named("Det", gdet.Det), named("Adjugate", gdet.Adjugate), named("Inverse", gdet.Inverse)}
+func squaresOnly() []proof.Call {
+	return []proof.Call{
+		proof.One("Det", func(m api.M) []any { return proof.All(gdet.Det(m)) }),
+		proof.One("Adjugate", func(m api.M) []any { return proof.All(gdet.Adjugate(m)) }),
+		proof.One("Inverse", func(m api.M) []any { return proof.All(gdet.Inverse(m)) }),
+	}
 }
 
-func ofAll() []call {
-	return []call{named("Rank", gdet.Rank), named("Independent", gdet.Independent), named("Minors", gdet.Minors)}
-}
-
-func refused(t *testing.T, what string, m api.M, want api.Errno, calls ...call) {
-	t.Helper()
-	for _, c := range calls {
-		got, e := c.play(m)
-		proof.Refused(t, c.name+what, got, e, want)
+func ofAll() []proof.Call {
+	return []proof.Call{
+		proof.One("Rank", func(m api.M) []any { return proof.All(gdet.Rank(m)) }),
+		proof.One("Independent", func(m api.M) []any { return proof.All(gdet.Independent(m)) }),
+		proof.One("Minors", func(m api.M) []any { return proof.All(gdet.Minors(m)) }),
 	}
 }

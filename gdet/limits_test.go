@@ -31,9 +31,9 @@ func same(i int) int { return i }
 func TestDetOfExchanges(t *testing.T) { // P9.1, P9.5: each exchange turns the sign
 	for n := 1; n <= most; n++ {
 		got, e := gdet.Det(placed(n, func(i int) int { return n - 1 - i }, one).Whole())
-		proof.Taken(t, fmt.Sprint("Det of ", n, " ones upside down"), got, e, proof.Whole(sign(n*(n-1)/2)))
+		proof.Taken(t, fmt.Sprint("Det of ", n, " ones upside down"), got, e, proof.Whole(proof.Sign(n*(n-1)/2)))
 		got, e = gdet.Det(placed(n, func(i int) int { return (i + 1) % n }, one).Whole())
-		proof.Taken(t, fmt.Sprint("Det of ", n, " ones moved on"), got, e, proof.Whole(sign(n-1)))
+		proof.Taken(t, fmt.Sprint("Det of ", n, " ones moved on"), got, e, proof.Whole(proof.Sign(n-1)))
 	}
 }
 

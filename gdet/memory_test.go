@@ -10,16 +10,12 @@ import (
 )
 
 func ofOne() []proof.Call {
-	list := []proof.Call{proof.One("Solve of one of its rows", func(m api.M) []any {
+	return append(append(squaresOnly(), ofAll()...), proof.One("Solve of one of its rows", func(m api.M) []any {
 		if len(m) == 0 {
 			return nil
 		}
 		return proof.All(gdet.Solve(m, m[len(m)-1]))
-	})}
-	for _, c := range append(squaresOnly(), ofAll()...) {
-		list = append(list, proof.One(c.name, func(m api.M) []any { return proof.All(c.play(m)) }))
-	}
-	return list
+	}))
 }
 
 func ofVector() []proof.Call {

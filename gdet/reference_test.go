@@ -2,7 +2,6 @@ package gdet_test
 
 import (
 	"fmt"
-	"slices"
 
 	"tessel/api"
 	"tessel/frac"
@@ -16,73 +15,9 @@ type rows = proof.Rows
 
 func g(re, im int64) api.G { return proof.G(re, im) }
 
-// sign is that of a place whose row and column have this sum.
-func sign(sum int) complex128 {
-	if sum%2 == 1 {
-		return -1
-	}
-	return 1
-}
-
-// without tells what is left of rows without one of them, and without a column.
-func without[V any, L ~[][]V](a L, i, j int) L {
-	var left L
-	for k, row := range a {
-		if k != i {
-			left = append(left, slices.Delete(slices.Clone(row), j, j+1))
-		}
-	}
-	return left
-}
-
-// det tells the determinant by the first row: each of its numbers times the determinant of what is left.
-func det(a rows) complex128 {
-	if len(a) == 0 {
-		return 1
-	}
-	sum := complex128(0)
-	for j, x := range a[0] {
-		sum += sign(j) * x * det(without(a, 0, j))
-	}
-	return sum
-}
-
 // adjugate tells the one by the document's words.
 func adjugate(a rows) rows {
-	return proof.Made(len(a), len(a), func(i, j int) complex128 { return sign(i+j) * det(without(a, j, i)) })
-}
-
-// choices lists all ways to choose k of the numbers below n, rising.
-func choices(n, k int) [][]int {
-	if k == 0 {
-		return [][]int{nil}
-	}
-	var list [][]int
-	for last := k - 1; last < n; last++ {
-		for _, ahead := range choices(last, k-1) {
-			list = append(list, append(ahead[:len(ahead):len(ahead)], last))
-		}
-	}
-	return list
-}
-
-// chosen tells the numbers where these rows and columns meet.
-func chosen(a rows, lines, columns []int) rows {
-	return proof.Made(len(lines), len(columns), func(i, j int) complex128 { return a[lines[i]][columns[j]] })
-}
-
-// rank tells how many rows and columns at the most meet in numbers whose determinant is not 0.
-func rank(a rows) int {
-	for k := min(len(a), a.Width()); k > 0; k-- {
-		for _, lines := range choices(len(a), k) {
-			for _, columns := range choices(a.Width(), k) {
-				if det(chosen(a, lines, columns)) != 0 {
-					return k
-				}
-			}
-		}
-	}
-	return 0
+	return proof.Made(len(a), len(a), func(i, j int) complex128 { return proof.Sign(i+j) * proof.Without(a, j, i).Det() })
 }
 
 // minors tells the leading determinants of the rows' products.
@@ -90,7 +25,7 @@ func minors(a rows) []api.Z {
 	var list []api.Z
 	first := []int{}
 	for k := 0; k <= len(a); k++ {
-		list = append(list, proof.Z(int64(real(det(chosen(a.Gram(), first, first))))))
+		list = append(list, proof.Z(int64(real(a.Gram().Chosen(first, first).Det()))))
 		first = append(first, k)
 	}
 	return list
@@ -98,9 +33,9 @@ func minors(a rows) []api.Z {
 
 // solution tells what makes a vector of rows that are independent, where there is such a thing: quotients of determinants, of columns where that of the rows is not 0.
 func solution(a rows, v []complex128) []api.C {
-	lines := choices(len(a), len(a))[0]
-	for _, columns := range choices(len(v), len(a)) {
-		all := det(chosen(a, lines, columns))
+	lines := proof.Choices(len(a), len(a))[0]
+	for _, columns := range proof.Choices(len(v), len(a)) {
+		all := a.Chosen(lines, columns).Det()
 		if all == 0 {
 			continue
 		}
@@ -108,7 +43,7 @@ func solution(a rows, v []complex128) []api.C {
 		for i := range a {
 			changed := a.Copied()
 			changed[i] = v
-			list = append(list, quotient(det(chosen(changed, lines, columns)), all))
+			list = append(list, quotient(changed.Chosen(lines, columns).Det(), all))
 		}
 		return list
 	}
@@ -130,82 +65,6 @@ func lowest(n, d float64) api.Q {
 	return proof.Q(int64(n)/x, int64(d)/x)
 }
 
-// samples are matrices of all small sizes: without noughts and with many, of all ranks.
-func samples() []rows {
-	list := []rows{nil, {{}}, {{}, {}}, {{}, {}, {}}}
-	d := proof.Dice(1)
-	sparse := func(i, j int) complex128 {
-		if d.Next(5) > 1 {
-			return 0
-		}
-		return d.Small(2)
-	}
-	for height := 1; height <= 4; height++ {
-		for width := 1; width <= 5; width++ {
-			list = append(list, d.Rows(height, width, 9))
-			for range 6 {
-				list = append(list, d.Rows(height, width, 1), proof.Made(height, width, sparse))
-			}
-			for r := range min(height, width) {
-				list = append(list, d.Rows(height, r, 2).Times(d.Rows(r, width, 2)))
-			}
-		}
-	}
-	return list
-}
-
-// squares are those of the samples that have as many rows as columns, and more of them.
-func squares() []rows {
-	list := slices.DeleteFunc(samples(), func(a rows) bool { return len(a) != a.Width() })
-	d := proof.Dice(2)
-	for n := 2; n <= 5; n++ {
-		for range 30 {
-			list = append(list, proof.Made(n, n, func(i, j int) complex128 { return d.Small(1) * complex(float64(d.Next(2)), 0) }))
-		}
-	}
-	return list
-}
-
-// tiny are all matrices of two rows and columns whose numbers have parts of at most 1 in amount.
-func tiny() []rows {
-	var list []rows
-	for _, x := range proof.Lists(proof.Square(1), 4) {
-		list = append(list, rows{{x[0].(complex128), x[1].(complex128)}, {x[2].(complex128), x[3].(complex128)}})
-	}
-	return list
-}
-
-// flags are all matrices of three rows and columns of 0 and 1.
-func flags() []rows {
-	var list []rows
-	for k := range 1 << 9 {
-		list = append(list, proof.Made(3, 3, func(i, j int) complex128 { return complex(float64(k>>(3*i+j)&1), 0) }))
-	}
-	return list
-}
-
-// unimodular tells n rows whose determinant is a unit, made of ones by steps on rows.
-func unimodular(d *proof.Dice, n int) rows {
-	units := []complex128{1, 1i, -1, -1i}
-	a := proof.Made(n, n, func(i, j int) complex128 {
-		if i == j {
-			return units[d.Next(4)]
-		}
-		return 0
-	})
-	for range 3 * n * min(n-1, 1) {
-		i := d.Next(n)
-		j := (i + 1 + d.Next(n-1)) % n
-		q := d.Small(1)
-		for k := range a[i] {
-			a[i][k] += q * a[j][k]
-		}
-		l := d.Next(n)
-		a[l], a[0] = a[0], a[l]
-	}
-	return a
-}
-
 // detOf is det of long numbers, made by gint.
 func detOf(a api.M) api.G {
 	if len(a) == 0 {
@@ -213,7 +72,7 @@ func detOf(a api.M) api.G {
 	}
 	sum := api.G{}
 	for j, x := range a[0] {
-		sum = gint.Add(sum, gint.Mul(gint.Turn(x, 2*j), detOf(without(a, 0, j))))
+		sum = gint.Add(sum, gint.Mul(gint.Turn(x, 2*j), detOf(proof.Without(a, 0, j))))
 	}
 	return sum
 }
@@ -223,7 +82,7 @@ func adjugateOf(a api.M) api.M {
 	list := make(api.M, len(a))
 	for i := range a {
 		for j := range a {
-			list[i] = append(list[i], gint.Turn(detOf(without(a, j, i)), 2*(i+j)))
+			list[i] = append(list[i], gint.Turn(detOf(proof.Without(a, j, i)), 2*(i+j)))
 		}
 	}
 	return list

@@ -22,7 +22,7 @@ func goals(d *proof.Dice, a rows) [][]complex128 {
 
 func TestSolve(t *testing.T) { // P9.4
 	d, ends := proof.Dice(4), map[api.Errno]int{}
-	for _, a := range append(samples(), squares()...) {
+	for _, a := range append(proof.Samples(), proof.Squares()...) {
 		if len(a) == 0 {
 			continue
 		}
@@ -42,9 +42,9 @@ func TestSolve(t *testing.T) { // P9.4
 func solves(t *testing.T, a rows, v []complex128) api.Errno {
 	t.Helper()
 	want := api.OK
-	if rank(a) < len(a) {
+	if a.Rank() < len(a) {
 		want = api.ErrDependent
-	} else if rank(append(a.Copied(), v)) > len(a) {
+	} else if append(a.Copied(), v).Rank() > len(a) {
 		want = api.ErrNone
 	}
 	goal := rows{v}.Forms()
@@ -85,7 +85,7 @@ func TestSolveNoRows(t *testing.T) { // P9.4: any vector is taken
 }
 
 func TestSolveShape(t *testing.T) { // P9.4: ahead of rows that are dependent, and of what has no solution
-	for _, a := range samples() {
+	for _, a := range proof.Samples() {
 		if len(a) == 0 {
 			continue
 		}

@@ -78,6 +78,19 @@ func CheckLong(t T, calls []Call, samples [][]any) {
 	}
 }
 
+// CheckRefused tells where one of the calls doesn't end with an error, or answers something beside it.
+func CheckRefused(t T, calls []Call, args []any, want api.Errno) {
+	t.Helper()
+	for _, c := range calls {
+		c.look(t, [][]any{args}, c.errors, func(args []any) string {
+			if answers := c.play(args); answers[len(answers)-1] != any(want) {
+				return "is " + Show(answers) + ", and not " + Show(want)
+			}
+			return ""
+		})
+	}
+}
+
 func (c Call) look(t T, samples [][]any, looks ...func(args []any) string) {
 	t.Helper()
 	for _, args := range samples {

@@ -39,3 +39,45 @@ func Square(n int) []complex128 {
 	}
 	return list
 }
+
+// Residue tells what is left of a by m, in the half-open square. m is not 0.
+func Residue(a, m complex128) complex128 {
+	top, n := a*Conj(m), Norm(m)
+	return a - complex(halfUp(real(top), n), halfUp(imag(top), n))*m
+}
+
+// halfUp tells x / n, rounded to the nearest whole number, and a half up. n is above 0.
+func halfUp(x, n float64) float64 { return math.Floor((2*x + n) / (2 * n)) }
+
+// Associate tells a times the unit by which it lies in the first quadrant, of 0: 0.
+func Associate(a complex128) complex128 {
+	for a != 0 && (real(a) <= 0 || imag(a) < 0) {
+		a *= 1i
+	}
+	return a
+}
+
+// Gcd tells the greatest common divisor of numbers, in the first quadrant.
+func Gcd(numbers ...complex128) complex128 {
+	divisor := complex128(0)
+	for _, x := range numbers {
+		for x != 0 {
+			divisor, x = x, Residue(divisor, x)
+		}
+	}
+	return Associate(divisor)
+}
+
+// Machine tells a small number as the machine has it.
+func Machine(a api.G) complex128 { return complex(machine(a.Re), machine(a.Im)) }
+
+func machine(a api.Z) float64 {
+	amount := 0.0
+	for j, digit := range a.Mag {
+		amount += math.Ldexp(float64(digit), 32*j)
+	}
+	if a.Neg {
+		return -amount
+	}
+	return amount
+}

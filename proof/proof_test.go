@@ -105,6 +105,22 @@ func TestBadCalls(t *testing.T) {
 	}
 }
 
+func TestRefusedCalls(t *testing.T) {
+	for want, answers := range map[string][]any{
+		"":                                  All(api.Z{}, []int{}, api.ErrShape),
+		"is (() error 10), and not error 4": All([]int{}, api.ErrNone),
+		"is (3 error 0), and not error 4":   All(3, api.OK),
+		"is 3 beside an error":              All(3, api.ErrShape),
+		"is true beside an error":           All("", true, api.ErrShape),
+	} {
+		l := &listener{}
+		CheckRefused(l, []Call{One("it", func(a api.G) []any { return answers })}, All(G(1, 2)), api.ErrShape)
+		if faults := strings.Join(l.faults, "\n"); !strings.Contains(faults, want) || want == "" && faults != "" {
+			t.Errorf("a call that is refused, and %q: its faults are told as\n%s", want, faults)
+		}
+	}
+}
+
 func TestManyArguments(t *testing.T) {
 	kinds := []api.G{{}, G(1, 2), G(-7, 3)}
 	lists := Lists(kinds, 3)
@@ -260,6 +276,13 @@ func TestMachine(t *testing.T) {
 			Is(t, "Compare", Compare(a, b), max(-1, min(1, i-j)))
 		}
 	}
+	for _, a := range []complex128{0, 2 + 1i, -1 + 2i, -2 - 1i, 1 - 2i} {
+		Is(t, "Associate", Whole(Associate(a)), Whole(Associate(-1i*a)))
+		Is(t, "Associate", Norm(Associate(a)-(2+1i)) == 0, a != 0)
+	}
+	Is(t, "Residue", Vector(Residue(7+3i, 2), Residue(5, 1+1i), Residue(3, 1i)), Vector(-1-1i, -1i, 0))
+	Is(t, "Gcd", Vector(Gcd(4, 6i), Gcd(1+1i, 3), Gcd(), Gcd(0, -5i), Gcd(10, 6+2i, 8)), Vector(2, 1, 0, 5, 2))
+	Is(t, "Machine", Machine(api.G{Re: Power2(40), Im: api.Z{Neg: true, Mag: []uint32{7, 1, 0}}}) == 1<<40-(1<<32+7)*1i, true)
 	list := Square(2)
 	if len(list) != 25 || !slices.Contains(list, -2+2i) || len(slices.Compact(list)) != 25 {
 		t.Errorf("Square(2): %v", list)
@@ -316,6 +339,30 @@ func TestRows(t *testing.T) {
 		if i > 0 && Alike(m, forms[i-1]) || Alike(m, forms[(i+2)%3]) {
 			t.Errorf("Forms: %d is another one", i)
 		}
+	}
+}
+
+func TestDeterminants(t *testing.T) {
+	a := Rows{{1, 2i, 3}, {0, 2, -1i}, {1i, 1, 4}}
+	Is(t, "Det", Vector(a.Det(), Rows{}.Det(), Rows{{1, 2}, {1i, 0}}.Det()), Vector(8-3i, 1, -2i))
+	Is(t, "Without", Without(a, 1, 0).Whole(), Rows{{2i, 3}, {1, 4}}.Whole())
+	Is(t, "Dets", Vector(a[:2].Dets(2)...), Vector(2, -1i, -4))
+	for want, a := range []Rows{{{0, 0}}, {{2, 1i}, {-2i, 1}}, {{1, 0, 2}, {0, 1, 3}, {1, 1, 5}}} {
+		Is(t, "Rank", a.Rank(), want)
+	}
+	for _, c := range []struct {
+		a, b Rows
+		want bool
+	}{
+		{Rows{{2, 0}, {0, 3}}, Rows{{4i, 3}}, true}, {Rows{{2, 0}, {0, 3}}, Rows{{4i, 3}, {2, 1}}, false}, {Rows{{2, 2}}, Rows{{2i, 2i}}, true},
+		{Rows{{2, 2}}, Rows{{2, 0}}, false}, {Rows{{2, 2}}, Rows{{1, 1}}, false}, {nil, Rows{{0, 0}}, true}, {nil, Rows{{0, 1}}, false}, {Rows{{1, 2}}, nil, true},
+	} {
+		Is(t, "Contains", c.a.Contains(c.b), c.want)
+	}
+	Is(t, "Seen", Seen(api.M{{G(1, -2), api.G{Re: Power2(50)}}, {}}).Whole(), api.M{{G(1, -2), api.G{Re: Power2(50)}}, {}})
+	d := Dice(4)
+	for n := range 6 {
+		Is(t, "Unimodular", Norm(d.Unimodular(n).Det()), 1.0)
 	}
 }
 

@@ -91,3 +91,15 @@ func Dot(u, v []complex128) complex128 {
 	}
 	return sum
 }
+
+// Seen tells a matrix of small numbers as the machine has it.
+func Seen(m api.M) Rows {
+	var list Rows
+	for _, row := range m {
+		list = append(list, make([]complex128, len(row)))
+		for j, x := range row {
+			list[len(list)-1][j] = Machine(x)
+		}
+	}
+	return list
+}
