@@ -62,6 +62,17 @@ func Lists[A any](samples []A, n int) [][]any {
 	return all
 }
 
+// Both lists all pairs of one of each list, each as the arguments of a call.
+func Both[A, B any](first []A, second []B) [][]any {
+	var all [][]any
+	for _, a := range first {
+		for _, b := range second {
+			all = append(all, All(a, b))
+		}
+	}
+	return all
+}
+
 // Check plays all calls with all arguments, and tells where one doesn't keep what the document asks of all calls.
 func Check(t T, calls []Call, samples [][]any) {
 	t.Helper()

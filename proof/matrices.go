@@ -103,3 +103,27 @@ func Matrices() []api.M {
 	}
 	return append(all, Crooked()[:4]...)
 }
+
+// Vectors are ones of all kinds.
+func Vectors() [][]api.G {
+	list := Kinds()
+	return [][]api.G{nil, {}, list[:1], list[6:7], list[10:], list[1:3], list[7:9], list[5:8], {list[0], list[6]}, list[:3], list[5:]}
+}
+
+// Longs are matrices of long numbers, and of numbers with very many noughts at the top.
+func Longs() []api.M {
+	long := api.Z{Neg: true, Mag: slices.Repeat([]uint32{1<<32 - 1, 7, 1 << 31}, 100)}
+	nought := api.Z{Neg: true, Mag: make([]uint32, 1<<16)}
+	three := api.Z{Neg: true, Mag: append([]uint32{3}, make([]uint32, 1<<16)...)}
+	x, y, zero := api.G{Re: long, Im: three}, api.G{Re: three, Im: nought}, api.G{Re: nought, Im: nought}
+	return []api.M{{{x, y}, {zero, x}}, {{zero, zero}, {y, y}}, {{x}}, {{x}, {zero}, {y}}, {{x, x}, {x, x}}, {{zero, x}, {y, zero}}, {{x}, {zero, y}}, nil}
+}
+
+// LongVectors are the first rows of those.
+func LongVectors() [][]api.G {
+	var list [][]api.G
+	for _, m := range Longs()[:4] {
+		list = append(list, m[0])
+	}
+	return list
+}

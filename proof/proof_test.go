@@ -127,6 +127,7 @@ func TestManyArguments(t *testing.T) {
 	if len(lists) != 27 || Show(lists[0]) != Show([]any{api.G{}, api.G{}, api.G{}}) || Show(lists[5]) != Show([]any{api.G{}, G(1, 2), G(-7, 3)}) || Show(lists[26]) != Show([]any{G(-7, 3), G(-7, 3), G(-7, 3)}) {
 		t.Errorf("lists of three: %v", lists)
 	}
+	Is(t, "Both", Show(Both([]int{1, 2}, []string{"a", "b"})[2]), Show(All(2, "a")))
 	meet := func(a, b api.Z) bool { return len(a.Mag) > 0 && len(b.Mag) > 0 && &a.Mag[0] == &b.Mag[0] }
 	for want, play := range map[string]func(a []api.G) []any{
 		"":                       func(a []api.G) []any { return All(Canon(a[2]), len(a)) },
