@@ -122,5 +122,10 @@ func isZero(a api.G) bool { return gint.Equal(a, api.G{}) }
 
 // areZero tells whether all numbers of a vector are 0.
 func areZero(v []api.G) bool {
-	return !slices.ContainsFunc(v, func(x api.G) bool { return !isZero(x) })
+	for _, x := range v {
+		if !isZero(x) {
+			return false
+		}
+	}
+	return true
 }
