@@ -77,7 +77,11 @@ func drawn(d *proof.Dice, rank, width, more int, number func() api.G) known {
 		k.form = append(k.form, append(row, k.vector()[c+1:]...))
 	}
 	k.form = proof.Canon(k.form)
-	k.m = mixed(d, k.form, more, width, number)
+	k.m = proof.Fresh(k.form)
+	for range more {
+		k.m = append(k.m, make([]api.G, width))
+	}
+	k.m = d.Mixed(k.m, number)
 	return k
 }
 
@@ -117,21 +121,4 @@ func sum(v, x []api.G, m api.M) []api.G {
 		}
 	}
 	return all
-}
-
-// mixed tells rows of one module with those of h, and with more of them: changed by steps that can be taken back.
-func mixed(d *proof.Dice, h api.M, more, width int, number func() api.G) api.M {
-	m := proof.Fresh(h)
-	for range more {
-		m = append(m, make([]api.G, width))
-	}
-	n := len(m)
-	for range 3 * n * min(n-1, 1) {
-		i := d.Next(n)
-		j := (i + 1 + d.Next(n-1)) % n
-		m, _ = gmat.AddRow(m, i, j, number())
-		m, _ = gmat.Swap(m, d.Next(n), j)
-		m, _ = gmat.Turn(m, d.Next(n), d.Next(4))
-	}
-	return m
 }

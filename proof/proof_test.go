@@ -367,6 +367,20 @@ func TestDeterminants(t *testing.T) {
 	}
 }
 
+func TestMixed(t *testing.T) {
+	d := Dice(5)
+	small := func() api.G { return Whole(d.Small(2)) }
+	for n := range 5 {
+		a := d.Rows(n, 3, 2)
+		m := a.Whole()
+		mixed := d.Mixed(m, small)
+		Is(t, "what is mixed", m, a.Whole())
+		if b := Seen(mixed); len(b) != n || !a.Contains(b) || !b.Contains(a) || n > 1 && Alike(mixed, m) {
+			t.Errorf("Mixed of %v: %v", a, b)
+		}
+	}
+}
+
 func TestDice(t *testing.T) {
 	d, e := Dice(1), Dice(1)
 	long, zero, below := false, false, false
