@@ -21,9 +21,9 @@ func TestOfLong(t *testing.T) { // P9.1, P9.3: held against what is left of dete
 			m[0] = proof.Must[[]api.G](t)(gmat.Times(d.Vector(n-1, 2), m[1:]))
 		}
 		got, e := gdet.Det(m)
-		proof.Taken(t, "Det of "+show(m), got, e, detOf(m))
+		proof.Taken(t, "Det of "+proof.Told(m), got, e, detOf(m))
 		adjugate, e := gdet.Adjugate(m)
-		proof.Taken(t, "Adjugate of "+show(m), adjugate, e, adjugateOf(m))
+		proof.Taken(t, "Adjugate of "+proof.Told(m), adjugate, e, adjugateOf(m))
 	}
 }
 
@@ -34,7 +34,7 @@ func TestLawsOfDet(t *testing.T) { // P9.5
 		a, b, q := d.M(n, n, 3), d.M(n, n, 2), d.G(3)
 		i := d.Next(n)
 		j := (i + 1 + d.Next(n-1)) % n
-		of, what := det(gdet.Det(a)), " of "+show(a)
+		of, what := det(gdet.Det(a)), " of "+proof.Told(a)
 		proof.Is(t, "Det of a product"+what, det(gdet.Det(ok(gmat.Mul(a, b)))), gint.Mul(of, det(gdet.Det(b))))
 		proof.Is(t, "Det with two rows exchanged"+what, det(gdet.Det(ok(gmat.Swap(a, i, j)))), gint.Neg(of))
 		proof.Is(t, "Det with a multiple of a row added"+what, det(gdet.Det(ok(gmat.AddRow(a, i, j, q)))), of)
@@ -67,17 +67,17 @@ func TestLawsOfRank(t *testing.T) { // P9.5
 			m = ok(gmat.Mul(left, right))
 		}
 		rank, e := gdet.Rank(m)
-		proof.Taken(t, "Rank of "+show(m), rank, e, r)
+		proof.Taken(t, "Rank of "+proof.Told(m), rank, e, r)
 		rank, e = gdet.Rank(ok(gmat.Trans(m)))
-		proof.Taken(t, "Rank of Trans of "+show(m), rank, e, r)
+		proof.Taken(t, "Rank of Trans of "+proof.Told(m), rank, e, r)
 		list := proof.Must[[]api.Z](t)(gdet.Minors(m))
 		all := proof.Must[bool](t)(gdet.Independent(m))
 		if all != (r == height) || all != (zint.Sign(list[height]) != 0) {
-			t.Errorf("Independent of %s: %v; Minors: %v", show(m), all, list)
+			t.Errorf("Independent of %s: %v; Minors: %v", proof.Told(m), all, list)
 		}
 		for k, x := range list {
 			if zint.Sign(x) < 0 || all && zint.Sign(x) == 0 || k > 0 && zint.Sign(list[k-1]) == 0 && zint.Sign(x) != 0 {
-				t.Errorf("Minors of %s: %v", show(m), list)
+				t.Errorf("Minors of %s: %v", proof.Told(m), list)
 			}
 		}
 	}
@@ -108,7 +108,7 @@ func TestMinorsAreProducts(t *testing.T) { // P9.5: of the first k |b*_j|^2
 		list, product := proof.Must[[]api.Z](t)(gdet.Minors(m)), proof.Q(1, 1)
 		for k, v := range uprights(t, m) {
 			product = rational(frac.Mul(product, lengthOf(t, v)))
-			proof.Is(t, "Minors of "+show(m), api.Q{Num: list[k+1], Den: proof.Z(1)}, product)
+			proof.Is(t, "Minors of "+proof.Told(m), api.Q{Num: list[k+1], Den: proof.Z(1)}, product)
 		}
 	}
 }
@@ -119,11 +119,11 @@ func TestInverseOfLong(t *testing.T) { // P9.3: of ones changed by steps on rows
 		n := 2 + d.Next(5)
 		m, back := unwound(t, &d, n, 3*n, 2)
 		got, e := gdet.Inverse(m)
-		proof.Taken(t, "Inverse of "+show(m), got, e, back)
+		proof.Taken(t, "Inverse of "+proof.Told(m), got, e, back)
 		got, e = gdet.Inverse(back)
-		proof.Taken(t, "Inverse of the inverse of "+show(m), got, e, m)
+		proof.Taken(t, "Inverse of the inverse of "+proof.Told(m), got, e, m)
 		m[d.Next(n)] = ok(gmat.Scale(m, g(1, 1)))[0]
 		got, e = gdet.Inverse(m)
-		proof.Refused(t, "Inverse of "+show(m), got, e, api.ErrNone)
+		proof.Refused(t, "Inverse of "+proof.Told(m), got, e, api.ErrNone)
 	}
 }

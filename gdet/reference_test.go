@@ -1,8 +1,6 @@
 package gdet_test
 
 import (
-	"fmt"
-
 	"tessel/api"
 	"tessel/frac"
 	"tessel/gfrac"
@@ -155,16 +153,4 @@ func rationals(v []api.G) []api.C {
 		list = append(list, gfrac.Of(x))
 	}
 	return list
-}
-
-// show tells a matrix of long numbers for one who reads a fault.
-func show(m api.M) string {
-	text := ""
-	for _, row := range m {
-		for _, x := range row {
-			text += " " + gint.Text(x)
-		}
-		text += ";"
-	}
-	return fmt.Sprint(len(m), " rows:", text)
 }

@@ -108,14 +108,14 @@ func TestSolveLong(t *testing.T) { // P9.4: the sum of the rows, each times its 
 		if is, _ := gdet.Independent(m); !is {
 			continue
 		}
-		proof.Is(t, fmt.Sprintf("Solve of %s and %s", show(m), show(api.M{v})), made(t, ok(gdet.Solve(m, v)), m), rationals(proof.Canon(v)))
+		proof.Is(t, fmt.Sprintf("Solve of %s and %s", proof.Told(m), proof.Told(api.M{v})), made(t, ok(gdet.Solve(m, v)), m), rationals(proof.Canon(v)))
 	}
 	for range 60 {
 		m := api.M{d.Vector(5, 3), d.Vector(5, 4), d.Vector(5, 5)}
 		x := []api.G{d.G(4), d.G(5), d.G(6)}
 		v := proof.Must[[]api.G](t)(gmat.Times(x, m))
 		if is, _ := gdet.Independent(m); is {
-			proof.Is(t, fmt.Sprintf("Solve of %s and a sum of its rows", show(m)), ok(gdet.Solve(m, v)), rationals(proof.Canon(x)))
+			proof.Is(t, fmt.Sprintf("Solve of %s and a sum of its rows", proof.Told(m)), ok(gdet.Solve(m, v)), rationals(proof.Canon(x)))
 		}
 	}
 	one := gfrac.Of(g(1, 0))

@@ -14,7 +14,7 @@ func TestExamples(t *testing.T) { // the chapter's table
 		{rows{{4}, {6i}}, rows{{2}}}, {rows{{1 + 1i}, {3}}, rows{{1}}}, {rows{{3, 5}, {0, 2}}, rows{{3, -1}, {0, 2}}},
 	} {
 		form, e := ghnf.Form(c.m.Whole())
-		proof.Taken(t, "Form of "+show(c.m.Whole()), form, e, c.form.Whole())
+		proof.Taken(t, "Form of "+proof.Told(c.m.Whole()), form, e, c.form.Whole())
 	}
 	pivots, e := ghnf.Pivots(rows{{0, 0, 7}, {0, 0, 3}}.Whole())
 	proof.Taken(t, "Pivots({{0, 0, 7}, {0, 0, 3}})", pivots, e, []int{2})

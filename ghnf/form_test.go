@@ -34,7 +34,7 @@ func TestForm(t *testing.T) { // P10.1: of small matrices: it is in Hermite form
 func TestKnownForms(t *testing.T) { // P10.1, P10.3: of matrices made of one in Hermite form
 	d := proof.Dice(1)
 	for _, k := range modules(&d) {
-		what := " of " + show(k.m)
+		what := " of " + proof.Told(k.m)
 		for _, m := range []api.M{k.m, k.form, proof.Longer(k.m), proof.Longer(k.form)} {
 			form, e := ghnf.Form(m)
 			proof.Taken(t, "Form"+what, form, e, k.form)
@@ -72,7 +72,7 @@ func TestSame(t *testing.T) { // P10.1
 				ends[want]++
 				for _, pair := range [][2]api.M{{a.m, b.m}, {a.form, b.m}, {a.m, proof.Longer(b.form)}} {
 					got, e := ghnf.Same(pair[0], pair[1])
-					proof.Taken(t, fmt.Sprint("Same of ", show(a.m), " and ", show(b.m)), got, e, want)
+					proof.Taken(t, fmt.Sprint("Same of ", proof.Told(a.m), " and ", proof.Told(b.m)), got, e, want)
 				}
 			}
 		}
@@ -96,6 +96,6 @@ func TestIndexCounts(t *testing.T) { // P10.3: so many rests there are
 			rests[proof.Show(proof.Must[[]api.G](t)(ghnf.Rest(m, proof.Vector(numbers...))))] = true
 		}
 		got, e := ghnf.Index(m)
-		proof.Taken(t, "Index of "+show(m), got, e, proof.Z(int64(len(rests))))
+		proof.Taken(t, "Index of "+proof.Told(m), got, e, proof.Z(int64(len(rests))))
 	}
 }

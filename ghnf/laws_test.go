@@ -16,7 +16,7 @@ func TestOneForm(t *testing.T) { // P10.4: whatever of the rows is changed that 
 	for k := range 120 {
 		height, width := 2+d.Next(4), 1+d.Next(5)
 		m := d.M(height, width, k%4)
-		form, what := ok(ghnf.Form(m)), " of "+show(m)
+		form, what := ok(ghnf.Form(m)), " of "+proof.Told(m)
 		i := d.Next(height)
 		j := (i + 1 + d.Next(height-1)) % height
 		member := sum(make([]api.G, width), d.Vector(height, 2), m)
@@ -47,9 +47,9 @@ func TestIndexOfSquares(t *testing.T) { // P10.4: the norm of the determinant
 		index, e := ghnf.Index(m)
 		if isZero(det) {
 			infinite++
-			proof.Refused(t, "Index of "+show(m), index, e, api.ErrNone)
+			proof.Refused(t, "Index of "+proof.Told(m), index, e, api.ErrNone)
 		} else {
-			proof.Taken(t, "Index of "+show(m), index, e, gint.Norm(det))
+			proof.Taken(t, "Index of "+proof.Told(m), index, e, gint.Norm(det))
 		}
 	}
 	if infinite < 10 || infinite > 60 {
@@ -73,7 +73,7 @@ func TestRestsOfMembers(t *testing.T) { // P10.4: a vector less its rest is a me
 		one := proof.Alike(ok(ghnf.Rest(m, v)), rest)
 		ends[one]++
 		if one != (e == api.OK) {
-			t.Errorf("Rest of %s: of two vectors one: %v; Member of what they differ by: error %d", show(m), one, e)
+			t.Errorf("Rest of %s: of two vectors one: %v; Member of what they differ by: error %d", proof.Told(m), one, e)
 		}
 	}
 	if ends[true] < 10 || ends[false] < 10 {

@@ -14,7 +14,7 @@ import (
 func lifts(t *testing.T, m api.M, v []api.G) {
 	t.Helper()
 	y, e := ghnf.Lift(m, v)
-	what := fmt.Sprint("Lift of ", show(m), " and ", show(api.M{v}))
+	what := fmt.Sprint("Lift of ", proof.Told(m), " and ", proof.Told(api.M{v}))
 	if e != api.OK || len(y) != len(m) || !proof.Alike(y, proof.Canon(y)) {
 		t.Errorf("%s: %v, error %d", what, y, e)
 		return
@@ -28,7 +28,7 @@ func TestMember(t *testing.T) { // P10.2: of known forms
 		x := proof.Canon(k.vector()[:len(k.form)])
 		for _, v := range [][]api.G{k.combined(x), proof.Longer(k.combined(x))} {
 			got, e := ghnf.Member(k.m, v)
-			proof.Taken(t, fmt.Sprint("Member of ", show(k.m), " and ", show(api.M{v})), got, e, x)
+			proof.Taken(t, fmt.Sprint("Member of ", proof.Told(k.m), " and ", proof.Told(api.M{v})), got, e, x)
 			lifts(t, k.m, v)
 		}
 		for _, row := range k.m {
@@ -45,7 +45,7 @@ func TestRest(t *testing.T) { // P10.2: what is no member is its rest and a memb
 			rest[c], _ = gres.Reduce(rest[c], k.form[i][c])
 		}
 		v := sum(rest, k.vector(), k.form)
-		what := fmt.Sprint(" of ", show(k.m), " and ", show(api.M{v}))
+		what := fmt.Sprint(" of ", proof.Told(k.m), " and ", proof.Told(api.M{v}))
 		for _, m := range []api.M{k.m, k.form, proof.Longer(k.m)} {
 			for _, v := range [][]api.G{v, rest, proof.Longer(v)} {
 				got, e := ghnf.Rest(m, v)

@@ -1,12 +1,10 @@
 package ghnf_test
 
 import (
-	"fmt"
 	"slices"
 
 	"tessel/api"
 	"tessel/gint"
-	"tessel/gmat"
 	"tessel/gres"
 	"tessel/proof"
 )
@@ -14,12 +12,6 @@ import (
 type rows = proof.Rows
 
 func g(re, im int64) api.G { return proof.G(re, im) }
-
-// show tells a matrix for one who reads a fault.
-func show(m api.M) string {
-	text, _ := gmat.Text(m)
-	return fmt.Sprint(len(m), " rows: ", text)
-}
 
 // isForm tells whether a matrix is in Hermite form, by the document's words.
 func isForm(h rows) bool {

@@ -31,18 +31,18 @@ func TestExponent(t *testing.T) { // P11.2: it takes all vectors into the module
 		last, e := gsmith.Exponent(m)
 		ends[e]++
 		if e != api.OK {
-			proof.Refused(t, "Exponent of "+show(m), last, e, api.ErrNone)
+			proof.Refused(t, "Exponent of "+proof.Told(m), last, e, api.ErrNone)
 			index, e := ghnf.Index(m)
-			proof.Refused(t, "Index of "+show(m), index, e, api.ErrNone)
+			proof.Refused(t, "Index of "+proof.Told(m), index, e, api.ErrNone)
 			continue
 		}
 		_, primes, e := gprime.Factor(last)
 		if first, _ := gint.Canon(last); e != api.OK || !proof.Alike(first, last) || !takesAll(m, last) {
-			t.Errorf("Exponent of %s: %s, error %d", show(m), gint.Text(last), e)
+			t.Errorf("Exponent of %s: %s, error %d", proof.Told(m), gint.Text(last), e)
 		}
 		for _, power := range primes {
 			if part, _ := gint.Exact(last, power.P); takesAll(m, part) {
-				t.Errorf("Exponent of %s: %s, though %s does", show(m), gint.Text(last), gint.Text(part))
+				t.Errorf("Exponent of %s: %s, though %s does", proof.Told(m), gint.Text(last), gint.Text(part))
 			}
 		}
 	}

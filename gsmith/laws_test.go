@@ -24,7 +24,7 @@ func TestOneList(t *testing.T) { // P11.3: for a matrix, its transpose, and time
 		u, v := d.Unimodular(high).Whole(), d.Unimodular(wide).Whole()
 		for _, other := range []api.M{ok(gmat.Trans(m)), ok(gmat.Mul(u, m)), ok(gmat.Mul(m, v)), ok(gmat.Mul(ok(gmat.Mul(u, m)), v)), ok(ghnf.Form(m))} {
 			got, e := gsmith.Factors(other)
-			proof.Taken(t, "Factors of "+show(other)+", made of "+show(m), got, e, list)
+			proof.Taken(t, "Factors of "+proof.Told(other)+", made of "+proof.Told(m), got, e, list)
 		}
 	}
 }
@@ -38,14 +38,14 @@ func TestProduct(t *testing.T) { // P11.3: its norm is Index
 		last, f := gsmith.Exponent(m)
 		if e != api.OK {
 			infinite++
-			proof.Refused(t, "Exponent of "+show(m), last, f, e)
+			proof.Refused(t, "Exponent of "+proof.Told(m), last, f, e)
 			continue
 		}
 		product := g(1, 0)
 		for _, x := range proof.Must[[]api.G](t)(gsmith.Factors(m)) {
 			product = gint.Mul(product, x)
 		}
-		proof.Is(t, "the norm of all factors of "+show(m), gint.Norm(product), index)
+		proof.Is(t, "the norm of all factors of "+proof.Told(m), gint.Norm(product), index)
 	}
 	if infinite < 10 || infinite > 100 {
 		t.Errorf("%d of 120 are infinite", infinite)
@@ -67,12 +67,12 @@ func TestFirst(t *testing.T) { // P11.3: the greatest common divisor of all numb
 			proof.Is(t, "the divisor of no factors", divisor, api.G{})
 			continue
 		}
-		proof.Is(t, "the first factor of "+show(m), list[0], divisor)
+		proof.Is(t, "the first factor of "+proof.Told(m), list[0], divisor)
 		for i, x := range list {
 			first, _ := gint.Canon(x)
-			proof.Is(t, "a factor of "+show(m), x, first)
+			proof.Is(t, "a factor of "+proof.Told(m), x, first)
 			if _, e := gint.Exact(x, list[max(i-1, 0)]); e != api.OK {
-				t.Errorf("Factors of %s: error %d at %d", show(m), e, i)
+				t.Errorf("Factors of %s: error %d at %d", proof.Told(m), e, i)
 			}
 		}
 	}

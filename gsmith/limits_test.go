@@ -19,14 +19,14 @@ func TestMostRows(t *testing.T) { // P11.1, P11.2: of as many rows or columns as
 }
 
 func TestMostOfPowers(t *testing.T) { // P11.1: of twos that rise, in the wrong order; of primes to one another
-	falling := blank(most, most)
+	falling := proof.Blank(most, most)
 	var powers []api.G
 	for i := range falling {
 		falling[i][most-1-i] = api.G{Im: proof.Power2((7 * i) % most)}
 		powers = append(powers, api.G{Re: proof.Power2(i)})
 	}
 	holds(t, falling, powers)
-	primes, product := blank(most, most), int64(1)
+	primes, product := proof.Blank(most, most), int64(1)
 	for i := range most {
 		primes[i][i] = g(1, 0)
 	}

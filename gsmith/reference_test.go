@@ -1,7 +1,6 @@
 package gsmith_test
 
 import (
-	"fmt"
 	"testing"
 
 	"tessel/api"
@@ -16,24 +15,9 @@ type rows = proof.Rows
 
 func g(re, im int64) api.G { return proof.G(re, im) }
 
-// show tells a matrix for one who reads a fault.
-func show(m api.M) string {
-	text, _ := gmat.Text(m)
-	return fmt.Sprint(len(m), " rows: ", text)
-}
-
-// blank tells a matrix of noughts.
-func blank(high, wide int) api.M {
-	m := make(api.M, high)
-	for i := range m {
-		m[i] = make([]api.G, wide)
-	}
-	return m
-}
-
 // diagonal tells the matrix that has these numbers on its diagonal.
 func diagonal(high, wide int, numbers ...api.G) api.M {
-	m := blank(high, wide)
+	m := proof.Blank(high, wide)
 	for i, x := range numbers {
 		m[i][i] = x
 	}
@@ -64,7 +48,7 @@ func factors(a rows) []api.G {
 // holds tells where the calls of a matrix are not what its factors tell.
 func holds(t *testing.T, m api.M, factors []api.G) {
 	t.Helper()
-	what := " of " + show(m)
+	what := " of " + proof.Told(m)
 	list, e := gsmith.Factors(m)
 	proof.Taken(t, "Factors"+what, list, e, factors)
 	last, e := gsmith.Exponent(m)
@@ -89,7 +73,7 @@ func isUnimodular(t *testing.T, what string, m api.M, n int) {
 	t.Helper()
 	index, e := ghnf.Index(m)
 	if e != api.OK || len(m) != n || width(m) != n || !proof.Alike(index, proof.Z(1)) || !proof.Alike(m, proof.Canon(m)) {
-		t.Errorf("%s: %s: its index: %v, error %d", what, show(m), index, e)
+		t.Errorf("%s: %s: its index: %v, error %d", what, proof.Told(m), index, e)
 	}
 }
 

@@ -2,8 +2,11 @@ package proof
 
 import (
 	"slices"
+	"strconv"
+	"strings"
 
 	"tessel/api"
+	"tessel/gint"
 )
 
 // Vector tells the machine's numbers as the program has them.
@@ -20,6 +23,15 @@ func Matrix(rows ...[]complex128) api.M {
 	m := make(api.M, len(rows))
 	for i, row := range rows {
 		m[i] = Vector(row...)
+	}
+	return m
+}
+
+// Blank tells a matrix of noughts.
+func Blank(rows, cols int) api.M {
+	m := make(api.M, rows)
+	for i := range m {
+		m[i] = make([]api.G, cols)
 	}
 	return m
 }
@@ -104,6 +116,15 @@ func Matrices() []api.M {
 	return append(all, Crooked()[:4]...)
 }
 
+// Modules are matrices of all kinds, such as are diagonal or in Hermite form among them, and such as are not good.
+func Modules() []api.M {
+	nought, two, d := Longer(G(0, 0)), Longer(G(2, 0)), Dice(11)
+	return append(Matrices(),
+		api.M{{two, nought}, {nought, Longer(G(6, 0))}}, api.M{{two, nought}, {nought, G(0, -3)}}, api.M{{G(1, 0), nought}, {nought, G(1, 0)}}, api.M{{G(1, 0), d.G(5)}, {nought, two}},
+		api.M{{nought}}, api.M{{G(0, -1)}}, api.M{{G(5, 3)}, {nought}}, api.M{{nought, nought, two}}, api.M{{nought, nought}, {G(3, 0), d.G(2)}, {nought, two}}, d.M(3, 4, 2), d.M(4, 2, 2),
+	)
+}
+
 // Vectors are ones of all kinds.
 func Vectors() [][]api.G {
 	list := Kinds()
@@ -126,4 +147,21 @@ func LongVectors() [][]api.G {
 		list = append(list, m[0])
 	}
 	return list
+}
+
+// Told tells matrices for one who reads a fault: of large ones the beginning.
+func Told(matrices ...api.M) string {
+	const most = 8
+	var texts []string
+	for _, m := range matrices {
+		text := strconv.Itoa(len(m)) + " rows:"
+		for _, row := range m[:min(len(m), most)] {
+			for _, x := range row[:min(len(row), most)] {
+				text += " " + gint.Text(x)
+			}
+			text += ";"
+		}
+		texts = append(texts, text)
+	}
+	return strings.Join(texts, " and ")
 }

@@ -293,6 +293,12 @@ func TestMachine(t *testing.T) {
 func TestMatrices(t *testing.T) {
 	Is(t, "Vector", Vector(1, -2i), []api.G{G(1, 0), G(0, -2)})
 	Is(t, "Matrix", Matrix([]complex128{1 + 2i}, nil, []complex128{0, -3}), api.M{{G(1, 2)}, {}, {G(0, 0), G(-3, 0)}})
+	Is(t, "Blank", Blank(2, 3), Rows{{0, 0, 0}, {0, 0, 0}}.Whole())
+	Is(t, "Blank", Show(Blank(2, 0)), Show(api.M{{}, {}}))
+	Is(t, "Told", Told(nil, api.M{{G(1, 2), Longer(G(0, -3))}, {}}), "0 rows: and 2 rows: 1+2i -3i;;")
+	if text := Told(Blank(9, 9)); strings.Count(text, " 0") != 64 || strings.Count(text, ";") != 8 {
+		t.Errorf("Told: %s", text)
+	}
 	for _, m := range Crooked() {
 		even := true
 		for _, row := range m {
